@@ -1,0 +1,106 @@
+"""Point 4: at most 60 are open at once, and tuples are nested at most 100 deep."""
+
+import unittest
+
+from tablestack.errors import TextError
+from tablestack.parser import parse, parse_expression, parse_script
+
+
+def nested(opening, inner, closing, many):
+    return opening * many + inner + closing * many
+
+
+class OpenTest(unittest.TestCase):
+    """Each form is a text that opens one more each time, and how many are open within it besides."""
+
+    def check(self, read, build, beside):
+        build_last = 60 - beside
+        read(build(build_last))
+        for many in (build_last + 1, build_last + 2, build_last + 40):
+            with self.assertRaises(TextError, msg=build(many)):
+                read(build(many))
+
+    def test_brackets(self):
+        self.check(parse_expression, lambda many: nested("(", "a", ")", many), 1)
+        self.check(parse_expression, lambda many: nested("(", "null", ")", many) + " is null", 1)
+
+    def test_nots_and_minuses(self):
+        self.check(parse_expression, lambda many: nested("not ", "a", "", many), 1)
+        self.check(parse_expression, lambda many: nested("- ", "a", "", many), 1)
+
+    def test_a_minus_of_a_number_is_not_open(self):
+        self.check(parse_expression, lambda many: nested("- ", "-5", "", many), 1)
+        self.check(parse_expression, lambda many: nested("(", "-5", ")", many), 1)
+
+    def test_nots_minuses_and_brackets_together(self):
+        self.check(parse_expression, lambda many: nested("not ", nested("(", nested("- ", "a", "", 20), ")", 20), "", many), 41)
+
+    def test_members_arguments_and_arms(self):
+        self.check(parse_expression, lambda many: nested("count(", "a", ")", many), 1)
+        self.check(parse_expression, lambda many: "a in (" + nested("(", "a", ")", many) + ")", 2)
+        self.check(parse_expression, lambda many: "a in (b, " + nested("(", "a", ")", many) + ")", 2)
+        self.check(parse_expression, lambda many: "case when " + nested("(", "a", ")", many) + " then b else c end", 2)
+        self.check(parse_expression, lambda many: "case when a then " + nested("(", "b", ")", many) + " else c end", 2)
+        self.check(parse_expression, lambda many: "case when a then b else " + nested("(", "c", ")", many) + " end", 2)
+
+    def test_operands_are_not_open(self):
+        for form in ("a + {}", "a = {}", "a or b and {}", "a between {} and c", "a between b and {}", "a like {}"):
+            self.check(parse_expression, lambda many, form=form: form.format(nested("(", "a", ")", many)), 1)
+
+    def test_what_was_closed_is_not_open(self):
+        parse_expression(" + ".join(["(a)"] * 90))
+        parse_expression("a in (" + ", ".join(["(a)"] * 500) + ")")
+        parse_expression(" and ".join(["not a"] * 90))
+        parse_expression("a in (" + ", ".join(["-a", "not b", "(select 1)"] * 100) + ")")
+
+    def test_queries(self):
+        self.check(parse_expression, lambda many: "(select " + nested("(", "a", ")", many) + ")", 3)
+        self.check(parse_expression, lambda many: "exists (select " + nested("(", "a", ")", many) + ")", 3)
+        self.check(parse_expression, lambda many: "a in (select " + nested("(", "a", ")", many) + ")", 3)
+
+    def test_clauses_of_a_query(self):
+        for form in ("select {}", "select a, {} as b", "select a from t where {}", "select a from t join u on {}",
+                     "select a from t group by a, {}", "select a from t having {}", "select a order by {}",
+                     "select a order by a, {} desc", "explain select {}", "create view v as select {}",
+                     "insert into t select {}", "select 1 union select {}"):
+            self.check(parse, lambda many, form=form: form.format(nested("(", "a", ")", many)), 2)
+        self.check(parse, lambda many: "select a from (select " + nested("(", "a", ")", many) + ") as t", 3)
+
+    def test_clauses_of_statements(self):
+        for form in ("insert into t values ({})", "insert into t values (1, {})", "update t set a = {}",
+                     "update t set a = 1, b = {}", "update t set a = 1 where {}", "delete from t where {}",
+                     "create table t (a int, check ({}))"):
+            self.check(parse, lambda many, form=form: form.format(nested("(", "a", ")", many)), 1)
+            self.check(parse_script, lambda many, form=form: "begin;" + form.format(nested("not ", "a", "", many)), 1)
+
+
+class NestedTest(unittest.TestCase):
+    def check(self, read, build, last):
+        read(build(last))
+        for many in (last + 1, last + 2, last + 3000):
+            with self.assertRaises(TextError):
+                read(build(many))
+
+    def test_operators(self):
+        for sign in (" + ", " || ", " * ", " mod ", " or ", " and "):
+            self.check(parse_expression, lambda many, sign=sign: sign.join(["a"] * many), 100)
+        self.check(parse_expression, lambda many: "a = " + " - ".join(["b"] * many), 99)
+        self.check(parse_expression, lambda many: "a in (1, " + " - ".join(["b"] * many) + ")", 98)
+
+    def test_statements(self):
+        self.check(parse, lambda many: "select " + " + ".join(["a"] * many), 96)
+        self.check(parse, lambda many: "select 1 where " + " + ".join(["a"] * many), 98)
+        self.check(parse, lambda many: " union ".join(["select a"] * many), 96)
+        self.check(parse, lambda many: "delete from t where " + " + ".join(["a"] * many), 99)
+        self.check(parse, lambda many: "update t set a = " + " + ".join(["a"] * many), 97)
+        self.check(parse_script, lambda many: "begin; delete from t where " + " + ".join(["a"] * many), 99)
+        self.check(parse, lambda many: "select a from " + ", ".join([f"t as t{at}" for at in range(many)]), 98)
+
+    def test_length_alone_is_not_deep(self):
+        parse("select " + ", ".join(["a"] * 3000))
+        parse("insert into t values " + ", ".join(["(1, 2)"] * 3000))
+        parse_script("begin; commit;" * 1000)
+
+
+if __name__ == "__main__":
+    unittest.main()
