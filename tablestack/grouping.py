@@ -2,7 +2,7 @@
 
 from tablestack.binder import Binder, aggregate_kind
 from tablestack.errors import KindFault, NameFault
-from tablestack.plans import bound_parts
+from tablestack.plans import bound_parts, fields_in
 from tablestack.scope import Scope
 
 
@@ -36,7 +36,7 @@ class GroupBinder(Binder):
         """Return (bound expression, kind) of a key, an aggregate or an outer column, None for what is put together."""
         if tree[0] == "agg":
             return self.called(tree)
-        found = self.key_field(tree)
+        found = self.bound_whole(tree)
         if found is not None or tree[0] != "col":
             return found
         found, kind = self.inner.bound(tree)
@@ -44,16 +44,21 @@ class GroupBinder(Binder):
             raise NameFault(f"{tree[2]} is neither a key nor within an aggregate")
         return (found, kind)
 
-    def key_field(self, tree):
-        """Return (field, kind) of the key that an expression is, None if it is none."""
-        # Only what has the form of a key is bound for this, as the names in other queries may be unknown here.
+    def bound_whole(self, tree):
+        """Return (bound expression, kind) of an expression that has the form of a key, None if it is none.
+
+        What reads no row of the select is the same for its groups, and need not be bound again.
+        """
         if not any(group[0] == tree[0] for group in self.groups):
             return None
         try:
-            bound, _ = self.inner.bound(tree)
+            bound, kind = self.inner.bound(tree)
         except (NameFault, KindFault):
             return None
-        return self.same_key(bound)
+        found = self.same_key(bound)
+        if found is None and fields_in(bound) == ():
+            return (bound, kind)
+        return found
 
     def same_key(self, bound):
         """Return (field, kind) of the key with a bound expression, None if there is none."""
