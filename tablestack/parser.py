@@ -6,7 +6,6 @@ from tablestack.syntax import QueryReader
 
 MOST_NESTED = 100
 KINDS = {INT_KIND: "int", "text": "text"}
-SIMPLE = ("begin", "commit", "rollback")
 
 
 def parse(text):

@@ -10,7 +10,6 @@ from tablestack.errors import PlanFault
 
 MOST_PARTS = 3000
 MOST_DEEP = 200
-COMBINATIONS = ("union", "except", "intersect")
 # Where a plan's inputs stand in it; they are its last members.
 INPUT_PLACES = {
     "unit": 1, "scan": 3, "filter": 2, "project": 2, "join": 3, "group": 3, "distinct": 1, "union": 2, "except": 2,
@@ -142,6 +141,13 @@ def own_plans(tree):
     return ()
 
 
+def part_places(tree):
+    """Return where the direct subexpressions of a bound expression begin and end; raise PlanFault for another tree."""
+    if tree[0] not in PART_PLACES:
+        raise PlanFault(f"there is no bound expression {tree[0]}")
+    return PART_PLACES[tree[0]]
+
+
 def bound_parts(tree):
     """Return the direct subexpressions of a bound expression, plans left out."""
     if tree[0] == "in":
@@ -149,9 +155,7 @@ def bound_parts(tree):
     if tree[0] == "case":
         arms = [part for arm in tree[1] for part in arm]
         return (*arms, tree[2])
-    if tree[0] not in PART_PLACES:
-        raise PlanFault(f"there is no bound expression {tree[0]}")
-    start, end = PART_PLACES[tree[0]]
+    start, end = part_places(tree)
     return tree[start:end]
 
 
@@ -162,9 +166,7 @@ def with_bound_parts(tree, inner):
     if tree[0] == "case":
         arms = [(inner[2 * at], inner[2 * at + 1]) for at in range(len(tree[1]))]
         return ("case", tuple(arms), inner[-1])
-    if tree[0] not in PART_PLACES:
-        raise PlanFault(f"there is no bound expression {tree[0]}")
-    start, end = PART_PLACES[tree[0]]
+    start, end = part_places(tree)
     return (*tree[:start], *inner, *tree[end:])
 
 

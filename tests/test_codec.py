@@ -104,7 +104,7 @@ class KeyTest(unittest.TestCase):
 
     def test_bytes_that_are_no_key(self):
         wrong = ((0,), (4,), (255,), (2,), (2, 0, 0, 0, 0, 0, 0, 0), (2, *[255] * 8), (3,), (3, 50), (3, 0, 1),
-                 (3, 97, 1), (3, 255, 1), (1, 9))
+                 (3, 97, 1), (3, 255, 1), (1, 9), (4, 1), (0, 1), (4, 50, 1))
         for data in wrong:
             with self.assertRaises(RecordFault, msg=data):
                 values_from_key(data)
@@ -146,8 +146,9 @@ class RecordTest(unittest.TestCase):
         self.assertEqual(value_from_record(data, 1), (5, 3))
         self.assertEqual(value_from_record(data, 3), ("ab", 7))
         self.assertEqual(value_from_record(data, 7), (None, 8))
-        with self.assertRaises(RecordFault):
-            value_from_record(data, 8)
+        for data, place in ((data, 8), ((3, 1), 0), ((3, 5, 40), 0), ((3, 2, 40), 0), ((2,), 0), ((9, 0), 0), ((4, 1, 1), 0)):
+            with self.assertRaises(RecordFault, msg=data):
+                value_from_record(data, place)
 
     def test_bytes_that_are_no_record(self):
         wrong = ((), (1,), (1, 0), (1, 4, 0), (1, 2), (1, 2, 128), (1, 2, 128, 0), (128, 0), (0, 1), (1, 1, 1), (2, 1),

@@ -45,6 +45,15 @@ class NamesTest(unittest.TestCase):
                          ["select", "select", "select", "from", "text", "mod", "null"])
         self.assertEqual(words("int INT 5")[:-1], ["kind int", "kind int", "int"])
 
+    def test_keywords_are_no_names(self):
+        for word in ("select distinct from where group by having order desc limit offset union all except intersect as join left "
+                     "on and or not is null in between like case when then else end exists insert into values update set delete "
+                     "create table int text primary key unique foreign references check default index view drop analyze begin "
+                     "commit rollback to savepoint release explain mod").split():
+            self.assertFalse(is_plain_name(word), word)
+            for text in (word, word.upper()):
+                self.assertEqual(words(text), ["kind int" if word == "int" else word, "end of text"])
+
     def test_is_plain_name(self):
         for text in ("a", "_", "a_1", "_9", "abc", "selects", "name", "quoted"):
             self.assertTrue(is_plain_name(text), text)

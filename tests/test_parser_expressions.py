@@ -69,7 +69,7 @@ class OperandTest(ExpressionTest):
 
     def test_brackets(self):
         self.check((("(a)", A), ("((a))", A), ("(1)", ONE), ("(((null)))", ("null",)), ("(a or b) and c", ("and", ("or", A, B), C))))
-        self.refuse(("()", "(", ")", "(a", "a)", "((a)", "(a))", "(a, b)", "(a b)", ")a(", "(a)(b)"))
+        self.refuse(("()", "(", ")", "(a", "a)", "((a)", "((a", "(((a", "(a))", "(a, b)", "(a b)", ")a(", "(a)(b)"))
 
 
 class OperatorTest(ExpressionTest):
@@ -159,7 +159,7 @@ class OperatorTest(ExpressionTest):
                     ("(((select 1) union select 2))", ("scalar", union)),
                     ("((select 1) limit 5)", ("scalar", (*query(ONE)[:3], 5, 0)))))
         self.refuse(("select 1", "exists select 1", "exists (1)", "exists (a)", "exists", "exists ()", "(select)", "(select 1",
-                     "select 1)", "exists (select 1", "(select 1) (select 2)", "((select 1) select 2)", "exists exists (select 1)"))
+                     "select 1)", "exists (select 1", "((select 1", "((select 1)", "a in ((select 1", "(select 1) (select 2)", "((select 1) select 2)", "exists exists (select 1)"))
 
     def test_capitals_and_gaps(self):
         self.check((("NOT A IN(1)AND B IS NOT NULL", ("and", ("not", ("in", A, (ONE,), False)), ("isnull", B, True))),

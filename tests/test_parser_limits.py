@@ -58,6 +58,13 @@ class OpenTest(unittest.TestCase):
         self.check(parse_expression, lambda many: "exists (select " + nested("(", "a", ")", many) + ")", 3)
         self.check(parse_expression, lambda many: "a in (select " + nested("(", "a", ")", many) + ")", 3)
 
+    def test_brackets_around_selects_and_joins(self):
+        self.check(parse, lambda many: nested("(", "select a", ")", many), 2)
+        self.check(parse, lambda many: "select a union " + nested("(", "select a union select b", ")", many), 2)
+        self.check(parse, lambda many: "select a from " + nested("(", "t, u", ")", many), 1)
+        parse("select a union " + " union ".join(["(select b)"] * 90))
+        parse("select a from " + ", ".join(["(t, u)"] * 90))
+
     def test_clauses_of_a_query(self):
         for form in ("select {}", "select a, {} as b", "select a from t where {}", "select a from t join u on {}",
                      "select a from t group by a, {}", "select a from t having {}", "select a order by {}",

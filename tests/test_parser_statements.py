@@ -74,6 +74,29 @@ class SelectTest(StatementTest):
                      "select a from (select 1) as x)", "select a from left join u on a = b", "select a from t join left u on a",
                      "select a from t,, u", "select a from t join u on a = b on a = b", "select a from t join join u on a"))
 
+    def test_short_forms(self):
+        self.check((("select a from t x, u y", query(
+            select(A, source=("join", False, ("table", "t", "x"), ("table", "u", "y"), None)))),
+                    ("select a from (select 1) x", query(select(A, source=("sub", query(select(ONE)), "x")))),
+                    ("select a order by a asc, b desc", query(select(A), ((A, False), (B, True))))))
+        self.refuse(("select a from t x y", "select a order by a asc desc", "select a order by asc"))
+
+    def test_brackets_in_sources(self):
+        one = ("sub", query(select(ONE)), "x")
+        inner = ("join", False, one, U, EQUAL)
+        self.check((("select a from t join (u join v on a = b) on a = b", query(
+            select(A, source=("join", False, T, ("join", False, U, V, EQUAL), EQUAL)))),
+                    ("select a from ((select 1)) as x", query(select(A, source=one))),
+                    ("select a from (((select 1))) as x", query(select(A, source=one))),
+                    ("select a from (((select 1) union select 2) limit 1) as x", query(select(
+                        A, source=("sub", query(("union", False, select(ONE), select(TWO)), (), 1), "x")))),
+                    ("select a from t, ((select 1) as x join u on a = b)", query(
+                        select(A, source=("join", False, T, inner, None)))),
+                    ("select a from (((select 1)) as x, t)", query(select(A, source=("join", False, one, T, None))))))
+        self.refuse(("select a from (t)", "select a from ((t, u)", "select a from (t, u", "select a from (t, u))", "select a from ()",
+                     "select a from (t as x)", "select a from ((select 1) as x)", "select a from (t, u) as x",
+                     "select a from ((select 1)", "select a from ((select 1", "select a from (t join u) on a = b"))
+
     def test_clauses(self):
         self.check((("select a from t where a = b", query(select(A, source=T, where=EQUAL))),
                     ("select 1 where a = b", query(select(ONE, where=EQUAL))),

@@ -97,7 +97,7 @@ class PartsTest(unittest.TestCase):
 
     def test_unknown_expressions(self):
         for tree in (("col", None, "a"), ("agg", "count", None, False), ("scan", "t", 1)):
-            for call in (bound_parts, fields_in, is_correlated):
+            for call in (bound_parts, fields_in, is_correlated, lambda one: with_bound_parts(one, ())):
                 with self.assertRaises(PlanFault, msg=tree):
                     call(tree)
 

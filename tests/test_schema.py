@@ -2,7 +2,7 @@
 
 import unittest
 
-from tablestack.errors import ConstraintFault, KindFault, NameFault
+from tablestack.errors import ConstraintFault, KindFault, NameFault, TextError
 from tablestack.parser import parse, parse_expression
 from tablestack.schema import (
     Catalog, Column, Index, Table, declared_table, literal_value, referring_table, table_from, table_shown,
@@ -55,6 +55,10 @@ class ObjectsTest(unittest.TestCase):
                 table.check_row(row)
         with self.assertRaises(ConstraintFault):
             table.check_row((None, "x", 2))
+        table = Table("t", (Column("a", "int", False, None), Column("b", "text", True, "x")), (), ())
+        table.check_row((None, "x"))
+        with self.assertRaises(ConstraintFault):
+            table.check_row((1, None))
 
     def test_primary_keys_refuse_null(self):
         table = Table("t", (Column("a", "int", False, None), Column("b", "text", False, None)), (1,), ())
@@ -160,6 +164,10 @@ class DeclarationTest(unittest.TestCase):
                 declared(text)
         table, _ = declared("t (a int default null, b text default null)")
         self.assertEqual([column.value for column in table.columns], [None, None])
+
+    def test_defaults_that_are_no_literals(self):
+        with self.assertRaises((KindFault, TextError)):
+            declared("t (a int default b, b int)")
 
     def test_literal_value(self):
         self.assertEqual(literal_value(("int", -5), "int"), -5)

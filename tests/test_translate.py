@@ -218,6 +218,8 @@ class OrdersTest(TranslateTest):
                     ("select a, c from t order by 2, 1 desc", [(2, None), (4, 10), (1, 10), (5, 20), (3, 30)]),
                     ("select a from t order by c", [(2,), (1,), (4,), (5,), (3,)]),
                     ("select a from t order by c desc limit 2", [(3,), (5,)]),
+                    ("select a from t order by c, b", [(2,), (4,), (1,), (5,), (3,)]),
+                    ("select a from t order by b desc, c desc, a", [(5,), (2,), (3,), (1,), (4,)]),
                     ("select a from t order by -a limit 1 offset 1", [(4,)]),
                     ("select a from t order by a mod 2, a", [(2,), (4,), (1,), (3,), (5,)]),
                     ("select a as c, c as x from t order by c desc limit 1", [(5, 20)]),
