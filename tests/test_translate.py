@@ -170,6 +170,12 @@ class GroupsTest(TranslateTest):
                     (f"select {key} + 1 from t group by {key} having {key} > 10", [(31,)]),
                     (f"select count(*) from t group by {key} order by {key} desc", [(1,), (1,), (3,)])))
 
+    def test_grouped_selects_within_each_other(self):
+        text = "1"
+        for _ in range(16):
+            text = f"(select {text} from u where d = 30 group by (select 2))"
+        self.check(((f"select {text}", [(1,)]),))
+
     def test_queries_see_only_what_is_around_the_select(self):
         self.refuse(NameFault, (
             "select (select t.a) from t group by a", "select a, (select max(d) from u where u.a = t.a) from t group by a",

@@ -1,0 +1,66 @@
+"""The interface: its names and arguments, each defined in the file and the class under which it is listed."""
+
+import importlib
+import inspect
+import unittest
+
+FUNCTIONS = {
+    "values": "kind_of(value) in_range(number) rank(value) row_rank(row) same_kind(one, other) compare(sign, one, other) "
+              "arithmetic(sign, one, other) concat(one, other) both(one, other) either(one, other) negated(truth) "
+              "like(text, pattern) closed(states, pattern) stepped(states, sign, pattern) value_text(value) quoted(text) "
+              "sum_of(values) least_of(values, greatest)",
+    "codec": "sign_number(sign) check_text(text) fixed(number, many) number_from(data) key_of_value(value) key_of(values) "
+             "values_from_key(data) value_from_key(data, place) sign_at(number) natural(number) natural_from(data, place) "
+             "record_of(row) row_from(data) value_from_record(data, place) checksum(data) upper_key(prefix)",
+    "lexer": "tokenize(text) is_plain_name(text)",
+    "parser": "parse(text) parse_script(text) parse_expression(text)",
+    "printer": "level_of(tree) expression_text(tree) query_text(query) statement_text(statement)",
+    "schema": "table_shown(table) table_from(shown) declared_table(statement) literal_value(tree, kind)",
+    "scope": "find_column(scopes, alias, name) table_scope(table, alias) joined_scope(one, other)",
+    "plans": "inputs(plan) with_inputs(plan, inner) width(plan) expressions_of(plan) with_expressions(plan, trees) "
+             "tables_of(plan) bound_parts(tree) with_bound_parts(tree, inner) fields_in(tree, up=0) "
+             "moved_fields(tree, table, up=0) is_correlated(tree) check_plan(plan) plan_size(plan)",
+    "binder": "fitting(kinds) expect(kind, wanted) aggregate_kind(name, kind)",
+    "translate": "output_field(columns, tree) translate(catalog, query) bind_value(catalog, scope, tree) "
+                 "bind_truth(catalog, scope, tree)",
+}
+CLASSES = {
+    "lexer": {"Token": "__init__(self, word, value, place) shown(self)"},
+    "schema": {
+        "Column": "__init__(self, name, kind, needed, value) shown(self)",
+        "Index": "__init__(self, name, table, unique, places) shown(self)",
+        "Table": "__init__(self, name, columns, primary, checks, references=()) column_names(self) place_named(self, name) "
+                 "places_of(self, names) check_row(self, row)",
+        "Catalog": "__init__(self) copied(self) table_named(self, name) indexes_of(self, table) add_table(self, table) "
+                   "add_index(self, index) shown(self)",
+    },
+    "scope": {"Scope": "__init__(self, columns) places_named(self, alias, name) places_of_alias(self, alias)"},
+}
+
+
+def listed(text):
+    """Return (name, arguments) of functions that are listed in a text."""
+    return [part.split("(", 1) for part in text.replace(") ", ")|").split("|")]
+
+
+class InterfaceTest(unittest.TestCase):
+    def test_functions(self):
+        for module, text in FUNCTIONS.items():
+            found = importlib.import_module(f"tablestack.{module}")
+            for name, arguments in listed(text):
+                function = getattr(found, name)
+                self.assertEqual(str(inspect.signature(function)), f"({arguments}", name)
+                self.assertEqual(function.__module__, found.__name__)
+
+    def test_classes(self):
+        for module, classes in CLASSES.items():
+            found = importlib.import_module(f"tablestack.{module}")
+            for one, text in classes.items():
+                self.assertEqual(getattr(found, one).__module__, found.__name__)
+                for name, arguments in listed(text):
+                    method = vars(getattr(found, one))[name]
+                    self.assertEqual(str(inspect.signature(method)), f"({arguments}", (one, name))
+
+
+if __name__ == "__main__":
+    unittest.main()
