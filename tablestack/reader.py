@@ -49,7 +49,7 @@ class Reader:
         """Count one more that is open; raise TextError if these are too many."""
         self.opened += 1
         if self.opened > MOST_OPEN:
-            raise TextError("too much is open at once")
+            raise TextError("too much is begun and not ended")
 
     def leave(self):
         """Count one less that is open."""
