@@ -234,3 +234,8 @@ def check_plan(plan):
 def plan_size(plan):
     """Return the number of operations of a plan, subqueries left out."""
     return len(operations(plan, False))
+
+
+def has_query(tree):
+    """Return True if a bound expression has a query."""
+    return subplans(tree) != []

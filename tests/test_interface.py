@@ -1,4 +1,4 @@
-"""The interface: its names and arguments, each defined in the file and the class under which it is listed."""
+"""The interface and point 22: names, arguments and fields, defined in the file and the class under which they are listed."""
 
 import importlib
 import inspect
@@ -23,6 +23,17 @@ FUNCTIONS = {
     "binder": "fitting(kinds) expect(kind, wanted) aggregate_kind(name, kind)",
     "translate": "output_field(columns, tree) translate(catalog, query) bind_value(catalog, scope, tree) "
                  "bind_truth(catalog, scope, tree)",
+    "evaluate": "member(value, values) least_scalar(rows) sorted_once(values) aggregated(name, values) distinct_rows(rows) "
+                "combined(word, whole, one, other) limited(limit, offset, rows)",
+    "rewrite": "bound_conjuncts(tree) is_constant(tree) literal(value) folded(tree) merge(plan) is_distinct(plan) "
+               "rewrite_once(name, plan) rewrite(plan, rules=('constants', 'merge', 'push', 'prune', 'distinct'))",
+    "access": "sided(tree) asked_of(test, places) key_range(bounds, evaluator) selectivity(bounds, many) "
+              "expected_rows(plan, counts)",
+    "order": "leaves_and_tests(plan, shift) subsets(numbers, size) reorder(plan, counts)",
+    "exprcode": "operation_row(tree) compile_expression(tree) stack_need(rows) stack_change(row) run_rows(rows, fields) "
+                "carried(row, values)",
+    "sorting": "ordered_pair(one, other, descending) merged_pair(one, other, descending) sorted_run(rows, descending) "
+               "sort_rows(rows, descending, limit) run_count(many, limit)",
 }
 CLASSES = {
     "lexer": {"Token": "__init__(self, word, value, place) shown(self)"},
@@ -35,6 +46,22 @@ CLASSES = {
                    "add_index(self, index) shown(self)",
     },
     "scope": {"Scope": "__init__(self, columns) places_named(self, alias, name) places_of_alias(self, alias)"},
+    "evaluate": {"Evaluator": "__init__(self, source, rows=()) within(self, row) value_of(self, tree) plan_rows(self, plan)"},
+    "access": {"Bounds": "__init__(self, equals, low, high) is_open(self) shown(self)"},
+    "order": {"Joiner": "__init__(self, plans, tests, counts) joined_plan(self, order) cost(self, plan) best_order(self)"},
+}
+# Classes whose fields are read from outside: how one is made, and its fields with their values.
+FIELDS = {
+    "lexer": {"Token": (("int", 5, 3), {"word": "int", "value": 5, "place": 3})},
+    "schema": {
+        "Column": (("a", "int", True, 5), {"name": "a", "kind": "int", "needed": True, "value": 5}),
+        "Index": (("i", "t", True, [0]), {"name": "i", "table": "t", "unique": True, "places": (0,)}),
+        "Table": (("t", [], [], []), {"name": "t", "columns": (), "primary": (), "checks": (), "references": ()}),
+        "Catalog": ((), {"tables": {}, "indexes": {}, "views": {}}),
+    },
+    "scope": {"Scope": (([("t", "a", "int")],), {"columns": (("t", "a", "int"),)})},
+    "evaluate": {"Evaluator": ((None, [(1,)]), {"rows": ((1,),)})},
+    "access": {"Bounds": (([("null",)], None, ("<", ("null",))), {"equals": (("null",),), "low": None, "high": ("<", ("null",))})},
 }
 
 
@@ -44,6 +71,14 @@ def listed(text):
 
 
 class InterfaceTest(unittest.TestCase):
+    def test_fields(self):
+        for module, classes in FIELDS.items():
+            found = importlib.import_module(f"tablestack.{module}")
+            for one, (arguments, fields) in classes.items():
+                made = getattr(found, one)(*arguments)
+                for name, value in fields.items():
+                    self.assertEqual(getattr(made, name), value, (one, name))
+
     def test_functions(self):
         for module, text in FUNCTIONS.items():
             found = importlib.import_module(f"tablestack.{module}")

@@ -4,8 +4,8 @@ import unittest
 
 from tablestack.errors import PlanFault
 from tablestack.plans import (
-    bound_parts, check_plan, expressions_of, fields_in, inputs, is_correlated, moved_fields, plan_size, tables_of, width,
-    with_bound_parts, with_expressions, with_inputs,
+    bound_parts, check_plan, expressions_of, fields_in, has_query, inputs, is_correlated, moved_fields, plan_size, tables_of,
+    width, with_bound_parts, with_expressions, with_inputs,
 )
 
 UNIT = ("unit",)
@@ -43,6 +43,12 @@ class PlansTest(unittest.TestCase):
             self.assertEqual(inputs(plan), inner, plan)
             self.assertEqual(width(plan), many, plan)
             self.assertEqual(expressions_of(plan), trees, plan)
+
+    def test_queries_in_expressions(self):
+        for tree, _ in TREES:
+            wanted = tree[0] in ("exists", "scalar", "inquery")
+            self.assertEqual(has_query(tree), wanted)
+            self.assertEqual(has_query(("and", TEST, ("case", ((TEST, tree),), F0))), wanted)
 
     def test_other_inputs(self):
         for plan, inner, _, trees in PLANS:
