@@ -34,6 +34,13 @@ FUNCTIONS = {
                 "carried(row, values)",
     "sorting": "ordered_pair(one, other, descending) merged_pair(one, other, descending) sorted_run(rows, descending) "
                "sort_rows(rows, descending, limit) run_count(many, limit)",
+    "statistics": "summarize(values) summarize_rows(rows, width) expected_share(summaries, sides, many)",
+    "physical": "equal_pairs(test, many) equal_pair(tree, many) literal_of(tree) run_plan(plan, source, compiled=False, limit=0) "
+                "physical_inputs(plan) plan_words(plan)",
+    "statement_codec": "tree_text(tree) tree_from_text(text) pieces(text, size)",
+    "pages": "cell_room(block_size) page_bytes(page, block_size) page_from(data)",
+    "journal": "frame(payload) image_record(number, data) end_record(stamp) read_frames(data) read_record(payload) "
+               "read_groups(data) group_bytes(stamp, images)",
 }
 CLASSES = {
     "lexer": {"Token": "__init__(self, word, value, place) shown(self)"},
@@ -49,6 +56,14 @@ CLASSES = {
     "evaluate": {"Evaluator": "__init__(self, source, rows=()) within(self, row) value_of(self, tree) plan_rows(self, plan)"},
     "access": {"Bounds": "__init__(self, equals, low, high) is_open(self) shown(self)"},
     "order": {"Joiner": "__init__(self, plans, tests, counts) joined_plan(self, order) cost(self, plan) best_order(self)"},
+    "statistics": {"Summary": "__init__(self, rows, nulls, different, bounds) shown(self) equal_rows(self) "
+                              "below_rows(self, value) range_rows(self, low, high)"},
+    "physical": {"Chooser": "__init__(self, catalog, counts, indexed=True, joins=('nested', 'hash', 'merge'), summaries=None) "
+                            "chosen(self, plan) best_way(self, name, test) expected(self, name, places, bounds)"},
+    "disk": {"Disk": "__init__(self, block_size, blocks=None, log=()) arm(self, steps) step(self) has_block(self, number) "
+                     "read_block(self, number) write_block(self, number, data) sync_blocks(self) append_log(self, data) "
+                     "sync_log(self) clear_log(self) read_log(self) restarted(self, choices, kept)"},
+    "pages": {"Page": "__init__(self, kind, link, cells) shown(self) size(self)"},
 }
 # Classes whose fields are read from outside: how one is made, and its fields with their values.
 FIELDS = {
@@ -61,6 +76,10 @@ FIELDS = {
     },
     "scope": {"Scope": (([("t", "a", "int")],), {"columns": (("t", "a", "int"),)})},
     "evaluate": {"Evaluator": ((None, [(1,)]), {"rows": ((1,),)})},
+    "statistics": {"Summary": ((3, 1, 2, [(1, 5)]), {"rows": 3, "nulls": 1, "different": 2, "bounds": ((1, 5),)})},
+    "physical": {"Chooser": (("catalog", {}, False), {"catalog": "catalog", "indexed": False})},
+    "disk": {"Disk": ((96, {}, [1]), {"block_size": 96, "blocks": {}, "log": (1,), "waiting": [], "fuse": None, "dead": False, "steps": 0})},
+    "pages": {"Page": ((2, 0, []), {"kind": 2, "link": 0, "cells": ()})},
     "access": {"Bounds": (([("null",)], None, ("<", ("null",))), {"equals": (("null",),), "low": None, "high": ("<", ("null",))})},
 }
 
