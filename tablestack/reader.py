@@ -7,13 +7,14 @@ MOST_OPEN = 60
 
 
 class Reader:
-    """The tokens of a text, the place of the next one, and the place at which each bracket closes."""
+    """The tokens of a text, the place of the next one, where each bracket closes, and which one it is around."""
 
     def __init__(self, text):
         self.tokens = tokenize(text)
         self.place = 0
         self.opened = 0
         self.closers = closing_places(self.tokens)
+        self.wrapped = wrapped_places(self.tokens, self.closers)
 
     def word_at(self, place):
         """Return the word of the token at a place, "end of text" behind all."""
@@ -83,4 +84,13 @@ def closing_places(tokens):
             waiting.append(place)
         elif token.word == ")" and waiting != []:
             places[waiting.pop()] = place
+    return places
+
+
+def wrapped_places(tokens, closers):
+    """Return, for each token, its place, or for a bracket around another one alone the place of the innermost such."""
+    places = list(range(len(tokens)))
+    for place in range(len(tokens) - 2, -1, -1):
+        if tokens[place].word == "(" and tokens[place + 1].word == "(" and closers[place + 1] + 1 == closers[place]:
+            places[place] = places[place + 1]
     return places

@@ -256,45 +256,62 @@ class QueryReader(Reader):
         return (tree, None)
 
     def source(self):
-        """Return what a select reads, joined from left to right."""
-        tree = self.side()
-        while self.ahead() in (",", "join", "left"):
-            if self.take(","):
-                tree = ("join", False, tree, self.side(), None)
-            else:
-                left = self.take("left")
-                self.taken("join")
-                other = self.side()
-                self.taken("on")
-                tree = ("join", left, tree, other, self.expression())
-        return tree
+        """Return what a select reads, joined from left to right.
+
+        A join in brackets is not read within the one around it, since nothing bounds how many brackets stand there.
+        """
+        around = []
+        tree = None
+        word = None
+        while True:
+            while self.begins_join():
+                self.taken("(")
+                around.append((tree, word))
+                tree = None
+                word = None
+            tree = self.joined(tree, word, self.side())
+            while around != [] and self.take(")"):
+                if tree[0] != "join":
+                    raise TextError("only a query or a join stands in brackets here")
+                before, word = around.pop()
+                tree = self.joined(before, word, tree)
+            word = self.joining_word()
+            if word is None:
+                if around != []:
+                    self.taken(")")
+                return tree
+
+    def begins_join(self):
+        """Return True if the next token is a bracket that holds no query."""
+        return self.ahead() == "(" and not self.begins_query(self.wrapped[self.place])
+
+    def joining_word(self):
+        """Return the word by which the next side is joined, None if there is none, and move behind it."""
+        if self.take(","):
+            return ","
+        if self.take("left"):
+            self.taken("join")
+            return "left"
+        if self.take("join"):
+            return "join"
+        return None
+
+    def joined(self, tree, word, other):
+        """Return a source and the next side of its join, whose condition follows; the side alone if it is the first."""
+        if word is None:
+            return other
+        if word == ",":
+            return ("join", False, tree, other, None)
+        self.taken("on")
+        return ("join", word == "left", tree, other, self.expression())
 
     def side(self):
-        """Return a table, a query with a name, or a join in brackets."""
-        if self.ahead() != "(":
-            name = self.taken_name()
-            if self.take("as") or self.ahead() == "name":
-                return ("table", name, self.taken_name())
-            return ("table", name, name)
-        if self.holds_query(self.place):
+        """Return a table, or a query with a name."""
+        if self.ahead() == "(":
             query = self.bracketed_query()
             self.take("as")
             return ("sub", query, self.taken_name())
-        return self.bracketed_join()
-
-    def holds_query(self, place):
-        """Return True if the bracket at a place holds a query, perhaps in further brackets."""
-        while self.word_at(place + 1) == "(" and self.word_at(self.closers[place + 1] + 1) == ")":
-            place += 1
-        return self.begins_query(place)
-
-    def bracketed_join(self):
-        """Return a join in brackets, as it may stand behind another one."""
-        self.taken("(")
-        self.enter()
-        tree = self.source()
-        self.leave()
-        self.taken(")")
-        if tree[0] != "join":
-            raise TextError("only a query or a join stands in brackets here")
-        return tree
+        name = self.taken_name()
+        if self.take("as") or self.ahead() == "name":
+            return ("table", name, self.taken_name())
+        return ("table", name, name)

@@ -58,11 +58,18 @@ class OpenTest(unittest.TestCase):
         self.check(parse_expression, lambda many: "exists (select " + nested("(", "a", ")", many) + ")", 3)
         self.check(parse_expression, lambda many: "a in (select " + nested("(", "a", ")", many) + ")", 3)
 
-    def test_brackets_around_selects_and_joins(self):
+    def test_brackets_around_selects(self):
         self.check(parse, lambda many: nested("(", "select a", ")", many), 2)
         self.check(parse, lambda many: "select a union " + nested("(", "select a union select b", ")", many), 2)
-        self.check(parse, lambda many: "select a from " + nested("(", "t, u", ")", many), 1)
         parse("select a union " + " union ".join(["(select b)"] * 90))
+
+    def test_brackets_around_joins_are_not_open(self):
+        plain = parse("select a from t, u")
+        for many in (1, 58, 59, 60, 61, 62, 500, 6000):
+            self.assertEqual(parse("select a from " + nested("(", "t, u", ")", many)), plain)
+            self.assertEqual(parse("select a from " + nested("(", "t join u on b = c", ")", many)), parse("select a from t join u on b = c"))
+        self.check(parse, lambda many: "select a from " + nested("(", "t join u on " + nested("(", "b", ")", many), ")", 70), 2)
+        self.check(parse, lambda many: "select a from " + nested("(", "t, (select " + nested("(", "b", ")", many) + ") as s", ")", 70), 3)
         parse("select a from " + ", ".join(["(t, u)"] * 90))
 
     def test_clauses_of_a_query(self):
@@ -103,10 +110,43 @@ class NestedTest(unittest.TestCase):
         self.check(parse_script, lambda many: "begin; delete from t where " + " + ".join(["a"] * many), 99)
         self.check(parse, lambda many: "select a from " + ", ".join([f"t as t{at}" for at in range(many)]), 98)
 
+    def test_joins_on_a_second_side(self):
+        self.check(parse, lambda many: "select a from " + nested("t, (", "u, v", ")", many), 96)
+        self.check(parse, lambda many: "select a from " + "t join (" * many + "u join v on b = c" + ") on d" * many, 95)
+        self.check(parse, lambda many: "select a from " + "t left join (" * many + "u, v" + ") on d" * many, 96)
+
     def test_length_alone_is_not_deep(self):
         parse("select " + ", ".join(["a"] * 3000))
         parse("insert into t values " + ", ".join(["(1, 2)"] * 3000))
         parse_script("begin; commit;" * 1000)
+
+
+class ManyBracketsTest(unittest.TestCase):
+    """Texts with very many brackets end in a TextError or an answer."""
+
+    def test_texts_that_are_none(self):
+        for many in (3, 61, 1000, 6000):
+            for form in (
+                "select a from {0}t, u", "select a from t, u{1}", "select a from {0}t{1}", "select a from {0}t as s{1}", "select a from {0}{1}",
+                "select a from {0}", "select a from {0}t, u{1})", "select a from ({0}t, u{1}", "select a from {0}t,{1}", "select a from {0}select b{1}",
+                "select a from {0}t join u{1}", "select a from {0}t, u{1} as s", "select a from t join {0}u on b = c{1}", "insert into t {0}",
+                "select a from {0}t left u{1}", "explain {0}", "select a where {0}", "select a in {0}", "{0}", "create table t {0}",
+            ):
+                text = form.format("(" * many, ")" * many)
+                with self.assertRaises(TextError, msg=text[:80]):
+                    parse(text)
+
+    def test_texts_that_are_too_deep_or_too_open(self):
+        for many in (98, 1000, 20000):
+            for form in ("select a from {0}t, u{1}", "{0}select a{1}", "select a where {0}b{1}", "insert into t {0}select a{1}", "select a from {0}select b{1} as s"):
+                text = form.format("(" * many, ")" * many)
+                if "t, u" in form:
+                    parse(text)
+                else:
+                    self.assertRaises(TextError, parse, text)
+            for text in ("select a from " + "t, (" * many + "u" + ")" * many, "select a from " + "(" * many + "t, u" + "), v" * many,
+                         "select a from " + "t join (" * many + "u, v" + ") on b" * many):
+                self.assertRaises(TextError, parse, text)
 
 
 if __name__ == "__main__":

@@ -171,5 +171,26 @@ class DrawnTest(unittest.TestCase):
                 self.assertEqual(parse(with_gaps(text, random.Random(seed))), tree, text)
 
 
+class JoinsOnSecondSidesTest(unittest.TestCase):
+    def joined(self, many, left, tree):
+        """Return the query of so many joins, each of which stands on the second side of the one before."""
+        source = ("table", f"t{many}", f"t{many}")
+        for number in range(many - 1, -1, -1):
+            source = ("join", left, ("table", f"t{number}", f"t{number}"), source, tree)
+        return ("query", ("select", False, (("star", None),), source, None, (), None), (), None, 0)
+
+    def test_printed_texts(self):
+        test = ("cmp", "=", ("col", None, "a"), ("col", "t0", "b"))
+        for left, tree, most in ((False, None, 97), (False, test, 96), (True, test, 96), (True, ("col", None, "a"), 97)):
+            for many in (1, 2, 30, 58, 59, 60, 61, 62, 63, most - 1, most):
+                query = self.joined(many, left, tree)
+                text = statement_text(query)
+                self.assertEqual(text.count("("), many - 1)
+                self.assertEqual(parse(text), query, many)
+            for many in (most + 1, most + 2, 300):
+                self.assertRaises(TextError, parse, statement_text(self.joined(many, left, tree)))
+        self.assertEqual(statement_text(self.joined(2, False, None)), "select * from t0, (t1, t2)")
+
+
 if __name__ == "__main__":
     unittest.main()
