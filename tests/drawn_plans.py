@@ -43,7 +43,8 @@ class PlanDrawer:
         return self.chance.choice(forms)()
 
     def field(self, kind, scopes):
-        found = [("field", up, place) for up, kinds in enumerate(scopes) for place, one in enumerate(kinds) if one == kind]
+        found = [("field", up, place) for up, kinds in enumerate(scopes) for place,
+            one in enumerate(kinds) if one == kind]
         # Most fields are of the row itself, so that conditions have something to do.
         own = [tree for tree in found if tree[1] == 0]
         if own and self.flag(0.9):
@@ -56,10 +57,12 @@ class PlanDrawer:
 
     def value(self, kind, deep, scopes):
         if deep == 0 or self.flag(0.3):
-            return self.pick(lambda: self.field(kind, scopes), lambda: self.field(kind, scopes), lambda: self.literal(kind))
+            return self.pick(lambda: self.field(kind, scopes), lambda: self.field(kind, scopes),
+                lambda: self.literal(kind))
         inner = lambda: self.value(kind, deep - 1, scopes)
         forms = [
-            lambda: ("case", ((self.truth(deep - 1, scopes), inner()), (self.truth(deep - 1, scopes), inner())), inner()),
+            lambda: ("case", ((self.truth(deep - 1, scopes), inner()), (self.truth(deep - 1, scopes), inner())),
+             inner()),
             lambda: ("scalar", self.column_plan(kind, deep - 1, scopes)),
         ]
         if kind == "text":
@@ -98,7 +101,8 @@ class PlanDrawer:
             name = self.chance.choice(("t", "t", "t", "u", "u", "e"))
             return self.pick(*[lambda: (("scan", name, len(KINDS[name])), KINDS[name])] * 9, lambda: (("unit",), ()))
         forms = (
-            self.filter, self.filter, self.filter, self.project, self.project, self.join, self.join, self.join, self.group,
+            self.filter, self.filter, self.filter, self.project, self.project, self.join, self.join, self.join,
+            self.group,
             self.distinct, self.combined, self.sort, self.limit,
         )
         return self.chance.choice(forms)(deep - 1, outer)
@@ -159,7 +163,8 @@ class PlanDrawer:
 
     def sort(self, deep, outer):
         plan, kinds = self.plan(deep, outer)
-        orders = tuple((self.value(self.chance.choice(("int", "text")), 0, [kinds, *outer]), self.flag()) for _ in range(2))
+        orders = tuple((self.value(self.chance.choice(("int", "text")), 0, [kinds, *outer]),
+                self.flag()) for _ in range(2))
         if self.flag(0.3):
             orders = (*orders, *[(("field", 0, place), self.flag()) for place in range(len(kinds))])
         return (("sort", orders, plan), kinds)

@@ -29,13 +29,20 @@ class BoundsTest(unittest.TestCase):
 
     def test_sides(self):
         for tree, side in (
-            (equal(F1, num(5)), (1, "=", num(5))), (equal(num(5), F1), (1, "=", num(5))), (cmp("<", F0, text("a")), (0, "<", text("a"))),
-            (cmp("<", text("a"), F0), (0, ">", text("a"))), (cmp("<=", num(1), F2), (2, ">=", num(1))), (cmp(">", num(1), F2), (2, "<", num(1))),
-            (cmp(">=", num(1), F2), (2, "<=", num(1))), (cmp(">=", F2, NULL), (2, ">=", NULL)), (equal(F0, OUT), (0, "=", OUT)),
-            (cmp(">", OUT, F0), (0, "<", OUT)), (equal(F0, ("op", "+", OUT, num(1))), (0, "=", ("op", "+", OUT, num(1)))), (equal(F0, QUERY), (0, "=", QUERY)),
-            (cmp("<>", F0, num(1)), None), (cmp("<>", num(1), F0), None), (equal(F0, F1), None), (equal(F0, F0), None), (equal(F0, ("op", "+", F1, num(1))), None),
-            (equal(("op", "+", F0, num(1)), num(2)), None), (equal(num(1), num(2)), None), (equal(OUT, num(2)), None), (equal(F0, OWN_QUERY), None),
-            (("between", F0, num(1), num(2), False), None), (("isnull", F0, False), None), (("in", F0, (num(1),), False), None), (TRUE, None),
+            (equal(F1, num(5)), (1, "=", num(5))), (equal(num(5), F1), (1, "=", num(5))),
+            (cmp("<", F0, text("a")), (0, "<", text("a"))),
+            (cmp("<", text("a"), F0), (0, ">", text("a"))), (cmp("<=", num(1), F2), (2, ">=", num(1))),
+            (cmp(">", num(1), F2), (2, "<", num(1))),
+            (cmp(">=", num(1), F2), (2, "<=", num(1))), (cmp(">=", F2, NULL), (2, ">=", NULL)),
+            (equal(F0, OUT), (0, "=", OUT)),
+            (cmp(">", OUT, F0), (0, "<", OUT)), (equal(F0, ("op", "+", OUT, num(1))),
+             (0, "=", ("op", "+", OUT, num(1)))), (equal(F0, QUERY), (0, "=", QUERY)),
+            (cmp("<>", F0, num(1)), None), (cmp("<>", num(1), F0), None), (equal(F0, F1), None), (equal(F0, F0), None),
+            (equal(F0, ("op", "+", F1, num(1))), None),
+            (equal(("op", "+", F0, num(1)), num(2)), None), (equal(num(1), num(2)), None), (equal(OUT, num(2)), None),
+            (equal(F0, OWN_QUERY), None),
+            (("between", F0, num(1), num(2), False), None), (("isnull", F0, False), None),
+            (("in", F0, (num(1),), False), None), (TRUE, None),
             (("not", equal(F0, num(1))), None), (("or", equal(F0, num(1)), equal(F0, num(2))), None),
         ):
             self.assertEqual(sided(tree), side, tree)
@@ -44,14 +51,21 @@ class BoundsTest(unittest.TestCase):
     def test_what_is_asked(self):
         one, two, low, high = equal(F0, num(1)), equal(num(2), F1), cmp(">", F1, num(3)), cmp("<=", F1, num(9))
         for test, places, shown in (
-            (one, (0,), ((num(1),), None, None)), (one, (1,), ((), None, None)), (one, (), ((), None, None)), (one, (1, 0), ((), None, None)),
-            (both(one, two), (0, 1), ((num(1), num(2)), None, None)), (both(one, two), (1, 0), ((num(2), num(1)), None, None)),
-            (both(low, one, high), (0, 1), ((num(1),), (">", num(3)), ("<=", num(9)))), (both(low, high), (1,), ((), (">", num(3)), ("<=", num(9)))),
-            (both(low, high), (0, 1), ((), None, None)), (both(high, two), (1, 0), ((num(2),), None, None)), (both(low, one), (1, 0), ((), (">", num(3)), None)),
+            (one, (0,), ((num(1),), None, None)), (one, (1,), ((), None, None)), (one, (), ((), None, None)),
+            (one, (1, 0), ((), None, None)),
+            (both(one, two), (0, 1), ((num(1), num(2)), None, None)),
+            (both(one, two), (1, 0), ((num(2), num(1)), None, None)),
+            (both(low, one, high), (0, 1), ((num(1),), (">", num(3)), ("<=", num(9)))),
+            (both(low, high), (1,), ((), (">", num(3)), ("<=", num(9)))),
+            (both(low, high), (0, 1), ((), None, None)), (both(high, two), (1, 0), ((num(2),), None, None)),
+            (both(low, one), (1, 0), ((), (">", num(3)), None)),
             (both(cmp(">=", F1, num(4)), low, high, cmp("<", F1, num(5))), (1,), ((), (">=", num(4)), ("<=", num(9)))),
-            (both(equal(F0, num(7)), one), (0, 1), ((num(7),), None, None)), (("or", one, two), (0, 1), ((), None, None)),
-            (both(("or", one, two), one), (0, 1), ((num(1),), None, None)), (cmp("<>", F0, num(1)), (0,), ((), None, None)),
-            (both(equal(F0, OUT), cmp("<", NULL, F1)), (0, 1, 2), ((OUT,), (">", NULL), None)), (("not", one), (0,), ((), None, None)),
+            (both(equal(F0, num(7)), one), (0, 1), ((num(7),), None, None)),
+            (("or", one, two), (0, 1), ((), None, None)),
+            (both(("or", one, two), one), (0, 1), ((num(1),), None, None)),
+            (cmp("<>", F0, num(1)), (0,), ((), None, None)),
+            (both(equal(F0, OUT), cmp("<", NULL, F1)), (0, 1, 2), ((OUT,), (">", NULL), None)),
+            (("not", one), (0,), ((), None, None)),
         ):
             self.assertEqual(asked_of(test, places).shown(), shown, (test, places))
 
@@ -63,12 +77,18 @@ class KeyRangeTest(unittest.TestCase):
     def test_ranges(self):
         one, seven = key_of((1,)), key_of((1, 7))
         for test, places, wanted in (
-            (TRUE, (0,), ((), None)), (equal(F0, num(1)), (0,), (one, upper_key(one))), (equal(F0, num(1)), (0, 1), (one, upper_key(one))),
-            (both(equal(F0, num(1)), equal(F1, num(7))), (0, 1), (seven, upper_key(seven))), (cmp(">=", F0, num(1)), (0,), (one, None)),
-            (cmp(">", F0, num(1)), (0,), (upper_key(one), None)), (cmp("<", F0, num(1)), (0,), ((), one)), (cmp("<=", F0, num(1)), (0,), ((), upper_key(one))),
-            (both(equal(F0, num(1)), cmp(">", F1, num(7))), (0, 1), (upper_key(seven), upper_key(one))), (equal(F2, text("")), (2,), ((3, 1), (3, 2))),
-            (both(equal(F0, num(1)), cmp("<=", F1, num(7))), (0, 1), (one, upper_key(seven))), (cmp("<", num(3), F0), (0,), (upper_key(key_of((3,))), None)),
-            (both(cmp(">=", F0, num(1)), cmp("<", F0, num(5))), (0,), (one, key_of((5,)))), (equal(F0, ("op", "-", num(2), num(1))), (0,), (one, upper_key(one))),
+            (TRUE, (0,), ((), None)), (equal(F0, num(1)), (0,), (one, upper_key(one))),
+            (equal(F0, num(1)), (0, 1), (one, upper_key(one))),
+            (both(equal(F0, num(1)), equal(F1, num(7))), (0, 1), (seven, upper_key(seven))),
+            (cmp(">=", F0, num(1)), (0,), (one, None)),
+            (cmp(">", F0, num(1)), (0,), (upper_key(one), None)), (cmp("<", F0, num(1)), (0,), ((), one)),
+            (cmp("<=", F0, num(1)), (0,), ((), upper_key(one))),
+            (both(equal(F0, num(1)), cmp(">", F1, num(7))), (0, 1), (upper_key(seven), upper_key(one))),
+            (equal(F2, text("")), (2,), ((3, 1), (3, 2))),
+            (both(equal(F0, num(1)), cmp("<=", F1, num(7))), (0, 1), (one, upper_key(seven))),
+            (cmp("<", num(3), F0), (0,), (upper_key(key_of((3,))), None)),
+            (both(cmp(">=", F0, num(1)), cmp("<", F0, num(5))), (0,), (one, key_of((5,)))),
+            (equal(F0, ("op", "-", num(2), num(1))), (0,), (one, upper_key(one))),
             (equal(F0, QUERY), (0,), (key_of((5,)), key_of((6,)))),
         ):
             self.assertEqual(self.range_of(test, places), wanted, test)
@@ -76,8 +96,10 @@ class KeyRangeTest(unittest.TestCase):
     def test_greatest_and_least_integers(self):
         high, low = key_of((HIGHEST,)), key_of((-HIGHEST,))
         for test, wanted in (
-            (equal(F0, num(HIGHEST)), (high, upper_key(high))), (cmp(">", F0, num(HIGHEST)), (upper_key(high), None)), (cmp(">=", F0, num(HIGHEST)), (high, None)),
-            (cmp("<=", F0, num(HIGHEST)), ((), upper_key(high))), (equal(F0, num(-HIGHEST)), (low, upper_key(low))), (cmp("<", F0, num(-HIGHEST)), ((), low)),
+            (equal(F0, num(HIGHEST)), (high, upper_key(high))), (cmp(">", F0, num(HIGHEST)), (upper_key(high), None)),
+            (cmp(">=", F0, num(HIGHEST)), (high, None)),
+            (cmp("<=", F0, num(HIGHEST)), ((), upper_key(high))), (equal(F0, num(-HIGHEST)), (low, upper_key(low))),
+            (cmp("<", F0, num(-HIGHEST)), ((), low)),
             (cmp(">", F0, num(-HIGHEST)), (upper_key(low), None)), (equal(F0, ("op", "+", num(HIGHEST), num(1))), None),
         ):
             self.assertEqual(self.range_of(test, (0,)), wanted, test)
@@ -85,8 +107,10 @@ class KeyRangeTest(unittest.TestCase):
 
     def test_no_row_can_be(self):
         for test in (
-            equal(F0, NULL), cmp(">", F0, NULL), cmp("<=", NULL, F0), both(equal(F0, num(1)), cmp("<", F1, NULL)), both(equal(F0, NULL), equal(F1, num(1))),
-            both(cmp(">", F0, num(1)), cmp("<", F0, NULL)), equal(F0, ("op", "/", num(1), num(0))), both(cmp(">", F0, num(5)), cmp("<", F0, num(3))),
+            equal(F0, NULL), cmp(">", F0, NULL), cmp("<=", NULL, F0), both(equal(F0, num(1)), cmp("<", F1, NULL)),
+            both(equal(F0, NULL), equal(F1, num(1))),
+            both(cmp(">", F0, num(1)), cmp("<", F0, NULL)), equal(F0, ("op", "/", num(1), num(0))),
+            both(cmp(">", F0, num(5)), cmp("<", F0, num(3))),
             both(cmp(">", F0, num(5)), cmp("<=", F0, num(5))),
         ):
             self.assertIsNone(self.range_of(test, (0, 1)), test)
@@ -108,7 +132,8 @@ class KeyRangeTest(unittest.TestCase):
         rows = [(one, other) for one in values for other in values]
         for sign in ("=", "<", "<=", ">", ">="):
             for number in values[1:]:
-                for test, places in ((cmp(sign, F0, num(number)), (0, 1)), (both(cmp(sign, F0, num(number)), equal(F1, num(2))), (1, 0))):
+                for test, places in ((cmp(sign, F0, num(number)), (0, 1)),
+                    (both(cmp(sign, F0, num(number)), equal(F1, num(2))), (1, 0))):
                     found = self.range_of(test, places)
                     for row in rows:
                         key = key_of([row[place] for place in places])
@@ -119,10 +144,14 @@ class KeyRangeTest(unittest.TestCase):
 class ExpectedRowsTest(unittest.TestCase):
     def test_selectivity(self):
         for bounds, many, rows in (
-            (Bounds((), None, None), 50, 50), (Bounds((), None, None), 0, 0), (Bounds((num(1),), None, None), 100, 11), (Bounds((num(1),), None, None), 99, 10),
-            (Bounds((num(1), num(2)), None, None), 100, 2), (Bounds((), (">", num(1)), None), 100, 34), (Bounds((), None, ("<", num(1))), 100, 34),
-            (Bounds((), (">", num(1)), ("<", num(1))), 100, 12), (Bounds((num(1),), (">", num(1)), None), 100, 4), (Bounds((num(1),), None, None), 0, 1),
-            (Bounds((num(1),), None, None), 1, 1), (Bounds((), (">", num(1)), None), 0, 1), (Bounds((), (">", num(1)), None), 1, 1), (Bounds((), (">", num(1)), None), 2, 1),
+            (Bounds((), None, None), 50, 50), (Bounds((), None, None), 0, 0), (Bounds((num(1),), None, None), 100, 11),
+            (Bounds((num(1),), None, None), 99, 10),
+            (Bounds((num(1), num(2)), None, None), 100, 2), (Bounds((), (">", num(1)), None), 100, 34),
+            (Bounds((), None, ("<", num(1))), 100, 34),
+            (Bounds((), (">", num(1)), ("<", num(1))), 100, 12), (Bounds((num(1),), (">", num(1)), None), 100, 4),
+            (Bounds((num(1),), None, None), 0, 1),
+            (Bounds((num(1),), None, None), 1, 1), (Bounds((), (">", num(1)), None), 0, 1),
+            (Bounds((), (">", num(1)), None), 1, 1), (Bounds((), (">", num(1)), None), 2, 1),
         ):
             self.assertEqual(selectivity(bounds, many), rows, (bounds.shown(), many))
 
@@ -134,27 +163,38 @@ class ExpectedRowsTest(unittest.TestCase):
     def test_scans_and_filters(self):
         less = cmp("<", F0, num(1))
         self.check((
-            (UNIT, 1), (T, 100), (("scan", "e", 1), 0), (("scan", "none", 1), 0), (("filter", equal(F0, num(1)), T), 11), (("filter", equal(F0, F1), T), 11),
-            (("filter", less, T), 34), (("filter", both(equal(F0, num(1)), less), T), 4), (("filter", both(less, equal(F0, num(1))), T), 4),
-            (("filter", ("or", less, less), T), 34), (("filter", cmp("<>", F0, num(1)), T), 34), (("filter", ("not", equal(F0, num(1))), T), 34),
-            (("filter", equal(F0, num(1)), ("scan", "e", 1)), 0), (("filter", less, ("scan", "e", 1)), 0), (("filter", less, ("scan", "one", 1)), 1),
-            (("filter", less, ("scan", "two", 1)), 1), (("filter", equal(F0, num(1)), ("scan", "two", 1)), 1), (("filter", less, UNIT), 1),
+            (UNIT, 1), (T, 100), (("scan", "e", 1), 0), (("scan", "none", 1), 0),
+            (("filter", equal(F0, num(1)), T), 11), (("filter", equal(F0, F1), T), 11),
+            (("filter", less, T), 34), (("filter", both(equal(F0, num(1)), less), T), 4),
+            (("filter", both(less, equal(F0, num(1))), T), 4),
+            (("filter", ("or", less, less), T), 34), (("filter", cmp("<>", F0, num(1)), T), 34),
+            (("filter", ("not", equal(F0, num(1))), T), 34),
+            (("filter", equal(F0, num(1)), ("scan", "e", 1)), 0), (("filter", less, ("scan", "e", 1)), 0),
+            (("filter", less, ("scan", "one", 1)), 1),
+            (("filter", less, ("scan", "two", 1)), 1), (("filter", equal(F0, num(1)), ("scan", "two", 1)), 1),
+            (("filter", less, UNIT), 1),
         ))
 
     def test_joins(self):
         less = cmp("<", F0, num(1))
         self.check((
-            (("join", False, None, T, U), 2000), (("join", False, equal(F0, F2), T, U), 201), (("join", False, less, T, U), 667),
-            (("join", False, both(equal(F0, F2), less), T, U), 68), (("join", False, None, T, ("scan", "e", 1)), 0), (("join", False, less, T, ("scan", "e", 1)), 1),
-            (("join", False, equal(F0, F1), ("scan", "e", 1), T), 1), (("join", False, None, ("filter", less, T), U), 680),
+            (("join", False, None, T, U), 2000), (("join", False, equal(F0, F2), T, U), 201),
+            (("join", False, less, T, U), 667),
+            (("join", False, both(equal(F0, F2), less), T, U), 68), (("join", False, None, T, ("scan", "e", 1)), 0),
+            (("join", False, less, T, ("scan", "e", 1)), 1),
+            (("join", False, equal(F0, F1), ("scan", "e", 1), T), 1),
+            (("join", False, None, ("filter", less, T), U), 680),
             (("join", False, equal(F0, F1), ("join", False, None, U, U), UNIT), 41),
         ))
 
     def test_others_as_they_read(self):
         self.check((
-            (("project", (F0,), T), 100), (("sort", (), T), 100), (("distinct", T), 100), (("union", True, T, U), 120), (("except", True, T, U), 100),
-            (("intersect", False, T, U), 20), (("limit", 5, 0, T), 5), (("limit", None, 0, T), 100), (("limit", 500, 0, T), 100), (("group", (), (), T), 1),
-            (("group", (F0,), (), T), 100), (("limit", 50, 80, T), 20), (("limit", None, 300, T), 0), (("limit", -1, -1, T), 0),
+            (("project", (F0,), T), 100), (("sort", (), T), 100), (("distinct", T), 100), (("union", True, T, U), 120),
+            (("except", True, T, U), 100),
+            (("intersect", False, T, U), 20), (("limit", 5, 0, T), 5), (("limit", None, 0, T), 100),
+            (("limit", 500, 0, T), 100), (("group", (), (), T), 1),
+            (("group", (F0,), (), T), 100), (("limit", 50, 80, T), 20), (("limit", None, 300, T), 0),
+            (("limit", -1, -1, T), 0),
         ))
         self.assertRaises(PlanFault, expected_rows, ("walk", T), {})
         self.assertRaises(PlanFault, expected_rows, ("filter", FAULTY, ("walk",)), {})

@@ -25,7 +25,8 @@ def filled():
 class DiskTest(unittest.TestCase):
     def test_new_disks(self):
         disk = Disk(5)
-        self.assertEqual((disk.block_size, disk.blocks, disk.log, disk.waiting, disk.fuse, disk.dead, disk.steps), (5, {}, (), [], None, False, 0))
+        self.assertEqual((disk.block_size, disk.blocks, disk.log, disk.waiting, disk.fuse, disk.dead, disk.steps),
+            (5, {}, (), [], None, False, 0))
         blocks = {3: list(A)}
         disk = Disk(5, blocks, [1, 2])
         blocks[4] = B
@@ -76,7 +77,8 @@ class DiskTest(unittest.TestCase):
 
     def test_steps_and_fuses(self):
         steps = (
-            lambda disk: disk.write_block(0, A), lambda disk: disk.append_log((1,)), lambda disk: disk.sync_log(), lambda disk: disk.sync_blocks(),
+            lambda disk: disk.write_block(0, A), lambda disk: disk.append_log((1,)), lambda disk: disk.sync_log(),
+            lambda disk: disk.sync_blocks(),
             lambda disk: disk.append_log((2,)), lambda disk: disk.clear_log(), lambda disk: disk.write_block(0, B),
         )
         for many in range(len(steps) + 2):
@@ -96,9 +98,11 @@ class DiskTest(unittest.TestCase):
     def test_reading_is_no_step(self):
         disk = Disk(5, {0: A}, (1,))
         disk.arm(0)
-        self.assertEqual((disk.read_block(0), disk.read_log(), disk.has_block(0), disk.dead, disk.steps), (A, (1,), True, False, 0))
+        self.assertEqual((disk.read_block(0), disk.read_log(), disk.has_block(0), disk.dead, disk.steps),
+            (A, (1,), True, False, 0))
         self.assertRaises(DiskFault, disk.step)
-        for call in (lambda: disk.read_block(0), lambda: disk.read_block(9), disk.read_log, disk.sync_blocks, disk.clear_log):
+        for call in (lambda: disk.read_block(0), lambda: disk.read_block(9), disk.read_log, disk.sync_blocks,
+            disk.clear_log):
             self.assertRaises(DiskFault, call)
         disk.arm(None)
         self.assertRaises(DiskFault, disk.sync_log)
@@ -121,22 +125,26 @@ class CrashTest(unittest.TestCase):
     def test_what_is_kept_of_blocks(self):
         half_b, half_c = (2, 2, 1, 1, 1), (3, 3, 0, 0, 0)
         for choices, blocks in (
-            ((), {0: A}), ((0, 0), {0: A}), ((1,), {0: B}), ((1, 1), {0: B, 7: C}), ((0, 1), {0: A, 7: C}), ((2,), {0: half_b}), ((0, 2), {0: A, 7: half_c}),
+            ((), {0: A}), ((0, 0), {0: A}), ((1,), {0: B}), ((1, 1), {0: B, 7: C}), ((0, 1), {0: A, 7: C}),
+            ((2,), {0: half_b}), ((0, 2), {0: A, 7: half_c}),
             ((2, 2), {0: half_b, 7: half_c}), ((1, 2, 1, 1), {0: B, 7: half_c}), ([0, 1], {0: A, 7: C}),
         ):
             disk = filled()
             found = disk.restarted(choices, 0)
             self.assertEqual(found.blocks, blocks, choices)
-            self.assertEqual((found.block_size, found.waiting, found.fuse, found.dead, found.steps), (5, [], None, False, 0))
+            self.assertEqual((found.block_size, found.waiting, found.fuse, found.dead, found.steps),
+                (5, [], None, False, 0))
             self.assertEqual((disk.blocks, len(disk.waiting)), ({0: A}, 2))
 
     def test_what_is_kept_of_the_log(self):
-        for kept, log in ((0, (1, 2)), (1, (1, 2, 3)), (2, (1, 2, 3, 4)), (3, (1, 2, 3, 4, 5)), (99, (1, 2, 3, 4, 5)), (-1, (1, 2))):
+        for kept, log in ((0, (1, 2)), (1, (1, 2, 3)), (2, (1, 2, 3, 4)), (3, (1, 2, 3, 4, 5)), (99, (1, 2, 3, 4, 5)),
+            (-1, (1, 2))):
             self.assertEqual(filled().restarted((), kept).log, log)
 
     def test_a_block_written_twice(self):
         for choices, found in (
-            ((0, 0), A), ((1, 0), B), ((0, 1), C), ((1, 1), C), ((2, 0), (2, 2, 1, 1, 1)), ((0, 2), (3, 3, 1, 1, 1)), ((1, 2), (3, 3, 2, 2, 2)), ((2, 1), C), ((2, 2), (3, 3, 1, 1, 1)),
+            ((0, 0), A), ((1, 0), B), ((0, 1), C), ((1, 1), C), ((2, 0), (2, 2, 1, 1, 1)), ((0, 2), (3, 3, 1, 1, 1)),
+            ((1, 2), (3, 3, 2, 2, 2)), ((2, 1), C), ((2, 2), (3, 3, 1, 1, 1)),
         ):
             disk = Disk(5, {0: A})
             disk.write_block(0, B)

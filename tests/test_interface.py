@@ -1,4 +1,4 @@
-"""The interface and point 22: names, arguments and fields, defined in the file and the class under which they are listed."""
+"""The interface and point 22: names, arguments and fields, in the file and the class under which they are listed."""
 
 import importlib
 import inspect

@@ -16,7 +16,8 @@ def whole_log():
 class RecordTest(unittest.TestCase):
     def test_frames(self):
         for payload in ((), (7,), (1, 2, 3), (255,) * 300):
-            self.assertEqual(frame(payload), (0, 0, len(payload) // 256, len(payload) % 256, *payload, *checksum(payload)))
+            self.assertEqual(frame(payload), (0, 0, len(payload) // 256, len(payload) % 256, *payload,
+                    *checksum(payload)))
             self.assertEqual(read_frames(frame(payload)), [payload])
             self.assertEqual(read_frames(list(frame(payload)) * 3), [payload] * 3)
         self.assertEqual(read_frames(()), [])
@@ -32,7 +33,8 @@ class RecordTest(unittest.TestCase):
 
     def test_invalid_records(self):
         for payload in (
-            (), (0,), (3, 1), (255, 1), (1,), (2,), (1, 128), (2, 128), (2, 200, 200), (1, 128, 0), (2, 128, 0), (2, 5, 0), (2, 5, 6), (2, 128, 1, 1), (1, 255, 255, 255),
+            (), (0,), (3, 1), (255, 1), (1,), (2,), (1, 128), (2, 128), (2, 200, 200), (1, 128, 0), (2, 128, 0),
+            (2, 5, 0), (2, 5, 6), (2, 128, 1, 1), (1, 255, 255, 255),
         ):
             with self.assertRaises(LogFault, msg=payload):
                 read_record(payload)
@@ -51,7 +53,8 @@ class RecordTest(unittest.TestCase):
 
 class GroupTest(unittest.TestCase):
     def test_groups(self):
-        self.assertEqual(group_bytes(3, [(1, (5, 6)), (0, (7,))]), (*image_record(1, (5, 6)), *image_record(0, (7,)), *end_record(3)))
+        self.assertEqual(group_bytes(3, [(1, (5, 6)), (0, (7,))]),
+            (*image_record(1, (5, 6)), *image_record(0, (7,)), *end_record(3)))
         self.assertEqual(group_bytes(3, ()), end_record(3))
         self.assertEqual(read_groups(whole_log()), GROUPS)
         self.assertEqual(read_groups(list(whole_log())), GROUPS)

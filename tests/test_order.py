@@ -29,19 +29,24 @@ class PartsTest(unittest.TestCase):
     def test_leaves_and_tests(self):
         left = ("join", True, equal(F[0], F[2]), A, B)
         for plan, shift, wanted in (
-            (A, 0, ((A,), ())), (left, 3, ((left,), ())), (("filter", TRUE, join(A, B)), 0, ((("filter", TRUE, join(A, B)),), ())),
+            (A, 0, ((A,), ())), (left, 3, ((left,), ())), (("filter", TRUE, join(A, B)), 0,
+             ((("filter", TRUE, join(A, B)),), ())),
             (join(A, B), 0, ((A, B), ())), (join(A, B, equal(F[0], F[2])), 0, ((A, B), (equal(F[0], F[2]),))),
             (join(A, B, both(equal(F[0], F[2]), TRUE)), 2, ((A, B), (equal(F[2], F[4]), TRUE))),
-            (join(join(A, B, equal(F[0], F[2])), C, equal(F[1], F[4])), 0, ((A, B, C), (equal(F[0], F[2]), equal(F[1], F[4])))),
-            (join(A, join(B, C, equal(F[0], F[2])), equal(F[1], F[4])), 0, ((A, B, C), (equal(F[2], F[4]), equal(F[1], F[4])))),
-            (join(join(A, left), ("distinct", join(A, B)), cmp("<", F[7], field(0, 1))), 1, ((A, left, ("distinct", join(A, B))), (cmp("<", F[8], field(0, 1)),))),
+            (join(join(A, B, equal(F[0], F[2])), C, equal(F[1], F[4])), 0,
+             ((A, B, C), (equal(F[0], F[2]), equal(F[1], F[4])))),
+            (join(A, join(B, C, equal(F[0], F[2])), equal(F[1], F[4])), 0,
+             ((A, B, C), (equal(F[2], F[4]), equal(F[1], F[4])))),
+            (join(join(A, left), ("distinct", join(A, B)), cmp("<", F[7], field(0, 1))), 1,
+             ((A, left, ("distinct", join(A, B))), (cmp("<", F[8], field(0, 1)),))),
         ):
             self.assertEqual(leaves_and_tests(plan, shift), wanted, plan)
         self.assertRaises(PlanFault, leaves_and_tests, join(("walk",), A), 0)
 
     def test_subsets(self):
         for numbers, size, wanted in (
-            ((0, 1, 2), 2, [(0, 1), (0, 2), (1, 2)]), ((0, 1, 2), 0, [()]), ((0, 1, 2), 3, [(0, 1, 2)]), ((0, 1, 2), 4, []), ((), 0, [()]), ((), 1, []),
+            ((0, 1, 2), 2, [(0, 1), (0, 2), (1, 2)]), ((0, 1, 2), 0, [()]), ((0, 1, 2), 3, [(0, 1, 2)]),
+            ((0, 1, 2), 4, []), ((), 0, [()]), ((), 1, []),
             ([3, 5, 9], 1, [(3,), (5,), (9,)]), ((0, 1), -1, []),
         ):
             self.assertEqual(subsets(numbers, size), wanted)
@@ -50,10 +55,14 @@ class PartsTest(unittest.TestCase):
     def test_joined_plans(self):
         joiner = Joiner([A, B, C], [equal(F[0], F[2]), equal(F[3], F[5]), cmp("<", F[4], num(1)), TRUE], COUNTS)
         for order, wanted in (
-            ((1,), B), ((0, 1), join(A, B, both(equal(F[0], F[2]), TRUE))), ((1, 0), join(B, A, both(equal(F[2], F[0]), TRUE))),
-            ((0, 2), join(A, C, both(cmp("<", F[2], num(1)), TRUE))), ((2, 0), join(C, A, both(cmp("<", F[0], num(1)), TRUE))),
-            ((0, 1, 2), join(join(A, B, both(equal(F[0], F[2]), TRUE)), C, both(equal(F[3], F[5]), cmp("<", F[4], num(1))))),
-            ((2, 0, 1), join(join(C, A, both(cmp("<", F[0], num(1)), TRUE)), B, both(equal(F[2], F[4]), equal(F[5], F[1])))),
+            ((1,), B), ((0, 1), join(A, B, both(equal(F[0], F[2]), TRUE))),
+            ((1, 0), join(B, A, both(equal(F[2], F[0]), TRUE))),
+            ((0, 2), join(A, C, both(cmp("<", F[2], num(1)), TRUE))),
+            ((2, 0), join(C, A, both(cmp("<", F[0], num(1)), TRUE))),
+            ((0, 1, 2), join(join(A, B, both(equal(F[0], F[2]), TRUE)), C,
+              both(equal(F[3], F[5]), cmp("<", F[4], num(1))))),
+            ((2, 0, 1), join(join(C, A, both(cmp("<", F[0], num(1)), TRUE)), B,
+              both(equal(F[2], F[4]), equal(F[5], F[1])))),
             ((2, 1, 0), join(join(C, B, both(equal(F[3], F[1]), cmp("<", F[0], num(1)), TRUE)), A, equal(F[4], F[2]))),
         ):
             self.assertEqual(joiner.joined_plan(order), wanted, order)
@@ -61,16 +70,21 @@ class PartsTest(unittest.TestCase):
     def test_costs(self):
         joiner = Joiner([A, B], [], COUNTS)
         for plan, cost in (
-            (A, 0), (join(B, C), 1000), (join(B, C, equal(F[0], F[2])), 101), (join(join(B, C, equal(F[0], F[2])), E), 101 + 505),
-            (("sort", (), join(B, ("join", True, None, C, E))), 50 + 5000), (join(B, ("distinct", join(C, E))), 50 + 5000),
+            (A, 0), (join(B, C), 1000), (join(B, C, equal(F[0], F[2])), 101),
+            (join(join(B, C, equal(F[0], F[2])), E), 101 + 505),
+            (("sort", (), join(B, ("join", True, None, C, E))), 50 + 5000),
+            (join(B, ("distinct", join(C, E))), 50 + 5000),
         ):
             self.assertEqual(joiner.cost(plan), cost, plan)
 
     def test_best_orders(self):
         for plans, tests, order in (
-            ([A], [], (0,)), ([A, B], [], (0, 1)), ([B, A], [equal(F[0], F[2])], (0, 1)), ([A, D, C], [], (0, 2, 1)), ([A, B, C], [], (1, 2, 0)),
-            ([A, B, C], [equal(F[0], F[2])], (1, 2, 0)), ([A, D, B], [equal(F[0], F[4])], (0, 2, 1)), ([A, A, A], [], (0, 1, 2)),
-            ([A, D, C, E], [], (2, 3, 0, 1)), ([A, B, C, E], [equal(F[0], F[2]), equal(F[3], F[5]), equal(F[5], F[7])], (2, 3, 1, 0)),
+            ([A], [], (0,)), ([A, B], [], (0, 1)), ([B, A], [equal(F[0], F[2])], (0, 1)), ([A, D, C], [], (0, 2, 1)),
+            ([A, B, C], [], (1, 2, 0)),
+            ([A, B, C], [equal(F[0], F[2])], (1, 2, 0)), ([A, D, B], [equal(F[0], F[4])], (0, 2, 1)),
+            ([A, A, A], [], (0, 1, 2)),
+            ([A, D, C, E], [], (2, 3, 0, 1)), ([A, B, C, E], [equal(F[0], F[2]), equal(F[3], F[5]), equal(F[5], F[7])],
+             (2, 3, 1, 0)),
             ([A, ("join", True, None, C, E), B], [], (1, 2, 0)),
         ):
             self.assertEqual(Joiner(plans, tests, COUNTS).best_order(), order, (plans, tests))
@@ -80,7 +94,8 @@ class PartsTest(unittest.TestCase):
         for plans in itertools.product((A, C, E), repeat=3):
             for some in range(2 ** len(tests)):
                 joiner = Joiner(plans, [test for place, test in enumerate(tests) if some >> place & 1], COUNTS)
-                orders = sorted((joiner.cost(joiner.joined_plan(order)), order) for order in itertools.permutations(range(3)))
+                orders = sorted((joiner.cost(joiner.joined_plan(order)),
+                        order) for order in itertools.permutations(range(3)))
                 self.assertEqual(joiner.best_order(), orders[0][1])
 
     def test_best_orders_by_parts(self):
@@ -106,12 +121,14 @@ class ReorderTest(unittest.TestCase):
             (join(join(A, B), C, both(equal(F[0], F[2]), equal(F[3], F[5]))),
              ("project", moved(4, 5, 0, 1, 2, 3), join(join(B, C, equal(F[1], F[3])), A, equal(F[4], F[0])))),
             (join(A, join(D, C)), ("project", moved(0, 1, 4, 5, 2, 3), join(join(A, C), D))),
-            (join(C, join(E, B, equal(F[0], F[2])), equal(F[0], F[3])), join(join(C, E, equal(F[0], F[3])), B, equal(F[2], F[4]))),
+            (join(C, join(E, B, equal(F[0], F[2])), equal(F[0], F[3])),
+             join(join(C, E, equal(F[0], F[3])), B, equal(F[2], F[4]))),
         ))
 
     def test_conditions_of_no_side_and_of_one(self):
         self.check((
-            (join(join(C, E), B, both(TRUE, cmp("<", F[4], num(3)))), join(join(C, E, TRUE), B, cmp("<", F[4], num(3)))),
+            (join(join(C, E), B, both(TRUE, cmp("<", F[4], num(3)))),
+             join(join(C, E, TRUE), B, cmp("<", F[4], num(3)))),
             (join(join(C, E), B, cmp("<", F[3], field(1, 1))), join(join(C, E, cmp("<", F[3], field(1, 1))), B)),
         ))
 
@@ -120,10 +137,13 @@ class ReorderTest(unittest.TestCase):
         wanted = ("project", moved(4, 5, 0, 1, 2, 3), join(join(B, C), A))
         left = ("join", True, equal(F[0], F[6]), three, B)
         self.check((
-            (("sort", up(0), ("filter", TRUE, three)), ("sort", up(0), ("filter", TRUE, wanted))), (left, (*left[:3], wanted, B)),
-            (("union", True, three, three), ("union", True, wanted, wanted)), (join(("distinct", three), E), join(("distinct", wanted), E)),
+            (("sort", up(0), ("filter", TRUE, three)), ("sort", up(0), ("filter", TRUE, wanted))),
+            (left, (*left[:3], wanted, B)),
+            (("union", True, three, three), ("union", True, wanted, wanted)),
+            (join(("distinct", three), E), join(("distinct", wanted), E)),
             (("filter", ("exists", three), A), ("filter", ("exists", three), A)),
-            (join(join(A, ("join", True, TRUE, C, E)), B), ("project", moved(6, 7, 0, 1, 2, 3, 4, 5), join(join(("join", True, TRUE, C, E), B), A))),
+            (join(join(A, ("join", True, TRUE, C, E)), B), ("project", moved(6, 7, 0, 1, 2, 3, 4, 5),
+              join(join(("join", True, TRUE, C, E), B), A))),
         ))
 
     def test_left_joins_are_sides(self):
@@ -135,8 +155,10 @@ class ReorderTest(unittest.TestCase):
         whole = tuple((tree, False) for tree in fields(6))
         wanted = ("project", moved(4, 5, 0, 1, 2, 3), join(join(B, C), A))
         self.check((
-            (("limit", 3, 0, three), ("limit", 3, 0, three)), (("limit", 3, 0, ("sort", up(0), three)), ("limit", 3, 0, ("sort", up(0), three))),
-            (("limit", 3, 0, ("sort", whole, three)), ("limit", 3, 0, ("sort", whole, wanted))), (("limit", None, 0, three), ("limit", None, 0, wanted)),
+            (("limit", 3, 0, three), ("limit", 3, 0, three)),
+            (("limit", 3, 0, ("sort", up(0), three)), ("limit", 3, 0, ("sort", up(0), three))),
+            (("limit", 3, 0, ("sort", whole, three)), ("limit", 3, 0, ("sort", whole, wanted))),
+            (("limit", None, 0, three), ("limit", None, 0, wanted)),
         ))
 
     def test_six_and_seven_sides(self):
@@ -155,8 +177,10 @@ class ReorderTest(unittest.TestCase):
     def test_rows_are_the_same(self):
         source = drawn_source()
         for counts in ({"t": 7, "u": 5, "e": 0}, {"t": 1, "u": 500}, {}):
-            for tests in (both(equal(F[0], F[3]), equal(F[5], F[1])), both(cmp("<", F[5], F[0]), cmp("<>", F[8], num(3)), equal(F[1], F[6])), TRUE):
-                plan = ("join", False, tests, join(T, U), ("join", False, equal(F[0], F[4]), T, ("join", True, equal(F[0], F[3]), T, U)))
+            for tests in (both(equal(F[0], F[3]), equal(F[5], F[1])),
+                both(cmp("<", F[5], F[0]), cmp("<>", F[8], num(3)), equal(F[1], F[6])), TRUE):
+                plan = ("join", False, tests, join(T, U), ("join", False, equal(F[0], F[4]), T,
+                        ("join", True, equal(F[0], F[3]), T, U)))
                 rows = sorted(Evaluator(source).plan_rows(plan), key=row_rank)
                 for found in (reorder(plan, counts), reorder(rewrite(plan), counts)):
                     self.assertEqual(sorted(Evaluator(source).plan_rows(found), key=row_rank), rows)

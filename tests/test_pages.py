@@ -17,7 +17,8 @@ class PagesTest(unittest.TestCase):
     def test_pages(self):
         page = Page(2, 7, [[[1, 2], [3]], ((4,), ())])
         self.assertEqual(page.shown(), (2, 7, (((1, 2), (3,)), ((4,), ()))))
-        self.assertEqual((page.kind, page.link, page.cells, page.size()), (2, 7, (((1, 2), (3,)), ((4,), ())), 11 + 7 + 5))
+        self.assertEqual((page.kind, page.link, page.cells, page.size()),
+            (2, 7, (((1, 2), (3,)), ((4,), ())), 11 + 7 + 5))
         self.assertEqual(Page(1, 0, ()).size(), 11)
 
     def test_bytes(self):
@@ -37,7 +38,8 @@ class PagesTest(unittest.TestCase):
 
     def test_pages_that_fit_exactly_or_not(self):
         for size in (96, 97, 200):
-            for cells in ([((1,) * (size - 15), ())], [((), (1,) * (size - 15))], [((5,), ())] * ((size - 16) // 5) + [((1,) * ((size - 16) % 5 + 1), ())]):
+            for cells in ([((1,) * (size - 15), ())], [((), (1,) * (size - 15))],
+                [((5,), ())] * ((size - 16) // 5) + [((1,) * ((size - 16) % 5 + 1), ())]):
                 page = Page(3, 1, cells)
                 self.assertEqual(page.size(), size)
                 self.assertEqual(page_from(page_bytes(page, size)).shown(), page.shown())
@@ -49,7 +51,8 @@ class PagesTest(unittest.TestCase):
         chance = random.Random(2)
         for _ in range(200):
             some = lambda most: tuple(chance.randint(0, 255) for _ in range(chance.randint(0, most)))
-            page = Page(chance.randint(1, 4), chance.choice((0, 1, 2 ** 32 - 1)), [(some(9), some(9)) for _ in range(chance.randint(0, 4))])
+            page = Page(chance.randint(1, 4), chance.choice((0, 1, 2 ** 32 - 1)),
+                [(some(9), some(9)) for _ in range(chance.randint(0, 4))])
             self.assertEqual(page_from(page_bytes(page, 120)).shown(), page.shown())
 
     def test_damaged_pages(self):
@@ -69,14 +72,19 @@ class PagesTest(unittest.TestCase):
 
     def test_contents_that_are_none(self):
         for data in (
-            (0, 0, 0, 0, 0, 0, 0), (5, 0, 0, 0, 0, 0, 0), (255, 0, 0, 0, 0, 0, 0), (2, 0, 0, 0, 0, 0, 0, 1), (2, 0, 0, 0, 0, 0, 0, 0, 0, 7),
-            (2, 0, 0, 0, 0, 0, 1), (2, 0, 0, 0, 0, 0, 1, 0, 0, 0), (2, 0, 0, 0, 0, 0, 1, 0, 1, 0, 0), (2, 0, 0, 0, 0, 0, 1, 0, 0, 0, 1),
-            (2, 0, 0, 0, 0, 0, 1, 0, 1, 0, 1, 5), (2, 0, 0, 0, 0, 0, 2, 0, 1, 0, 0, 5), (2, 0, 0, 0, 0, 0, 2, 0, 1, 0, 0, 5, 0, 0, 0), (2, 0, 0, 0, 0, 255, 255),
-            (2, 0, 0, 0, 0, 0, 1, 255, 255, 0, 0, 0, 0), (2, 0, 0, 0, 0, 0, 1, 0, 1, 0, 0, 5, 9), (), (2,), (2, 0, 0, 0, 0, 0),
+            (0, 0, 0, 0, 0, 0, 0), (5, 0, 0, 0, 0, 0, 0), (255, 0, 0, 0, 0, 0, 0), (2, 0, 0, 0, 0, 0, 0, 1),
+            (2, 0, 0, 0, 0, 0, 0, 0, 0, 7),
+            (2, 0, 0, 0, 0, 0, 1), (2, 0, 0, 0, 0, 0, 1, 0, 0, 0), (2, 0, 0, 0, 0, 0, 1, 0, 1, 0, 0),
+            (2, 0, 0, 0, 0, 0, 1, 0, 0, 0, 1),
+            (2, 0, 0, 0, 0, 0, 1, 0, 1, 0, 1, 5), (2, 0, 0, 0, 0, 0, 2, 0, 1, 0, 0, 5),
+            (2, 0, 0, 0, 0, 0, 2, 0, 1, 0, 0, 5, 0, 0, 0), (2, 0, 0, 0, 0, 255, 255),
+            (2, 0, 0, 0, 0, 0, 1, 255, 255, 0, 0, 0, 0), (2, 0, 0, 0, 0, 0, 1, 0, 1, 0, 0, 5, 9), (), (2,),
+            (2, 0, 0, 0, 0, 0),
         ):
             with self.assertRaises(PageFault, msg=data):
                 page_from(summed(*data))
-        for data in ((1, 0, 0, 0, 0, 0, 0), (2, 0, 0, 0, 0, 0, 0, 0), (2, 0, 0, 0, 0, 0, 1, 0, 0, 0, 0), (4, 255, 255, 255, 255, 0, 1, 0, 1, 0, 0, 5, 0)):
+        for data in ((1, 0, 0, 0, 0, 0, 0), (2, 0, 0, 0, 0, 0, 0, 0), (2, 0, 0, 0, 0, 0, 1, 0, 0, 0, 0),
+            (4, 255, 255, 255, 255, 0, 1, 0, 1, 0, 0, 5, 0)):
             page = page_from(summed(*data))
             self.assertEqual(page_bytes(page, len(data) + 4), summed(*data))
 

@@ -33,7 +33,8 @@ class OpenTest(unittest.TestCase):
         self.check(parse_expression, lambda many: nested("(", "-5", ")", many), 1)
 
     def test_nots_minuses_and_brackets_together(self):
-        self.check(parse_expression, lambda many: nested("not ", nested("(", nested("- ", "a", "", 20), ")", 20), "", many), 41)
+        self.check(parse_expression, lambda many: nested("not ", nested("(", nested("- ", "a", "", 20), ")", 20), "",
+                many), 41)
 
     def test_members_arguments_and_arms(self):
         self.check(parse_expression, lambda many: nested("count(", "a", ")", many), 1)
@@ -67,9 +68,12 @@ class OpenTest(unittest.TestCase):
         plain = parse("select a from t, u")
         for many in (1, 58, 59, 60, 61, 62, 500, 6000):
             self.assertEqual(parse("select a from " + nested("(", "t, u", ")", many)), plain)
-            self.assertEqual(parse("select a from " + nested("(", "t join u on b = c", ")", many)), parse("select a from t join u on b = c"))
-        self.check(parse, lambda many: "select a from " + nested("(", "t join u on " + nested("(", "b", ")", many), ")", 70), 2)
-        self.check(parse, lambda many: "select a from " + nested("(", "t, (select " + nested("(", "b", ")", many) + ") as s", ")", 70), 3)
+            self.assertEqual(parse("select a from " + nested("(", "t join u on b = c", ")", many)),
+                parse("select a from t join u on b = c"))
+        self.check(parse, lambda many: "select a from " + nested("(", "t join u on " + nested("(", "b", ")", many), ")",
+                70), 2)
+        self.check(parse, lambda many: "select a from " + nested("(",
+                "t, (select " + nested("(", "b", ")", many) + ") as s", ")", 70), 3)
         parse("select a from " + ", ".join(["(t, u)"] * 90))
 
     def test_clauses_of_a_query(self):
@@ -127,10 +131,14 @@ class ManyBracketsTest(unittest.TestCase):
     def test_texts_that_are_none(self):
         for many in (3, 61, 1000, 6000):
             for form in (
-                "select a from {0}t, u", "select a from t, u{1}", "select a from {0}t{1}", "select a from {0}t as s{1}", "select a from {0}{1}",
-                "select a from {0}", "select a from {0}t, u{1})", "select a from ({0}t, u{1}", "select a from {0}t,{1}", "select a from {0}select b{1}",
-                "select a from {0}t join u{1}", "select a from {0}t, u{1} as s", "select a from t join {0}u on b = c{1}", "insert into t {0}",
-                "select a from {0}t left u{1}", "explain {0}", "select a where {0}", "select a in {0}", "{0}", "create table t {0}",
+                "select a from {0}t, u", "select a from t, u{1}", "select a from {0}t{1}", "select a from {0}t as s{1}",
+                "select a from {0}{1}",
+                "select a from {0}", "select a from {0}t, u{1})", "select a from ({0}t, u{1}", "select a from {0}t,{1}",
+                "select a from {0}select b{1}",
+                "select a from {0}t join u{1}", "select a from {0}t, u{1} as s",
+                "select a from t join {0}u on b = c{1}", "insert into t {0}",
+                "select a from {0}t left u{1}", "explain {0}", "select a where {0}", "select a in {0}", "{0}",
+                "create table t {0}",
             ):
                 text = form.format("(" * many, ")" * many)
                 with self.assertRaises(TextError, msg=text[:80]):
@@ -138,13 +146,15 @@ class ManyBracketsTest(unittest.TestCase):
 
     def test_texts_that_are_too_deep_or_too_open(self):
         for many in (98, 1000, 20000):
-            for form in ("select a from {0}t, u{1}", "{0}select a{1}", "select a where {0}b{1}", "insert into t {0}select a{1}", "select a from {0}select b{1} as s"):
+            for form in ("select a from {0}t, u{1}", "{0}select a{1}", "select a where {0}b{1}",
+                "insert into t {0}select a{1}", "select a from {0}select b{1} as s"):
                 text = form.format("(" * many, ")" * many)
                 if "t, u" in form:
                     parse(text)
                 else:
                     self.assertRaises(TextError, parse, text)
-            for text in ("select a from " + "t, (" * many + "u" + ")" * many, "select a from " + "(" * many + "t, u" + "), v" * many,
+            for text in ("select a from " + "t, (" * many + "u" + ")" * many,
+                "select a from " + "(" * many + "t, u" + "), v" * many,
                          "select a from " + "t join (" * many + "u, v" + ") on b" * many):
                 self.assertRaises(TextError, parse, text)
 

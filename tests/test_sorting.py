@@ -22,9 +22,12 @@ def plainly_sorted(pairs, descending):
 class SortingTest(unittest.TestCase):
     def test_ordered_pairs(self):
         for one, other, descending, wanted in (
-            ((1,), (2,), (False,), True), ((2,), (1,), (False,), False), ((1,), (1,), (False,), True), ((1,), (2,), (True,), False), ((2,), (1,), (True,), True),
-            ((1,), (1,), (True,), True), ((None,), (1,), (False,), True), ((None,), (1,), (True,), False), ((1,), ("a",), (False,), True), ((1,), (None,), (True,), True),
-            ((1, 5), (1, 4), (False, False), False), ((1, 5), (1, 4), (False, True), True), ((1, 5), (2, 4), (True, True), False), (("a", 1), ("b", 0), (False, True), True),
+            ((1,), (2,), (False,), True), ((2,), (1,), (False,), False), ((1,), (1,), (False,), True),
+            ((1,), (2,), (True,), False), ((2,), (1,), (True,), True),
+            ((1,), (1,), (True,), True), ((None,), (1,), (False,), True), ((None,), (1,), (True,), False),
+            ((1,), ("a",), (False,), True), ((1,), (None,), (True,), True),
+            ((1, 5), (1, 4), (False, False), False), ((1, 5), (1, 4), (False, True), True),
+            ((1, 5), (2, 4), (True, True), False), (("a", 1), ("b", 0), (False, True), True),
             ((None, None), (None, None), (True, False), True), ((), (), (), True),
         ):
             self.assertIs(ordered_pair(row_rank(one), row_rank(other), descending), wanted, (one, other, descending))
@@ -49,7 +52,8 @@ class SortingTest(unittest.TestCase):
     def test_runs_of_any_length(self):
         chance = random.Random(5)
         for many in (0, 1, 2, 3, 4, 5, 7, 8, 9, 16, 31):
-            rows = ranked([(chance.choice((None, 1, 2, 3)), chance.choice((None, "a", "b")), place) for place in range(many)])
+            rows = ranked([(chance.choice((None, 1, 2, 3)), chance.choice((None, "a", "b")),
+                        place) for place in range(many)])
             for descending in ((False, False), (True, False), (False, True), (True, True)):
                 wanted = plainly_sorted(rows, descending)
                 for limit in (1, 2, 3, 4, 8, many + 1, max(1, many), max(1, many - 1), 1000):
@@ -68,7 +72,8 @@ class SortingTest(unittest.TestCase):
                     sort_rows(rows, (False,), limit)
 
     def test_run_counts(self):
-        for many, limit, runs in ((0, 3, 0), (1, 3, 1), (3, 3, 1), (4, 3, 2), (6, 3, 2), (7, 3, 3), (5, 1, 5), (5, 100, 1), (5, 0, 1), (0, 0, 0)):
+        for many, limit, runs in ((0, 3, 0), (1, 3, 1), (3, 3, 1), (4, 3, 2), (6, 3, 2), (7, 3, 3), (5, 1, 5),
+            (5, 100, 1), (5, 0, 1), (0, 0, 0)):
             self.assertEqual(run_count(many, limit), runs, (many, limit))
 
 

@@ -12,11 +12,15 @@ HIGHEST = 9223372036854775807
 class SummaryTest(unittest.TestCase):
     def test_bounds(self):
         for values, shown in (
-            ([], (0, 0, 0, ())), ([None, None], (2, 2, 0, ())), ([5], (1, 0, 1, ((1, 5),))), ([5, None, 5], (3, 1, 1, ((1, 5), (1, 5)))),
+            ([], (0, 0, 0, ())), ([None, None], (2, 2, 0, ())), ([5], (1, 0, 1, ((1, 5),))),
+            ([5, None, 5], (3, 1, 1, ((1, 5), (1, 5)))),
             ([7, 6, 5, 4, 3, 2, 1], (7, 0, 7, row_rank(range(1, 8)))), (list(range(8)), (8, 0, 8, row_rank(range(8)))),
-            (list(range(1, 10)), (9, 0, 9, row_rank((1, 2, 3, 4, 5, 6, 7, 9)))), (list(range(1, 17)), (16, 0, 16, row_rank(range(2, 17, 2)))),
-            (list(range(1, 18)) + [None], (18, 1, 17, row_rank((2, 4, 6, 8, 10, 12, 14, 17)))), ([1] * 20, (20, 0, 1, row_rank([1] * 8))),
-            ([1] * 10 + [2] * 5 + [3], (16, 0, 3, row_rank((1, 1, 1, 1, 1, 2, 2, 3)))), (["b", None, "a", "b"], (4, 1, 2, row_rank(("a", "b", "b")))),
+            (list(range(1, 10)), (9, 0, 9, row_rank((1, 2, 3, 4, 5, 6, 7, 9)))),
+            (list(range(1, 17)), (16, 0, 16, row_rank(range(2, 17, 2)))),
+            (list(range(1, 18)) + [None], (18, 1, 17, row_rank((2, 4, 6, 8, 10, 12, 14, 17)))),
+            ([1] * 20, (20, 0, 1, row_rank([1] * 8))),
+            ([1] * 10 + [2] * 5 + [3], (16, 0, 3, row_rank((1, 1, 1, 1, 1, 2, 2, 3)))),
+            (["b", None, "a", "b"], (4, 1, 2, row_rank(("a", "b", "b")))),
             ([HIGHEST, -HIGHEST, "", 0], (4, 0, 4, row_rank((-HIGHEST, 0, HIGHEST, "")))),
         ):
             self.assertEqual(summarize(values).shown(), shown, values)
@@ -45,14 +49,16 @@ class SummaryTest(unittest.TestCase):
 
     def test_equal_rows(self):
         for values, many in (
-            ([], 0), ([None], 0), ([1], 1), ([1, 1, 1], 3), ([1, 1, 2], 2), ([1, 2, 3, 3, 3], 2), ([1, 2, None, None, None], 1), (list(range(50)), 1), ([1, 2] * 5 + [3], 4),
+            ([], 0), ([None], 0), ([1], 1), ([1, 1, 1], 3), ([1, 1, 2], 2), ([1, 2, 3, 3, 3], 2),
+            ([1, 2, None, None, None], 1), (list(range(50)), 1), ([1, 2] * 5 + [3], 4),
         ):
             self.assertEqual(summarize(values).equal_rows(), many, values)
 
     def test_below_rows(self):
         summary = summarize(list(range(1, 18)) + [None] * 3)
         for value, many in (
-            (None, 0), (-HIGHEST, 0), (1, 0), (2, 0), (3, 2), (4, 2), (5, 4), (9, 8), (14, 12), (15, 14), (17, 14), (18, 17), (HIGHEST, 17), ("", 17), ("a", 17),
+            (None, 0), (-HIGHEST, 0), (1, 0), (2, 0), (3, 2), (4, 2), (5, 4), (9, 8), (14, 12), (15, 14), (17, 14),
+            (18, 17), (HIGHEST, 17), ("", 17), ("a", 17),
         ):
             self.assertEqual(summary.below_rows(value), many, value)
         for values in ([], [None]):
@@ -65,7 +71,8 @@ class SummaryTest(unittest.TestCase):
     def test_range_rows(self):
         summary = summarize(list(range(1, 17)) + [None] * 4)
         for low, high, many in (
-            (None, None, 16), (None, 9, 8), (9, None, 8), (5, 9, 4), (9, 5, 0), (-5, 99, 16), (99, None, 0), (None, -5, 0), (5, 5, 0), (99, 200, 0), (None, "a", 16),
+            (None, None, 16), (None, 9, 8), (9, None, 8), (5, 9, 4), (9, 5, 0), (-5, 99, 16), (99, None, 0),
+            (None, -5, 0), (5, 5, 0), (99, 200, 0), (None, "a", 16),
         ):
             self.assertEqual(summary.range_rows(low, high), many, (low, high))
         self.assertEqual(summarize([]).range_rows(None, None), 0)
@@ -75,10 +82,14 @@ class ShareTest(unittest.TestCase):
     def test_shares(self):
         summaries = summarize_rows([(number, number % 4, None, "x") for number in range(1, 17)], 4)
         for sides, many, rows in (
-            ((), 16, 16), (((0, "=", 5),), 16, 1), (((1, "=", 5),), 16, 4), (((1, "=", 5),), 32, 8), (((3, "=", "y"),), 16, 16), (((0, "<", 9),), 16, 8),
-            (((0, ">=", 9),), 16, 8), (((0, ">=", 5),), 16, 12), (((0, "<", -5),), 16, 0), (((0, ">=", -5),), 16, 16), (((0, "<", 99),), 16, 16), (((0, ">=", 99),), 16, 0),
-            (((1, "=", 1), (0, "<", 9)), 16, 2), (((0, "=", 1), (1, "=", 1)), 16, 0), (((1, "=", 1), (3, "=", "x")), 100, 25), (((2, "=", 1),), 16, 0),
-            (((2, ">=", 1),), 16, 0), (((0, "=", None),), 16, 0), (((1, "=", 1), (0, "<", None)), 16, 0), (((0, ">", None),), 16, 0), (((1, "=", 1),), 0, 0),
+            ((), 16, 16), (((0, "=", 5),), 16, 1), (((1, "=", 5),), 16, 4), (((1, "=", 5),), 32, 8),
+            (((3, "=", "y"),), 16, 16), (((0, "<", 9),), 16, 8),
+            (((0, ">=", 9),), 16, 8), (((0, ">=", 5),), 16, 12), (((0, "<", -5),), 16, 0), (((0, ">=", -5),), 16, 16),
+            (((0, "<", 99),), 16, 16), (((0, ">=", 99),), 16, 0),
+            (((1, "=", 1), (0, "<", 9)), 16, 2), (((0, "=", 1), (1, "=", 1)), 16, 0),
+            (((1, "=", 1), (3, "=", "x")), 100, 25), (((2, "=", 1),), 16, 0),
+            (((2, ">=", 1),), 16, 0), (((0, "=", None),), 16, 0), (((1, "=", 1), (0, "<", None)), 16, 0),
+            (((0, ">", None),), 16, 0), (((1, "=", 1),), 0, 0),
         ):
             self.assertEqual(expected_share(summaries, sides, many), rows, sides)
 
