@@ -131,7 +131,9 @@ def expected_rows(plan, counts):
             many = min(many, part_left(test, many))
         return many
     if plan[0] == "join":
-        return expected_pairs(plan[2], inner[0] * inner[1])
+        pairs = expected_pairs(plan[2], inner[0] * inner[1])
+        # A left join keeps each row of its first side.
+        return max(pairs, inner[0]) if plan[1] else pairs
     if plan[0] == "group":
         return 1 if plan[1] == () else inner[0]
     if plan[0] == "union":

@@ -65,9 +65,16 @@ def expected_share(summaries, sides, many):
 
 
 def asked_rows(summary, sign, value):
-    """Return the number of rows of a column that are expected to compare so with a value, a bound's own rows or not."""
+    """Return the number of rows expected to compare so with a value, at most those without NULL."""
+    known = summary.range_rows(None, None)
+    below = summary.below_rows(value)
+    equal = summary.equal_rows()
     if sign == "=":
-        return summary.equal_rows()
-    if sign in ("<", "<="):
-        return summary.range_rows(None, value)
-    return summary.range_rows(value, None)
+        return equal
+    if sign == "<":
+        return below
+    if sign == "<=":
+        return min(known, below + equal)
+    if sign == ">":
+        return max(0, known - below - equal)
+    return known - below

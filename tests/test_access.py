@@ -7,7 +7,7 @@ from tablestack.codec import key_of, upper_key
 from tablestack.errors import KindFault, PlanFault, TextError
 from tablestack.evaluate import Evaluator
 from tests.drawn_plans import drawn_source
-from tests.trees import FAULTY, NULL, TRUE, UNIT, both, cmp, equal, field, num, text
+from tests.trees import FALSE, FAULTY, NULL, TRUE, UNIT, both, cmp, equal, field, num, text
 
 HIGHEST = 9223372036854775807
 T, U = ("scan", "t", 3), ("scan", "u", 2)
@@ -186,6 +186,23 @@ class ExpectedRowsTest(unittest.TestCase):
             (("join", False, None, ("filter", less, T), U), 680),
             (("join", False, equal(F0, F1), ("join", False, None, U, U), UNIT), 41),
         ))
+
+    def test_left_joins(self):
+        less = cmp("<", F0, num(1))
+        empty = ("scan", "e", 1)
+        self.check((
+            (("join", True, None, UNIT, empty), 1), (("join", True, less, UNIT, empty), 1),
+            (("join", True, None, T, empty), 100), (("join", True, equal(F0, F2), T, empty), 100),
+            (("join", True, both(equal(F0, F2), less), T, U), 100), (("join", True, equal(F0, F2), T, U), 201),
+            (("join", True, both(equal(F0, F2), less), U, T), 68), (("join", True, both(equal(F0, F2), less, less), U, T), 23),
+            (("join", True, both(equal(F0, F2), equal(F0, F2), less), U, T), 20), (("join", True, less, empty, T), 1),
+            (("join", True, None, empty, T), 0), (("join", True, None, T, U), 2000), (("join", True, None, T, UNIT), 100),
+            (("join", True, FALSE, ("filter", equal(F0, num(1)), T), ("scan", "none", 1)), 11),
+            (("join", True, None, ("join", True, None, T, empty), empty), 100),
+            (("join", False, None, ("join", True, None, T, empty), U), 2000),
+            (("filter", equal(F0, num(1)), ("join", True, None, T, empty)), 11),
+        ))
+        self.assertEqual(expected_rows(("join", True, None, UNIT, ("scan", "t", 1)), {}), 1)
 
     def test_others_as_they_read(self):
         self.check((

@@ -93,6 +93,37 @@ class ShareTest(unittest.TestCase):
         ):
             self.assertEqual(expected_share(summaries, sides, many), rows, sides)
 
+    def test_each_sign(self):
+        eight = summarize_rows([(number, "x") for number in range(8)], 2)
+        nulls = [summarize([0, 1, 2, 3, 4, 5, 6, 7, None, None, None, None])]
+        pairs = [summarize([1, 1, 1, 1, 2, 2, 2, 2])]
+        for summaries, many, value, wanted in (
+            (eight, 8, 3, (3, 4, 1, 4, 5)), (eight, 8, 0, (0, 1, 1, 7, 8)), (eight, 8, 7, (7, 8, 1, 0, 1)),
+            (eight, 8, -5, (0, 1, 1, 7, 8)), (eight, 8, 99, (8, 8, 1, 0, 0)), (eight, 80, 3, (30, 40, 10, 40, 50)),
+            (nulls, 12, 3, (3, 4, 1, 4, 5)), (nulls, 12, -5, (0, 1, 1, 7, 8)), (nulls, 12, 99, (8, 8, 1, 0, 0)),
+            (pairs, 8, 1, (0, 4, 4, 4, 8)), (pairs, 8, 2, (4, 8, 4, 0, 4)), (pairs, 8, 3, (8, 8, 4, 0, 0)),
+            ([summarize([5] * 3)], 3, 5, (0, 3, 3, 0, 3)), ([summarize([5] * 3)], 3, 6, (3, 3, 3, 0, 0)),
+        ):
+            found = [expected_share(summaries, ((0, sign, value),), many) for sign in ("<", "<=", "=", ">", ">=")]
+            self.assertEqual(tuple(found), wanted, (many, value))
+
+    def test_several_conditions_together(self):
+        summaries = summarize_rows([(number, number % 2) for number in range(8)], 2)
+        for sides, rows in (
+            (((0, ">", 3), (0, "<=", 5)), 3), (((0, "<=", 3), (1, "=", 1)), 2), (((0, ">", 99), (1, "=", 1)), 0),
+            (((0, "<=", 99), (0, ">=", -5)), 8), (((0, ">", 3), (0, "<=", None)), 0), (((1, ">", 0), (0, "<=", 3)), 2),
+            (((1, "<=", 0), (1, "<=", 0)), 2),
+        ):
+            self.assertEqual(expected_share(summaries, sides, 8), rows, sides)
+
+    def test_never_fewer_than_none_nor_more_than_all(self):
+        chance = random.Random(4)
+        for _ in range(300):
+            values = [chance.choice((None, 1, 2, 3, 4, 5, 9)) for _ in range(chance.randint(0, 20))]
+            sides = [(0, chance.choice(("=", "<", "<=", ">", ">=")), chance.randint(-1, 10)) for _ in range(2)]
+            found = expected_share([summarize(values)], sides, len(values))
+            self.assertTrue(0 <= found <= len(values) - values.count(None), (values, sides))
+
     def test_columns_without_values(self):
         for values in ([], [None, None]):
             for sign in ("=", "<", "<=", ">", ">="):
