@@ -1,5 +1,7 @@
 """Codec: values, rows and keys as bytes, which are tuples of numbers from 0 to 255, and back."""
 
+from itertools import accumulate
+
 from tablestack.errors import RecordFault, TextError
 from tablestack.values import HIGHEST
 
@@ -188,12 +190,12 @@ def value_from_record(data, place):
 
 
 def checksum(data):
-    """Return the checksum of bytes as four bytes: two sums by 65521."""
-    first = 1
-    second = 0
-    for one in data:
-        first = (first + one) % MODULUS
-        second = (second + first) % MODULUS
+    """Return the checksum of bytes as four bytes: two sums by 65521.
+
+    Each of the first one's values is 1 and the bytes so far; reckoning by 65521 only at the end gives the same.
+    """
+    first = (1 + sum(data)) % MODULUS
+    second = (len(data) + sum(accumulate(data))) % MODULUS
     return fixed(65536 * second + first, 4)
 
 
