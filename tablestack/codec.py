@@ -96,6 +96,22 @@ def value_from_key(data, place):
     return text_from_key(data, place + 1)
 
 
+def values_end(data, many):
+    """Return the place behind the first so many values of a key's bytes, None if it does not begin with as many."""
+    place = 0
+    for _ in range(many):
+        mark = data[place] if place < len(data) else 0
+        if mark == NULL_MARK:
+            place += 1
+        elif mark == INT_MARK:
+            place += 1 + INT_BYTES
+        elif mark == TEXT_MARK and TEXT_END in data[place:]:
+            place = data.index(TEXT_END, place) + 1
+        else:
+            return None
+    return place if place <= len(data) else None
+
+
 def text_from_key(data, place):
     """Return (text, place after it) of a key's bytes from a text's first character on."""
     signs = []

@@ -14,6 +14,8 @@ class Disk:
         self.blocks = {} if blocks is None else {number: tuple(blocks[number]) for number in blocks}
         self.log = tuple(log)
         self.waiting = []
+        # The last bytes of each waiting block, so that a read need not go through all that waits.
+        self.written = {}
         self.log_tail = ()
         self.fuse = None
         self.dead = False
@@ -36,15 +38,14 @@ class Disk:
 
     def has_block(self, number):
         """Return True if a block was written."""
-        return number in self.blocks or any(number == other for other, data in self.waiting)
+        return number in self.blocks or number in self.written
 
     def read_block(self, number):
         """Return the bytes last written to a block; raise DiskFault if there are none."""
         if self.dead:
             raise DiskFault("the disk has crashed")
-        for other, data in self.waiting[::-1]:
-            if other == number:
-                return data
+        if number in self.written:
+            return self.written[number]
         if number not in self.blocks:
             raise DiskFault(f"there is no block {number}")
         return self.blocks[number]
@@ -55,6 +56,7 @@ class Disk:
             raise DiskFault(f"a block has {self.block_size} bytes")
         self.step()
         self.waiting.append((number, tuple(data)))
+        self.written[number] = tuple(data)
 
     def sync_blocks(self):
         """Keep all written blocks."""
@@ -62,6 +64,7 @@ class Disk:
         for number, data in self.waiting:
             self.blocks[number] = data
         self.waiting = []
+        self.written = {}
 
     def append_log(self, data):
         """Append bytes to the log; they wait until the log is synced."""

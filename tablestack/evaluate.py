@@ -1,20 +1,27 @@
 """Evaluation: bound expressions to values and truths, and plans to rows, the plain way."""
 
 from tablestack.errors import PlanFault
-from tablestack.plans import inputs, width
+from tablestack.plans import inputs, reads_outside, width
 from tablestack.values import arithmetic, both, compare, concat, either, least_of, like, negated, rank, sum_of
 
 
 class Evaluator:
-    """A source of the tables' rows, and the rows of the queries outside, the nearest first."""
+    """A source of the tables' rows, and the rows of the queries outside, the nearest first.
+
+    Queries that read no row outside have the same rows wherever they stand; these are kept by the plan's text, None for
+    a query that does read one.
+    """
 
     def __init__(self, source, rows=()):
         self.origin = source
         self.rows = tuple(rows)
+        self.kept_rows = {}
 
     def within(self, row):
         """Return an evaluator of expressions on a row."""
-        return Evaluator(self.origin, (row, *self.rows))
+        inner = Evaluator(self.origin, (row, *self.rows))
+        inner.kept_rows = self.kept_rows
+        return inner
 
     def value_of(self, tree):
         """Return the value of a bound expression, a truth for a condition."""
@@ -25,8 +32,19 @@ class Evaluator:
 
     def plan_rows(self, plan):
         """Return the rows of a plan, in the order that the plain way gives."""
+        if self.rows == ():
+            # The tables' rows may be others than when this evaluator was asked before.
+            self.kept_rows.clear()
         inner = [self.plan_rows(one) for one in inputs(plan)]
         return operation_rows(self, plan, inner)
+
+    def query_rows(self, plan):
+        """Return the rows of the plan of a query within an expression."""
+        text = repr(plan)
+        if text not in self.kept_rows:
+            self.kept_rows[text] = None if reads_outside(plan) else self.plan_rows(plan)
+        rows = self.kept_rows[text]
+        return self.plan_rows(plan) if rows is None else rows
 
 
 def null_value(_, tree):
@@ -107,7 +125,7 @@ def in_truth(evaluator, tree):
 def inquery_truth(evaluator, tree):
     """Return the truth of a comparison with the rows of a query."""
     value = evaluator.value_of(tree[1])
-    return asked(member(value, [row[0] for row in evaluator.plan_rows(tree[2])]), tree[3])
+    return asked(member(value, [row[0] for row in evaluator.query_rows(tree[2])]), tree[3])
 
 
 def within_bounds(value, low, high):
@@ -136,12 +154,12 @@ def case_value(evaluator, tree):
 
 def exists_truth(evaluator, tree):
     """Return whether a query has rows."""
-    return evaluator.plan_rows(tree[1]) != []
+    return evaluator.query_rows(tree[1]) != []
 
 
 def scalar_value(evaluator, tree):
     """Return the value of a query."""
-    return least_scalar(evaluator.plan_rows(tree[1]))
+    return least_scalar(evaluator.query_rows(tree[1]))
 
 
 VALUES = {

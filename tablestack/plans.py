@@ -195,6 +195,12 @@ def is_correlated(tree):
     return any(level > 0 for level, place in reads(tree))
 
 
+def reads_outside(plan):
+    """Return True if a plan's expressions read a row outside the plan."""
+    trees = [tree for operation in operations(plan, False) for tree in expressions_of(operation)]
+    return any(is_correlated(tree) for tree in trees)
+
+
 def moved_fields(tree, table, up=0):
     """Return an expression whose places in the row up levels outside are replaced by those of a table."""
     if tree[0] == "field":

@@ -4,6 +4,10 @@ import importlib
 import inspect
 import unittest
 
+from tablestack.cursor import Cursor
+from tablestack.disk import Disk
+from tablestack.server import connect
+
 FUNCTIONS = {
     "values": "kind_of(value) in_range(number) rank(value) row_rank(row) same_kind(one, other) compare(sign, one, other) "
               "arithmetic(sign, one, other) concat(one, other) both(one, other) either(one, other) negated(truth) "
@@ -41,6 +45,21 @@ FUNCTIONS = {
     "pages": "cell_room(block_size) page_bytes(page, block_size) page_from(data)",
     "journal": "frame(payload) image_record(number, data) end_record(stamp) read_frames(data) read_record(payload) "
                "read_groups(data) group_bytes(stamp, images)",
+    "pager": "format_disk(disk, capacity=16) recover(disk, capacity=16) is_same_page(one, other, block_size)",
+    "btree": "children_of(page) child_for(page, key) halves(page)",
+    "store": "version_key(row_key, stamp) split_version(key) check_indexes(store)",
+    "engine": "open_engine(disk, capacity=16)",
+    "explain": "bound_text(tree) operand_text(tree) operation_line(plan) explain_lines(plan, deep=0)",
+    "server": "connect(disk, capacity=16, options=None)",
+    "cursor": "open_cursor(session, text) fetch_all(cursor, many)",
+    "console": "table_lines(names, rows) answer_lines(answer) fault_word(fault) parameter_places(text) "
+               "filled(text, spots, values) literal_texts(text) normal_text(text)",
+    "dump": "column_declaration(column) table_declaration(catalog, table) index_declaration(catalog, index) "
+            "insert_texts(name, rows, many=5) dump(engine) table_order(catalog) view_order(catalog) "
+            "restore(statements, disk, capacity=16)",
+    "schedule": "statement_word(text) committed(events)",
+    "inspect": "tree_report(name, tree) reports(engine) page_sorts(engine) damaged_blocks(disk) "
+               "stale_blocks(engine) damaged(data) version_count(engine, name)",
 }
 CLASSES = {
     "lexer": {"Token": "__init__(self, word, value, place) shown(self)"},
@@ -64,6 +83,61 @@ CLASSES = {
                      "read_block(self, number) write_block(self, number, data) sync_blocks(self) append_log(self, data) "
                      "sync_log(self) clear_log(self) read_log(self) restarted(self, choices, kept)"},
     "pages": {"Page": "__init__(self, kind, link, cells) shown(self) size(self)"},
+    "pool": {
+        "Pool": "__init__(self, disk, capacity) page(self, number) put(self, number, page) group_images(self) "
+                "close_group(self) drop_group(self) flush(self)",
+    },
+    "pager": {
+        "Pager": "__init__(self, disk, capacity=16) page_count(self) last_stamp(self) page(self, number) "
+                 "put(self, number, page) fresh(self, page) free(self, number) free_pages(self) commit(self, stamp) "
+                 "cancel(self) checkpoint(self)",
+    },
+    "btree": {
+        "Tree": "__init__(self, pager, root) room(self) fits(self, key, value) path(self, key) lookup(self, key) "
+                "put(self, key, value) remove(self, key) scan(self, low=(), high=None) page_numbers(self) "
+                "clear(self) check(self)",
+    },
+    "store": {
+        "TableStore": "__init__(self, table, tree, indexes) row_key(self, row, number) next_number(self) "
+                      "visible(self, row_key, stamp) rows_at(self, stamp) rows_between(self, low, high, stamp) "
+                      "index_key(self, index, row) index_rows(self, name, low, high, stamp) "
+                      "write(self, row_key, row, stamp) vacuum(self, oldest)",
+        "Store": "__init__(self, pager) create_table(self, table, indexes) create_view(self, name, query) "
+                 "check(self)",
+    },
+    "engine": {
+        "Transaction": "__init__(self, engine, stamp) keyed_rows(self, name) table_rows(self, name) "
+                       "primary_rows(self, name, low, high) index_rows(self, name, low, high) "
+                       "row(self, name, row_key) change(self, name, gone, rows)",
+        "Engine": "__init__(self, pager) begin(self) next_number(self, name) conflicts(self, transaction) "
+                  "commit(self, transaction) rollback(self, transaction) define(self, change) oldest(self) "
+                  "vacuum(self) checkpoint(self) check(self)",
+    },
+    "server": {
+        "Options": "__init__(self, rules=('constants', 'merge', 'push', 'prune', 'distinct'), reordered=True, indexed=True, joins=('nested', 'hash', 'merge'), compiled=True, limit=0)",
+        "Answer": "__init__(self, word, names, rows, changed) shown(self)",
+        "Session": "__init__(self, engine, options=None) run(self, text) run_script(self, text) "
+                   "define(self, statement) within(self, statement, transaction) plan_rows(self, plan, transaction) "
+                   "change(self, statement, transaction)",
+    },
+    "cursor": {
+        "Cursor": "__init__(self, answer) fetch(self, many) skip(self, many) rest(self) close(self)",
+    },
+    "console": {
+        "Console": "__init__(self, session) enter(self, line)",
+    },
+    "dump": {
+        "Standby": "__init__(self, block_size) follow(self, disk) promote(self)",
+    },
+    "schedule": {
+        "Event": "__init__(self, number, text, answer, fault) shown(self)",
+        "Schedule": "__init__(self, engine, scripts, options=None) step(self, number) ready_sessions(self) "
+                    "run(self, choices)",
+        "Done": "__init__(self, number, first, last, events)",
+    },
+    "inspect": {
+        "TreeReport": "__init__(self, name, depth, leaves, inner, entries, used) shown(self)",
+    },
 }
 # Classes whose fields are read from outside: how one is made, and its fields with their values.
 FIELDS = {
@@ -80,6 +154,26 @@ FIELDS = {
     "physical": {"Chooser": (("catalog", {}, False), {"catalog": "catalog", "indexed": False})},
     "disk": {"Disk": ((96, {}, [1]), {"block_size": 96, "blocks": {}, "log": (1,), "waiting": [], "fuse": None, "dead": False, "steps": 0})},
     "pages": {"Page": ((2, 0, []), {"kind": 2, "link": 0, "cells": ()})},
+    "pool": {"Pool": ((Disk(96), 3), {"capacity": 3, "pages": {}, "changed": {}, "reads": 0, "writes": 0})},
+    "pager": {"Pager": ((Disk(96), 3), {"capacity": 3, "groups": 0})},
+    "btree": {"Tree": (("pager", 5), {"pager": "pager", "root": 5})},
+    "store": {"TableStore": (("table", "tree", {}), {"table": "table", "tree": "tree", "indexes": {}})},
+    "engine": {"Transaction": (("engine", 5), {"engine": "engine", "stamp": 5, "own": {}, "read": {}})},
+    "server": {
+        "Options": ((), {"indexed": True}),
+        "Answer": (("select", ["a"], [(1,)], 0), {"word": "select", "names": ("a",), "rows": ((1,),), "changed": 0}),
+        "Session": (("engine",), {"engine": "engine", "transaction": None}),
+    },
+    "console": {"Console": (("session",), {"session": "session"})},
+    "dump": {"Standby": ((96,), {"block_size": 96, "blocks": {}, "log": (), "copies": 0})},
+    "schedule": {
+        "Event": ((1, "begin", None, "fault"), {"number": 1, "text": "begin", "answer": None, "fault": "fault"}),
+        "Schedule": (("engine", [["begin"]]), {"events": []}),
+        "Done": ((1, 2, 3, ["e"]), {"number": 1, "first": 2, "last": 3, "events": ("e",)}),
+    },
+    "inspect": {
+        "TreeReport": (("t", 1, 2, 3, 4, 5), {"name": "t", "depth": 1, "leaves": 2, "inner": 3, "entries": 4, "used": 5}),
+    },
     "access": {"Bounds": (([("null",)], None, ("<", ("null",))), {"equals": (("null",),), "low": None, "high": ("<", ("null",))})},
 }
 
@@ -97,6 +191,17 @@ class InterfaceTest(unittest.TestCase):
                 made = getattr(found, one)(*arguments)
                 for name, value in fields.items():
                     self.assertEqual(getattr(made, name), value, (one, name))
+
+    def test_fields_of_an_open_database(self):
+        disk = Disk(96)
+        session = connect(disk, 3)
+        engine = session.engine
+        self.assertEqual((engine.stamp, engine.changed, engine.active, engine.pager.disk), (0, {}, [], disk))
+        store = engine.store
+        self.assertEqual((store.pager, store.catalog.tables, store.catalog_tree.root, store.stores), (engine.pager, {}, 1, {}))
+        self.assertEqual((engine.pager.pool.capacity, session.options.indexed, session.transaction), (3, True, None))
+        cursor = Cursor(session.run("select 1 as n"))
+        self.assertEqual((cursor.names, cursor.rows, cursor.place, cursor.closed), (("n",), ((1,),), 0, False))
 
     def test_functions(self):
         for module, text in FUNCTIONS.items():

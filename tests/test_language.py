@@ -26,7 +26,10 @@ BARRED = {
     "compile", "delattr", "dir", "eval", "exec", "exit", "gc", "globals", "help", "importlib", "locals",
     "methodcaller", "os", "super", "type", "vars", "sys", "typing", "enum", "dataclass", "format",
 }
+MODIFYING = {"append", "clear", "extend", "insert", "pop", "remove", "reverse", "setdefault", "update"}
 LIBRARY = {"heapq", "math", "itertools", "collections"}
+# Methods of a tree that have the names of a list's or dict's methods, as the interface wants.
+LIKE_BUILTIN = {"clear", "remove"}
 
 
 def files():
@@ -178,7 +181,30 @@ class LanguageTest(unittest.TestCase):
             self.assertIsInstance(node.value, ast.Name, place)
         elif node.attr in VALUE_NAMES and node.attr != "__init__":
             self.assertIn(node.attr, METHODS, place)
-        self.assertFalse(node.attr in functions and node.attr in METHODS, place)
+        self.assertFalse(node.attr in functions - LIKE_BUILTIN and node.attr in METHODS, place)
+
+    def test_what_is_iterated_is_not_modified(self):
+        for name, tree in trees():
+            for node in ast.walk(tree):
+                if isinstance(node, ast.For):
+                    for part in ast.walk(ast.Module(node.body, [])):
+                        self.assertNotIn(self.modified(part), self.iterated(node.iter), (name, part))
+
+    def iterated(self, node):
+        """Return the texts of what a loop goes over."""
+        if isinstance(node, ast.Call) and isinstance(node.func, ast.Name) and node.func.id in ("enumerate", "zip", "reversed"):
+            return [ast.unparse(one) for one in node.args]
+        if isinstance(node, ast.Call) and isinstance(node.func, ast.Attribute):
+            return [ast.unparse(node.func.value)]
+        return [ast.unparse(node)]
+
+    def modified(self, node):
+        """Return the text of what a statement or a call modifies."""
+        if isinstance(node, ast.Subscript) and not isinstance(node.ctx, ast.Load):
+            return ast.unparse(node.value)
+        if isinstance(node, ast.Call) and isinstance(node.func, ast.Attribute) and node.func.attr in MODIFYING:
+            return ast.unparse(node.func.value)
+        return None
 
     def test_strings(self):
         for name, tree in trees():
@@ -198,7 +224,9 @@ class LanguageTest(unittest.TestCase):
                 elif isinstance(node, ast.Attribute):
                     read.add(node.attr)
         self.assertEqual(read - assigned - own_names(ast.FunctionDef) - METHODS, set())
-        self.assertEqual(assigned & own_names(ast.FunctionDef), set())
+        classes = [node for _, tree in trees() for node in ast.walk(tree) if isinstance(node, ast.ClassDef)]
+        methods = {part.name for node in classes for part in node.body if isinstance(part, ast.FunctionDef)}
+        self.assertEqual(assigned & methods, set())
 
 
 if __name__ == "__main__":

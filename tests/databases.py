@@ -1,0 +1,45 @@
+"""Databases for tests: sessions over new disks, and what they hold."""
+
+from tablestack.disk import Disk
+from tablestack.errors import TableError
+from tablestack.server import Session, connect
+
+
+def session_with(*texts, size=400, capacity=16, options=None):
+    """Return a session over a new disk in which statements were carried out."""
+    session = connect(Disk(size), capacity, options)
+    for text in texts:
+        session.run(text)
+    return session
+
+
+def beside(session, options=None):
+    """Return another session over the same engine."""
+    return Session(session.engine, options)
+
+
+def held(engine):
+    """Return the catalog and the rows of all tables, as the last commit left them."""
+    store = engine.store
+    rows = [(name, [row for key, row in store.stores[name].rows_at(engine.stamp)]) for name in sorted(store.stores)]
+    return (store.catalog.shown(), rows)
+
+
+def values(held_rows):
+    """Return what is held with rows in the order of their values, since numbers of rows may be others elsewhere."""
+    catalog, rows = held_rows
+    return (catalog, [(name, sorted(map(repr, some))) for name, some in rows])
+
+
+def fault_of(session, text):
+    """Return the name of the fault that a statement raises, None for none."""
+    try:
+        session.run(text)
+    except TableError as fault:
+        return type(fault).__name__
+    return None
+
+
+def reopened(session):
+    """Return a session over the disk as it is found after a crash that keeps nothing unsynced."""
+    return connect(session.engine.pager.disk.restarted((), 0))
