@@ -63,7 +63,8 @@ class TreeTest(unittest.TestCase):
             self.assertTrue(pages[number].cells != () or number == tree.root)
             self.assertLessEqual(pages[number].size(), pager.disk.block_size)
             if pages[number].kind == INNER:
-                self.assertTrue(all(numbers.index(child) > numbers.index(number) for child in children_of(pages[number])))
+                self.assertTrue(all(numbers.index(child) > numbers.index(number)
+                    for child in children_of(pages[number])))
         self.assertEqual(len({len(tree.path(key)) for key in [(), *held]}), 1)
         for key in held:
             self.assertIn(key, [one for one, value in pager.page(tree.path(key)[-1]).cells])
@@ -73,7 +74,8 @@ class TreeTest(unittest.TestCase):
             tree = empty_tree(size)
             self.assertEqual((tree.room(), cell_room(size)), (room, room))
             for key, value, fine in (
-                ((), (), False), ((), (1,), False), ((0,), (), True), ((1,) * (room - 4), (), True), ((1,) * (room - 3), (), False),
+                ((), (), False), ((), (1,), False), ((0,), (), True), ((1,) * (room - 4), (), True),
+                ((1,) * (room - 3), (), False),
                 ((1,), (0,) * (room - 5), True), ((1,), (0,) * (room - 4), False), ((1,) * 5, (2,) * (room - 9), True),
             ):
                 self.assertEqual(tree.fits(key, value), fine, (size, key, value))
@@ -103,7 +105,8 @@ class TreeTest(unittest.TestCase):
             "one byte": [(number,) for number in range(256)],
             "two": [(number // 9, number % 9) for number in range(150)],
             "long": [(*fixed(number * 7919 % 251, 9), *fixed(number, 8)) for number in range(120)],
-            "equal beginnings": [(7,) * many + end for many in range(14) for end in ((), (1,), (9, 9)) if many + len(end)],
+            "equal beginnings": [(7,) * many + end for many in range(14) for end in ((), (1,),
+                (9, 9)) if many + len(end)],
         }
         chance = random.Random(2)
         orders = (sorted, lambda some: sorted(some, reverse=True), lambda some: chance.sample(some, len(some)))
@@ -122,7 +125,8 @@ class TreeTest(unittest.TestCase):
                         if many % 40 == 0:
                             self.check(tree, held)
                     self.check(tree, {})
-                    self.assertEqual((tree.page_numbers(), len(tree.pager.free_pages())), ([tree.root], tree.pager.page_count() - 3))
+                    self.assertEqual((tree.page_numbers(), len(tree.pager.free_pages())),
+                        ([tree.root], tree.pager.page_count() - 3))
                     tree.put(some[0], ())
                     self.check(tree, {some[0]: ()})
 
@@ -171,7 +175,8 @@ class TreeTest(unittest.TestCase):
         self.assertGreater(len(tree.path(())), 3)
         chance = random.Random(1)
         for _ in range(300):
-            low, high = sorted([(chance.randrange(8), chance.randrange(50), chance.choice((4, 5, 6))) for _ in range(2)])
+            low, high = sorted([(chance.randrange(8), chance.randrange(50),
+                chance.choice((4, 5, 6))) for _ in range(2)])
             way = tree.path(low)
             last = leaves.index(tree.path(high)[-1])
             # The leaf behind the second bound's own one is read only if that one has no key from the bound on.
@@ -240,7 +245,8 @@ class PartsTest(unittest.TestCase):
             page = Page(LEAF, 77, cells)
             self.assertGreater(page.size(), 96)
             left, right, key = halves(page)
-            self.assertEqual((left.cells + right.cells, left.kind, right.kind, right.link), (page.cells, LEAF, LEAF, 77))
+            self.assertEqual((left.cells + right.cells, left.kind, right.kind, right.link),
+                (page.cells, LEAF, LEAF, 77))
             self.assertTrue(left.cells[-1][0] < key <= right.cells[0][0])
             self.assertLessEqual(max(left.size(), right.size()), 96)
 

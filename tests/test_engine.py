@@ -40,11 +40,13 @@ def put(transaction, *rows):
 class SeenTest(unittest.TestCase):
     def test_new_engines(self):
         engine = open_engine(Disk(96), 1)
-        self.assertEqual((engine.stamp, engine.active, engine.changed, engine.store.catalog.shown()), (0, [], {}, ((), (), ())))
+        self.assertEqual((engine.stamp, engine.active, engine.changed, engine.store.catalog.shown()),
+            (0, [], {}, ((), (), ())))
         self.assertEqual((engine.pager.capacity, engine.check(), engine.oldest(), engine.vacuum()), (1, 2, 0, 0))
         self.assertRaises(PageFault, open_engine, Disk(95))
         transaction = engine.begin()
-        self.assertEqual((transaction.engine, transaction.stamp, transaction.own, list(transaction.read)), (engine, 1, {}, []))
+        self.assertEqual((transaction.engine, transaction.stamp, transaction.own, list(transaction.read)),
+            (engine, 1, {}, []))
 
     def test_rows_as_they_were_at_the_begin(self):
         engine = engine_with(*TABLES)
@@ -53,7 +55,8 @@ class SeenTest(unittest.TestCase):
         self.assertEqual(committed(engine, "t", [key(1)], [(0, (3, "z"))]), 3)
         late = engine.begin()
         self.assertEqual((early.table_rows("t"), late.table_rows("t")), ([(1, "x"), (2, "y")], [(2, "y"), (3, "z")]))
-        self.assertEqual((early.row("t", key(1)), late.row("t", key(1)), early.row("t", key(3)), late.row("t", key(3))), ((1, "x"), None, None, (3, "z")))
+        self.assertEqual((early.row("t", key(1)), late.row("t", key(1)), early.row("t", key(3)), late.row("t", key(3))),
+            ((1, "x"), None, None, (3, "z")))
         self.assertEqual(early.keyed_rows("t"), [(key(1), (1, "x")), (key(2), (2, "y"))])
         self.assertEqual(early.primary_rows("t", key(1), key(2)), [(1, "x")])
         self.assertEqual(late.index_rows("t.0", key_of(("x",)), None), [(2, "y"), (3, "z")])
@@ -91,8 +94,10 @@ class SeenTest(unittest.TestCase):
     def test_what_is_read(self):
         engine = engine_with(*TABLES)
         for read in (
-            lambda one: one.table_rows("t"), lambda one: one.keyed_rows("t"), lambda one: one.primary_rows("t", key(1), key(1)),
-            lambda one: one.index_rows("t.0", (), None), lambda one: one.row("t", key(1)), lambda one: put(one, (77, "q")),
+            lambda one: one.table_rows("t"), lambda one: one.keyed_rows("t"),
+            lambda one: one.primary_rows("t", key(1), key(1)),
+            lambda one: one.index_rows("t.0", (), None), lambda one: one.row("t", key(1)),
+            lambda one: put(one, (77, "q")),
         ):
             transaction = engine.begin()
             read(transaction)
@@ -102,7 +107,8 @@ class SeenTest(unittest.TestCase):
     def test_drawn_transactions(self):
         for seed in range(20):
             chance = random.Random(seed)
-            engine = engine_with("create table t (a int, b int, primary key (a))", "create table u (a int, b int)", size=200, capacity=chance.choice((1, 3)))
+            engine = engine_with("create table t (a int, b int, primary key (a))", "create table u (a int, b int)",
+                size=200, capacity=chance.choice((1, 3)))
             engine.define(lambda store: [store.create_index(index) for index in indexes_of_both()])
             held = {"t": {}, "u": {}}
             opened = []
@@ -137,7 +143,8 @@ class SeenTest(unittest.TestCase):
     def change(self, chance, engine, transaction, seen):
         name = chance.choice("tu")
         gone = [one for one in seen[name] if chance.random() < 0.3]
-        rows = [(engine.next_number("u") if name == "u" else 0, (chance.randrange(6), chance.choice((None, 1, 2)))) for _ in range(chance.randrange(3))]
+        rows = [(engine.next_number("u") if name == "u" else 0,
+            (chance.randrange(6), chance.choice((None, 1, 2)))) for _ in range(chance.randrange(3))]
         keys = [key(row[0]) if name == "t" else key(number) for number, row in rows]
         left = [one for one in seen[name] if one not in gone]
         if len(set(keys)) < len(keys) or any(one in left for one in keys):
@@ -154,8 +161,10 @@ class SeenTest(unittest.TestCase):
             self.assertEqual(transaction.keyed_rows(name), rows)
             for value in (None, 1, 2, 3):
                 low = key_of((value,))
-                self.assertEqual(transaction.index_rows(index, low, upper_key(low)), [row for one, row in rows if row[1] == value])
-            self.assertEqual(transaction.primary_rows(name, key(2), key(4)), [row for one, row in rows if key(2) <= one < key(4)])
+                self.assertEqual(transaction.index_rows(index, low, upper_key(low)),
+                    [row for one, row in rows if row[1] == value])
+            self.assertEqual(transaction.primary_rows(name, key(2), key(4)),
+                [row for one, row in rows if key(2) <= one < key(4)])
             for one in (key(2), key(5)):
                 self.assertEqual(transaction.row(name, one), seen[name].get(one))
 
@@ -179,7 +188,8 @@ class ChangeTest(unittest.TestCase):
 
     def test_keys(self):
         for gone, rows in (
-            ((), [(1, "q")]), ((), [(9, "q"), (9, "r")]), ([key(1)], [(2, "q")]), ([key(1)], [(1, "x"), (1, "q")]), ((), [(7, "q"), (4, "r")]),
+            ((), [(1, "q")]), ((), [(9, "q"), (9, "r")]), ([key(1)], [(2, "q")]), ([key(1)], [(1, "x"), (1, "q")]),
+            ((), [(7, "q"), (4, "r")]),
         ):
             self.refuse(gone, rows)
         self.one.change("t", [key(1), key(2)], [(0, (2, "x")), (0, (1, "y"))])
@@ -190,7 +200,8 @@ class ChangeTest(unittest.TestCase):
 
     def test_unique_columns(self):
         for gone, rows in (
-            ((), [(9, "x")]), ((), [(9, "q"), (8, "q")]), ([key(1)], [(9, "y")]), ([key(3)], [(3, "x")]), ([key(1), key(2)], [(1, "x"), (2, "x")]),
+            ((), [(9, "x")]), ((), [(9, "q"), (8, "q")]), ([key(1)], [(9, "y")]), ([key(3)], [(3, "x")]),
+            ([key(1), key(2)], [(1, "x"), (2, "x")]),
         ):
             self.refuse(gone, rows)
         put(self.one, (9, None), (8, None))
@@ -218,7 +229,8 @@ class ChangeTest(unittest.TestCase):
 
     def test_sizes_of_index_keys(self):
         # A cell has 47 bytes: 4, two integers of 9 bytes, the text's characters and 2, and 9 for the row's key.
-        engine = engine_with("create table t (a int, b int, c int, d text, primary key (a), unique (b, c, d))", size=200)
+        engine = engine_with("create table t (a int, b int, c int, d text, primary key (a), unique (b, c, d))",
+            size=200)
         transaction = engine.begin()
         self.assertRaises(ConstraintFault, transaction.change, "t", (), [(0, (1, 2, 3, "x" * 15))])
         transaction.change("t", (), [(0, (1, 2, 3, "x" * 14))])
@@ -273,9 +285,11 @@ class CommitTest(unittest.TestCase):
     def test_conflicts(self):
         engine = self.engine
         for read, names in (
-            (lambda one: put(one, (5, "q")), ["t"]), (lambda one: [one.table_rows("t"), one.change("u", (), [(9, (1, 1))])], ["t"]),
+            (lambda one: put(one, (5, "q")), ["t"]), (lambda one: [one.table_rows("t"), one.change("u", (), [(9, (1,
+                1))])], ["t"]),
             (lambda one: one.table_rows("t"), ["t"]), (lambda one: one.table_rows("u"), []),
-            (lambda one: one.change("u", (), [(8, (1, 1))]), []), (lambda one: [one.table_rows("u"), one.row("t", key(1))], ["t"]),
+            (lambda one: one.change("u", (), [(8, (1, 1))]), []),
+            (lambda one: [one.table_rows("u"), one.row("t", key(1))], ["t"]),
         ):
             one = engine.begin()
             read(one)
@@ -382,7 +396,8 @@ class CatalogTest(unittest.TestCase):
             store.create_view("t", "select 1")
 
         self.assertRaises(NameFault, engine.define, change)
-        self.assertEqual((engine.stamp, engine.store.catalog.shown(), engine.check(), engine.pager.disk.log), (1, shown, used, log))
+        self.assertEqual((engine.stamp, engine.store.catalog.shown(), engine.check(), engine.pager.disk.log),
+            (1, shown, used, log))
         committed(engine, "u", (), [(1, (1, 1))])
         engine.check()
 
@@ -405,7 +420,8 @@ class VacuumTest(unittest.TestCase):
             committed(engine, "t", [key(1)], [(0, (1, text))])
         middle = engine.begin()
         committed(engine, "t", [key(1)], [])
-        self.assertEqual((engine.oldest(), engine.vacuum(), old.table_rows("t"), middle.table_rows("t")), (2, 0, [(1, "a")], [(1, "c")]))
+        self.assertEqual((engine.oldest(), engine.vacuum(), old.table_rows("t"), middle.table_rows("t")),
+            (2, 0, [(1, "a")], [(1, "c")]))
         engine.rollback(old)
         self.assertEqual((engine.oldest(), engine.vacuum(), middle.table_rows("t")), (4, 2, [(1, "c")]))
         engine.commit(middle)
@@ -445,7 +461,8 @@ class CountTest(unittest.TestCase):
             opened = [engine.begin()]
             for _ in range(60):
                 one = chance.choice(opened)
-                self.assertEqual(one.row_count("t"), len(one.table_rows("t")) if chance.random() < 0.2 else len(Transaction.table_rows(one, "t")))
+                self.assertEqual(one.row_count("t"), len(one.table_rows("t")) if chance.random() < 0.2
+                    else len(Transaction.table_rows(one, "t")))
                 number = chance.randrange(9)
                 if one.row("t", key(number)) is None:
                     one.change("t", (), [(0, (number, 1))])

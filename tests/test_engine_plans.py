@@ -20,8 +20,10 @@ WIDTHS = {name: len(kinds) for name, kinds in KINDS.items()}
 def drawn_engine(size, capacity):
     """Return an engine that holds the tables of drawn plans, whose rows were changed until they are so."""
     session = session_with(
-        "create table t (a int, b int, c text, primary key (a))", "create table u (d int, e text)", "create table e (f text, g int)",
-        "create index t_b on t (b)", "create index t_cb on t (c, b)", "create index u_d on u (d)", "create index e_g on e (g)",
+        "create table t (a int, b int, c text, primary key (a))", "create table u (d int, e text)",
+        "create table e (f text, g int)",
+        "create index t_b on t (b)", "create index t_cb on t (c, b)", "create index u_d on u (d)",
+        "create index e_g on e (g)",
         size=size, capacity=capacity)
     engine = session.engine
     session.run("insert into t values (1, 9, 'q'), (6, 2, 'x')")
@@ -41,11 +43,13 @@ class EnginePlansTest(unittest.TestCase):
         cls.engine = drawn_engine(200, 3)
         cls.old = cls.engine.begin()
         change = cls.engine.begin()
-        change.change("t", [row_key for row_key, row in change.keyed_rows("t")][:4], [(0, (9, 2, "x")), (0, (10, None, "y"))])
+        change.change("t", [row_key for row_key, row in change.keyed_rows("t")][:4],
+            [(0, (9, 2, "x")), (0, (10, None, "y"))])
         cls.engine.commit(change)
         cls.new = cls.engine.begin()
         cls.own = cls.engine.begin()
-        cls.own.change("u", [row_key for row_key, row in cls.own.keyed_rows("u")][1:3], [(cls.engine.next_number("u"), (2, "xy"))])
+        cls.own.change("u", [row_key for row_key, row in cls.own.keyed_rows("u")][1:3],
+            [(cls.engine.next_number("u"), (2, "xy"))])
         cls.own.change("e", (), [(cls.engine.next_number("e"), row) for row in (("x", 2), (None, 1), ("y", None))])
 
     def test_plain_rows(self):
@@ -65,7 +69,8 @@ class EnginePlansTest(unittest.TestCase):
 
         def rows(chance, plan, transaction):
             counts = {name: transaction.row_count(name) for name in WIDTHS}
-            summaries = {name: summarize_rows(transaction.table_rows(name), many) for name, many in WIDTHS.items() if chance.random() < 0.3}
+            summaries = {name: summarize_rows(transaction.table_rows(name), many) for name,
+                many in WIDTHS.items() if chance.random() < 0.3}
             if chance.random() < 0.6:
                 plan = reorder(rewrite(plan), counts)
             joins = chance.sample(JOINS, chance.randint(0, 3))
@@ -75,7 +80,8 @@ class EnginePlansTest(unittest.TestCase):
             return run_plan(chosen, transaction, chance.random() < 0.5, chance.choice((0, 1, 2, 50)))
 
         self.check(rows, True)
-        self.assertTrue(all(words.get(word, 0) > 5 for word in ("scan", "range", "nested", "hash", "merge", "left", "sort", "group")), words)
+        self.assertTrue(all(words.get(word, 0) > 5 for word in ("scan", "range", "nested", "hash", "merge", "left",
+            "sort", "group")), words)
 
     def check(self, rows, as_bag=False):
         """Check rows of drawn plans over transactions; plans that are no queries may have them in another order."""

@@ -152,7 +152,8 @@ FIELDS = {
     "evaluate": {"Evaluator": ((None, [(1,)]), {"rows": ((1,),)})},
     "statistics": {"Summary": ((3, 1, 2, [(1, 5)]), {"rows": 3, "nulls": 1, "different": 2, "bounds": ((1, 5),)})},
     "physical": {"Chooser": (("catalog", {}, False), {"catalog": "catalog", "indexed": False})},
-    "disk": {"Disk": ((96, {}, [1]), {"block_size": 96, "blocks": {}, "log": (1,), "waiting": [], "fuse": None, "dead": False, "steps": 0})},
+    "disk": {"Disk": ((96, {}, [1]), {"block_size": 96, "blocks": {}, "log": (1,), "waiting": [], "fuse": None,
+        "dead": False, "steps": 0})},
     "pages": {"Page": ((2, 0, []), {"kind": 2, "link": 0, "cells": ()})},
     "pool": {"Pool": ((Disk(96), 3), {"capacity": 3, "pages": {}, "changed": {}, "reads": 0, "writes": 0})},
     "pager": {"Pager": ((Disk(96), 3), {"capacity": 3, "groups": 0})},
@@ -172,9 +173,11 @@ FIELDS = {
         "Done": ((1, 2, 3, ["e"]), {"number": 1, "first": 2, "last": 3, "events": ("e",)}),
     },
     "inspect": {
-        "TreeReport": (("t", 1, 2, 3, 4, 5), {"name": "t", "depth": 1, "leaves": 2, "inner": 3, "entries": 4, "used": 5}),
+        "TreeReport": (("t", 1, 2, 3, 4, 5), {"name": "t", "depth": 1, "leaves": 2, "inner": 3, "entries": 4,
+            "used": 5}),
     },
-    "access": {"Bounds": (([("null",)], None, ("<", ("null",))), {"equals": (("null",),), "low": None, "high": ("<", ("null",))})},
+    "access": {"Bounds": (([("null",)], None, ("<", ("null",))),
+        {"equals": (("null",),), "low": None, "high": ("<", ("null",))})},
 }
 
 
@@ -198,7 +201,8 @@ class InterfaceTest(unittest.TestCase):
         engine = session.engine
         self.assertEqual((engine.stamp, engine.changed, engine.active, engine.pager.disk), (0, {}, [], disk))
         store = engine.store
-        self.assertEqual((store.pager, store.catalog.tables, store.catalog_tree.root, store.stores), (engine.pager, {}, 1, {}))
+        self.assertEqual((store.pager, store.catalog.tables, store.catalog_tree.root, store.stores),
+            (engine.pager, {}, 1, {}))
         self.assertEqual((engine.pager.pool.capacity, session.options.indexed, session.transaction), (3, True, None))
         cursor = Cursor(session.run("select 1 as n"))
         self.assertEqual((cursor.names, cursor.rows, cursor.place, cursor.closed), (("n",), ((1,),), 0, False))

@@ -192,7 +192,8 @@ class LanguageTest(unittest.TestCase):
 
     def iterated(self, node):
         """Return the texts of what a loop goes over."""
-        if isinstance(node, ast.Call) and isinstance(node.func, ast.Name) and node.func.id in ("enumerate", "zip", "reversed"):
+        if isinstance(node, ast.Call) and isinstance(node.func, ast.Name) and node.func.id in ("enumerate", "zip",
+            "reversed"):
             return [ast.unparse(one) for one in node.args]
         if isinstance(node, ast.Call) and isinstance(node.func, ast.Attribute):
             return [ast.unparse(node.func.value)]

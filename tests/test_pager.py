@@ -20,7 +20,8 @@ def leaf(number):
 
 def contents(pager):
     """Return what all pages hold, and the stamp."""
-    return (pager.last_stamp(), pager.free_pages(), [pager.page(number).shown() for number in range(pager.page_count())])
+    return (pager.last_stamp(), pager.free_pages(), [pager.page(number).shown()
+        for number in range(pager.page_count())])
 
 
 def page_zero(**choices):
@@ -43,7 +44,8 @@ class PagerTest(unittest.TestCase):
         pager = format_disk(disk, 3)
         self.assertEqual((pager.page_count(), pager.last_stamp(), pager.free_pages(), pager.capacity), (2, 0, (), 3))
         self.assertEqual((pager.page(0).kind, pager.page(1).shown()), (META, (LEAF, 0, ())))
-        self.assertEqual((pager.disk, pager.pool.pages.keys(), pager.groups), (disk, {0, 1}, len(read_groups(disk.log))))
+        self.assertEqual((pager.disk, pager.pool.pages.keys(), pager.groups),
+            (disk, {0, 1}, len(read_groups(disk.log))))
         self.assertEqual(contents(recover(disk.restarted((), 0))), contents(pager))
 
     def test_fresh_and_freed_pages(self):

@@ -106,7 +106,8 @@ class PoolTest(unittest.TestCase):
         self.assertEqual(pool.disk.steps, 0)
         pool.close_group()
         self.assertEqual((len(pool.pages), pool.writes), (2, 4))
-        self.assertEqual([shown(pool, number) for number in range(6)], [leaf(70 + number).shown() for number in range(6)])
+        self.assertEqual([shown(pool, number) for number in range(6)],
+            [leaf(70 + number).shown() for number in range(6)])
 
     def test_changed_pages_are_written_when_they_leave(self):
         pool = filled(1)
@@ -130,7 +131,8 @@ class PoolTest(unittest.TestCase):
             pool.drop_group()
             self.assertLessEqual(len(pool.pages), capacity)
             self.assertEqual((pool.changed, pool.group_images(), pool.disk.steps), ({}, [], 0))
-            self.assertEqual([shown(pool, number) for number in range(6)], [leaf(number).shown() for number in range(6)])
+            self.assertEqual([shown(pool, number) for number in range(6)],
+                [leaf(number).shown() for number in range(6)])
             self.assertRaises(DiskFault, pool.page, 9)
             pool.flush()
 

@@ -70,7 +70,8 @@ class RowsTest(unittest.TestCase):
             table.write(key, (1, "a", 2), 3)
             table.write(key, None, 5)
             table.write(key, (1, "a", 2), 6)
-            for stamp, row in ((0, None), (2, None), (3, (1, "a", 2)), (4, (1, "a", 2)), (5, None), (6, (1, "a", 2)), (99, (1, "a", 2))):
+            for stamp, row in ((0, None), (2, None), (3, (1, "a", 2)), (4, (1, "a", 2)), (5, None), (6, (1, "a", 2)),
+                (99, (1, "a", 2))):
                 self.assertEqual(table.visible(key, stamp), row, (rule, stamp))
                 self.assertEqual(table.rows_at(stamp), [] if row is None else [(key, row)])
             self.assertIsNone(table.visible(table.row_key((2, "b", 1), 8), 99))
@@ -82,7 +83,8 @@ class RowsTest(unittest.TestCase):
         values = [(one, other) for one in (None, "", "a", "aa", "b") for other in (None, "", "a", "\n", "~")]
         keys = [table.index_key(index, row) for row in values]
         self.assertEqual(sorted(keys), keys[:2] + [keys[3], keys[2], keys[4]] + [
-            key for start in range(5, 25, 5) for key in (keys[start], keys[start + 1], keys[start + 3], keys[start + 2], keys[start + 4])])
+            key for start in range(5, 25, 5) for key in (keys[start], keys[start + 1], keys[start + 3], keys[start + 2],
+                keys[start + 4])])
         self.assertEqual(keys[7], key_of(("", "a")))
 
     def test_ranges_of_rows(self):
@@ -111,9 +113,12 @@ class RowsTest(unittest.TestCase):
             table.write(table.row_key(row, 0), row, 1)
         self.assertEqual(len(tree.scan()), 5)
         for low, high, found in (
-            ((), None, rows), (key_of((5,)), upper_key(key_of((5,))), rows[1:4]), (key_of((5, None)), upper_key(key_of((5, None))), [rows[1], rows[3]]),
-            (key_of((None,)), upper_key(key_of((None,))), [rows[0], rows[4]]), (key_of((6,)), None, []), ((), key_of((5,)), [rows[0], rows[4]]),
-            (key_of((5, "x")), upper_key(key_of((5, "x"))), [rows[2]]), (key_of((None, "x")), (*key_of((None, "xx")), 5), [rows[0], rows[4]]),
+            ((), None, rows), (key_of((5,)), upper_key(key_of((5,))), rows[1:4]),
+            (key_of((5, None)), upper_key(key_of((5, None))), [rows[1], rows[3]]),
+            (key_of((None,)), upper_key(key_of((None,))), [rows[0], rows[4]]), (key_of((6,)), None, []),
+            ((), key_of((5,)), [rows[0], rows[4]]),
+            (key_of((5, "x")), upper_key(key_of((5, "x"))), [rows[2]]),
+            (key_of((None, "x")), (*key_of((None, "xx")), 5), [rows[0], rows[4]]),
             (key_of((None, "xx")), key_of((None, "xx")), []),
         ):
             self.assertEqual([row for key, row in table.index_rows("t.0", low, high, 1)], found, (low, high))
@@ -128,7 +133,8 @@ class RowsTest(unittest.TestCase):
         key = key_of((1,))
         for stamp, row in ((1, (1, 10)), (2, (1, 20)), (3, None), (4, (1, 10)), (5, (1, None)), (6, (1, 10))):
             table.write(key, row, stamp)
-        for stamp, row in ((0, None), (1, (1, 10)), (2, (1, 20)), (3, None), (4, (1, 10)), (5, (1, None)), (6, (1, 10))):
+        for stamp, row in ((0, None), (1, (1, 10)), (2, (1, 20)), (3, None), (4, (1, 10)), (5, (1, None)),
+            (6, (1, 10))):
             for value in (10, 20, None, 30):
                 low = key_of((value,))
                 wanted = [(key, row)] if row is not None and row[1] == value else []
@@ -143,7 +149,8 @@ class RowsTest(unittest.TestCase):
     def test_drawn_versions_against_a_table_of_stamps(self):
         for seed in range(25):
             chance = random.Random(seed)
-            store = store_with(TEXT.format(chance.choice(list(KEYS)) + ", unique (b, c)"), size=300, capacity=chance.choice((1, 4)))
+            store = store_with(TEXT.format(chance.choice(list(KEYS)) + ", unique (b, c)"), size=300,
+                capacity=chance.choice((1, 4)))
             table = store.stores["t"]
             seen = {0: {}}
             for stamp in range(1, 30):
@@ -192,13 +199,15 @@ class RowsTest(unittest.TestCase):
 
 class VacuumTest(unittest.TestCase):
     def test_each_stamp(self):
-        for oldest, kept in ((0, (2, 4, 6, 8)), (1, (2, 4, 6, 8)), (2, (2, 4, 6, 8)), (3, (2, 4, 6, 8)), (4, (6, 8)), (5, (6, 8)),
+        for oldest, kept in ((0, (2, 4, 6, 8)), (1, (2, 4, 6, 8)), (2, (2, 4, 6, 8)), (3, (2, 4, 6, 8)), (4, (6, 8)),
+            (5, (6, 8)),
                              (6, (6, 8)), (7, (6, 8)), (8, (8,)), (99, (8,))):
             table = store_with("create table t (a int, b int, primary key (a), unique (b))").stores["t"]
             for stamp, row in ((2, (1, 1)), (4, None), (6, (1, 2)), (8, (1, 1))):
                 table.write(key_of((1,)), row, stamp)
             dropped = table.vacuum(oldest)
-            self.assertEqual((tuple(split_version(key)[1] for key, value in table.tree.scan())[::-1], dropped), (kept, 4 - len(kept)), oldest)
+            self.assertEqual((tuple(split_version(key)[1] for key, value in table.tree.scan())[::-1], dropped),
+                (kept, 4 - len(kept)), oldest)
             check_indexes(table)
 
     def test_rows_that_are_gone(self):
@@ -218,20 +227,23 @@ class VacuumTest(unittest.TestCase):
 class CatalogTest(unittest.TestCase):
     def test_new_stores(self):
         store = Store(format_disk(Disk(96)))
-        self.assertEqual((store.catalog.shown(), store.stores, store.catalog_tree.root, store.check()), (((), (), ()), {}, 1, 2))
+        self.assertEqual((store.catalog.shown(), store.stores, store.catalog_tree.root, store.check()),
+            (((), (), ()), {}, 1, 2))
         self.assertEqual(store.catalog_tree.pager, store.pager)
 
     def test_what_comes_back(self):
         store = store_with(
             "create table t (a int not null, b text default 'it''s\n', c int default -5, primary key (c, a), unique (b), unique (a, b), "
-            "check (a > 0 or b like '*x'), foreign key (a, c) references t (c, a))", "create table u (d text)", size=150)
+            "check (a > 0 or b like '*x'), foreign key (a, c) references t (c, a))", "create table u (d text)",
+            size=150)
         store.create_view("v", parse("select a, 'x' as b from t where b is not null order by 1 desc limit 3"))
         store.create_index(Index("i", "u", False, (0,)))
         for again in (Store(store.pager), made_anew(store)):
             self.assertEqual(again.catalog.shown(), store.catalog.shown())
             self.assertEqual(sorted(again.stores), ["t", "u"])
             self.assertEqual(sorted(again.stores["t"].indexes), ["t.0", "t.1"])
-            self.assertEqual({name: one.tree.root for name, one in again.stores.items()}, {name: one.tree.root for name, one in store.stores.items()})
+            self.assertEqual({name: one.tree.root for name, one in again.stores.items()},
+                {name: one.tree.root for name, one in store.stores.items()})
             self.assertEqual(again.catalog.tables["t"].references, (((0, 2), "t", (2, 0)),))
         self.assertEqual(parse(store.catalog.views["v"])[0], "query")
 
@@ -268,7 +280,8 @@ class CatalogTest(unittest.TestCase):
                 table, indexes = declared_table(parse(f"create table {name} (a int)"))
                 keyed, own = declared_table(parse(f"create table {name[2:]} (a int, unique (a))"))
                 for make, arguments in (
-                    (plain.create_table, (table, indexes)), (plain.create_table, (keyed, own)), (plain.create_view, (name + "", parse("select 1"))),
+                    (plain.create_table, (table, indexes)), (plain.create_table, (keyed, own)),
+                    (plain.create_view, (name + "", parse("select 1"))),
                 ):
                     store = store_with(size=size)
                     make = getattr(store, make.__name__)
@@ -320,8 +333,10 @@ class CatalogTest(unittest.TestCase):
                 store = Store(store.pager)
                 store.create_index(Index("j", "t", True, (2, 1)))
             store.create_index(Index("i", "t", False, (1,)))
-            self.assertEqual([row[0] for key, row in store.stores["t"].index_rows("i", key_of((1,)), upper_key(key_of((1,))), 1)], [2, 3])
-            self.assertEqual([row[0] for key, row in store.stores["t"].index_rows("i", key_of((1,)), upper_key(key_of((1,))), 2)], [2])
+            self.assertEqual([row[0] for key, row in store.stores["t"].index_rows("i", key_of((1,)),
+                upper_key(key_of((1,))), 1)], [2, 3])
+            self.assertEqual([row[0] for key, row in store.stores["t"].index_rows("i", key_of((1,)),
+                upper_key(key_of((1,))), 2)], [2])
             store.check()
 
     def test_keys_that_do_not_fit_an_index(self):
