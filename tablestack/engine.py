@@ -50,7 +50,7 @@ class Transaction:
         if name in self.seen_rows or self.own_rows(name) != {}:
             return len(self.keyed_rows(name))
         self.store_of(name)
-        return self.engine.row_count(name, self.stamp)
+        return self.engine.count_rows(name, self.stamp)
 
     def primary_pairs(self, name, low, high):
         """Return (row key, row) of the rows with primary keys from low on and below high, as bytes, in order."""
@@ -234,7 +234,7 @@ class Engine:
         self.numbers[name] = number + 1
         return number
 
-    def row_count(self, name, stamp):
+    def count_rows(self, name, stamp):
         """Return the number of rows of a table as they were at a stamp."""
         last = self.changed.get(name, 0)
         if stamp < last:

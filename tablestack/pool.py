@@ -28,7 +28,7 @@ class Pool:
             page = self.pages.pop(number)
         else:
             page = page_from(self.disk.read_block(number))
-            self.shrink(self.capacity - 1)
+            self.make_room(self.capacity - 1)
             self.reads += 1
         self.pages[number] = page
         return page
@@ -39,7 +39,7 @@ class Pool:
             raise PageFault("a page does not fit in a block")
         before = None
         if number not in self.pages:
-            self.shrink(self.capacity - 1)
+            self.make_room(self.capacity - 1)
         else:
             before = self.pages.pop(number)
         if number not in self.open_group:
@@ -54,7 +54,7 @@ class Pool:
     def close_group(self):
         """End the open group: its pages may be written now."""
         self.open_group = {}
-        self.shrink(self.capacity)
+        self.make_room(self.capacity)
 
     def drop_group(self):
         """Bring back the pages of the open group as they were before it."""
@@ -67,31 +67,31 @@ class Pool:
             if not was_changed:
                 del self.changed[number]
         self.open_group = {}
-        self.shrink(self.capacity)
+        self.make_room(self.capacity)
 
     def flush(self):
         """Write all changed pages and sync them; raise PageFault if a group is open."""
         if self.open_group != {}:
             raise PageFault("a group is open")
         for number in sorted(self.changed):
-            self.write(number)
+            self.write_page(number)
         self.disk.sync_blocks()
 
-    def write(self, number):
+    def write_page(self, number):
         """Write a changed page."""
         self.disk.write_block(number, page_bytes(self.pages[number], self.disk.block_size))
         self.writes += 1
         del self.changed[number]
 
-    def shrink(self, many):
+    def make_room(self, many):
         """Drop the pages that were not used for longest until so many are left; those of the open group stay."""
         while len(self.pages) > max(many, len(self.open_group)):
-            number = self.oldest()
+            number = self.least_used()
             if number in self.changed:
-                self.write(number)
+                self.write_page(number)
             del self.pages[number]
 
-    def oldest(self):
+    def least_used(self):
         """Return the number of the page that was not used for longest, those of the open group left out."""
         for number in self.pages:
             if number not in self.open_group:
