@@ -84,6 +84,21 @@ class CatalogTest(unittest.TestCase):
         self.check(session, (("drop table t", "ConstraintFault"), ("drop view v", None), ("drop table t", None)))
         self.assertEqual(session.engine.check(), 2)
 
+    def test_all_pages_of_a_table_are_given_back(self):
+        session = session_with("create table t (a int, b int, primary key (a), unique (b))",
+            "create index i on t (b, a)", size=200)
+        few = session.engine.check()
+        session.run("drop table t")
+        least = session.engine.check()
+        session.run("create table t (a int, b int, primary key (a), unique (b))")
+        session.run("create index i on t (b, a)")
+        session.run("insert into t values " + ", ".join(f"({number}, {number})" for number in range(200)))
+        self.assertGreater(session.engine.check(), few + 30)
+        session.run("drop index i")
+        session.engine.check()
+        session.run("drop table t")
+        self.assertEqual(session.engine.check(), least)
+
     def test_an_index_goes_with_its_table(self):
         session = session_with("create table t (a int, unique (a))", "create index i on t (a)", "drop table t",
             "create table t (b text)", "create index i on t (b)",

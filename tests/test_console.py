@@ -193,7 +193,7 @@ class ConsoleTest(unittest.TestCase):
             ("execute", "error: text"), ("execute (1)", "error: text"), ("execute 5", "error: text"),
             ("execute select", "error: text"), ("prepare", "error: text"), ("prepare p", "error: text"),
             ("prepare p as", "error: text"), ("prepare as select 1", "error: text"),
-            ("prepare p select 1", "error: text"), ("prepare 5 as select 1", "error: text"),
+            ("prepare p select 1", "error: text"), ("prepare p from select 1", "error: text"), ("prepare 5 as select 1", "error: text"),
             ("prepare p as select ? from", "error: text"),
             ("prepare p as select 1 limit ?", "error: text"), ("prepare p as prepare q as select 1", "error: text"),
             ("prepare p as select 1; select 2", "error: text"), ("prepare p as ?", "error: text"),

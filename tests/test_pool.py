@@ -136,6 +136,24 @@ class PoolTest(unittest.TestCase):
             self.assertRaises(DiskFault, pool.page, 9)
             pool.flush()
 
+    def test_no_more_pages_than_there_is_room_for(self):
+        pool = filled(2)
+        pool.page(0)
+        pool.page(1)
+        pool.put(2, leaf(1))
+        self.assertEqual(sorted(pool.pages), [1, 2])
+        pool.put(1, leaf(1))
+        pool.page(3)
+        self.assertEqual(sorted(pool.pages), [1, 2, 3])
+        pool.drop_group()
+        self.assertEqual(sorted(pool.pages), [1, 3])
+        pool = filled(1)
+        pool.page(0)
+        pool.put(0, leaf(5))
+        pool.page(1)
+        pool.drop_group()
+        self.assertEqual(len(pool.pages), 1)
+
     def test_closed_and_then_dropped_groups(self):
         for capacity in (1, 2, 6):
             for read_first in (True, False):

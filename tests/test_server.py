@@ -348,6 +348,37 @@ class ReferenceTest(unittest.TestCase):
         )
         session.engine.check()
 
+    def test_references_to_several_tables(self):
+        session = session_with(
+            "create table p (a int, primary key (a))", "create table r (a int, primary key (a))",
+            "create table q (x int, y int, foreign key (x) references p (a), foreign key (y) references r (a))",
+            "insert into p values (1), (2)", "insert into r values (1), (2)", "insert into q values (1, 2)")
+        for text, fault in (
+            ("delete from p where a = 1", "ConstraintFault"), ("delete from r where a = 2", "ConstraintFault"),
+            ("delete from p where a = 2", None), ("delete from r where a = 1", None),
+            ("update q set x = 2", "ConstraintFault"),
+        ):
+            self.assertEqual(fault_of(session, text), fault, text)
+
+    def test_refused_changes_within_transactions_leave_nothing(self):
+        session = session_with(
+            "create table t (a int, b int, c int, primary key (a), unique (c), foreign key (b) references t (a), check (c > 0))")
+        session.run("insert into t values (1, null, 1), (2, 1, 2)")
+        session.run("begin")
+        session.run("insert into t values (3, 2, 3)")
+        rows = ((1, None, 1), (2, 1, 2), (3, 2, 3))
+        for text in (
+            "delete from t where a = 1", "delete from t where a < 3", "insert into t values (4, 9, 4)",
+            "insert into t values (5, null, 5), (6, null, 0)", "update t set c = c - 1", "update t set a = a + 1",
+        ):
+            self.assertEqual(fault_of(session, text), "ConstraintFault", text)
+            self.assertEqual(session.run("select * from t").rows, rows, text)
+            self.assertEqual(session.run("select a from t where c = 5 or a = 4").rows, ())
+        session.run("insert into t values (4, null, 4), (5, 5, 5)")
+        session.run("commit")
+        self.assertEqual(session.run("select count(*) from t").rows, ((5,),))
+        session.engine.check()
+
     def test_references_within_transactions(self):
         session = self.session
         session.run("begin")

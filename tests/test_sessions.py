@@ -202,11 +202,20 @@ class ConflictTest(unittest.TestCase):
             "insert into t values (1)", "update t set a = null",
             "select a from t union select a, b from t", "insert into v values (1)", "create index i on t (b)",
             "drop table t", "create view y as select * from v",
-            "delete from t where z = 1", "analyze v",
+            "delete from t where z = 1", "analyze v", "create table y (a int, foreign key (a) references t (a))",
+            "create table t (z int)", "drop view v", "create view t as select 1",
         ):
             self.check((reads, change), "update t set b = b where a = 1", True)
         for reads in ("selec * from t", "select * from t where", "select 1", "drop index t"):
             self.check((reads, change), "update t set b = b where a = 1", False)
+
+    def test_checks_with_queries(self):
+        one = session_with(*TABLES, "create table y (a int, check (a in (select d from w)))")
+        other = beside(one)
+        one.run("begin")
+        one.run("insert into y values (1)")
+        other.run("delete from w")
+        self.assertRaises(ConflictFault, one.run, "commit")
 
     def test_references_either_way(self):
         for texts, change in (
@@ -222,6 +231,7 @@ class ConflictTest(unittest.TestCase):
             (("select * from t", "insert into w values (1)"), "insert into u values (1)"),
             (("select * from u", "insert into w values (1)"), "update t set b = b"),
             (("insert into u values (1)",), "insert into w values (1)"), (("update t set b = 5",), "delete from w"),
+            (("analyze t", "insert into w values (1)"), "insert into u values (1)"),
         ):
             self.check(texts, change, False)
 
