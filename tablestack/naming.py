@@ -34,15 +34,11 @@ def referring_tables(catalog, name):
 
 
 def constraint_names(catalog, name):
-    """Return the names of the tables that are read to check a table's constraints when it changes."""
+    """Return the names of the tables that are read to check a table's references when it changes."""
     if name not in catalog.tables:
         return []
-    table = catalog.tables[name]
-    found = [reference[1] for reference in table.references]
-    found.extend([other.name for other in referring_tables(catalog, name)])
-    for check in table.checks:
-        found.extend(source_names(check))
-    return found
+    found = [reference[1] for reference in catalog.tables[name].references]
+    return [*found, *[other.name for other in referring_tables(catalog, name)]]
 
 
 def statement_names(catalog, statement):

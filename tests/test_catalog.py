@@ -138,7 +138,8 @@ class CatalogTest(unittest.TestCase):
                                "insert into t values ('x', 'y')")
         self.assertEqual((session.run("select * from t").rows, reopened(session).run("select * from t").rows),
             ((("x", "y"),),) * 2)
-        self.assertEqual(session.run("explain select * from t where a = 'x'").rows[0], ("sort by 1, 2",))
+        session.run("create index i on t (b)")
+        self.assertEqual(session.run("select a from t where b = 'y'").rows, (("x",),))
 
 
 class ViewTest(unittest.TestCase):
