@@ -124,23 +124,28 @@ class DrawnSessionsTest(unittest.TestCase):
             for event in events:
                 kinds[event.fault] += 1
             self.assertEqual(base.engine.active, [])
-            self.check_conflicts(events)
-            self.check_answers(base, events)
+            self.check_answers(base, events, self.checked_writers(events))
             base.engine.vacuum()
             base.engine.check()
         self.assertGreater(min(kinds.values()), 50, kinds)
 
-    def check_conflicts(self, events):
+    def checked_writers(self, events):
+        """Check which commits are refused; return the places of those that changed rows."""
         model = Model()
-        for event in events:
+        places = []
+        for place, event in enumerate(events):
+            before = model.time
             wanted = model.event(event)
             if wanted is not None:
                 self.assertEqual(event.fault, wanted, event.shown())
+            if model.time > before:
+                places.append(place)
+        return places
 
-    def check_answers(self, base, events):
+    def check_answers(self, base, events, writers):
         """Carry out what committed alone: what only read at its begin, what changed rows at its end."""
         done = committed(events)
-        times = [one.last if any(event.answer.changed > 0 for event in one.events) else one.first - 0.5 for one in done]
+        times = [one.last if one.last in writers else one.first - 0.5 for one in done]
         twin = session_with(*SETUP)
         for _, one in sorted(zip(times, done), key=lambda pair: pair[0]):
             for event in one.events:
