@@ -30,15 +30,25 @@ class Tree:
 
     def path(self, key):
         """Return the page numbers from the root down to the leaf where a key belongs."""
-        found = [self.root]
+        return self.path_and_fences(key)[0]
+
+    def path_and_fences(self, key):
+        """Return (page numbers down to the leaf where a key belongs, table of leaves to keys above all of theirs).
+
+        The table has that leaf and those beside it, as the pages on the way tell; None stands for no such key.
+        """
+        numbers = [self.root]
+        fences = {self.root: None}
         page = self.pager.page(self.root)
         while page.kind == INNER:
+            ends = [one for one, value in page.cells] + [fences[numbers[-1]]]
+            fences = {child: ends[place] for place, child in enumerate(children_of(page))}
             number = child_for(page, key)
-            if number in found:
+            if number in numbers:
                 raise TreeFault("a tree's page leads back to one above it")
-            found.append(number)
+            numbers.append(number)
             page = self.pager.page(number)
-        return found
+        return (numbers, fences)
 
     def lookup(self, key):
         """Return the value of a key, None if it is not there."""
@@ -128,24 +138,10 @@ class Tree:
         else:
             self.pager.put(path[-1], page)
 
-    def leaf_and_fences(self, key):
-        """Return (number of the leaf where a key belongs, table of leaves to keys above all of theirs).
-
-        The table has that leaf and those beside it, as the pages on the way tell; None stands for no such key.
-        """
-        number = self.root
-        page = self.pager.page(number)
-        fences = {number: None}
-        while page.kind == INNER:
-            ends = [one for one, value in page.cells] + [fences[number]]
-            fences = {child: ends[place] for place, child in enumerate(children_of(page))}
-            number = child_for(page, key)
-            page = self.pager.page(number)
-        return (number, fences)
-
     def scan(self, low=(), high=None):
         """Return the (key, value) cells with keys from low on and below high, in order; all above low for None."""
-        number, fences = self.leaf_and_fences(low)
+        path, fences = self.path_and_fences(low)
+        number = path[-1]
         found = []
         while number != 0:
             page = self.pager.page(number)
@@ -157,7 +153,8 @@ class Tree:
 
     def first_cell(self, low, high):
         """Return the first (key, value) cell with a key from low on and below high, None if there is none."""
-        number, fences = self.leaf_and_fences(low)
+        path, fences = self.path_and_fences(low)
+        number = path[-1]
         while number != 0:
             page = self.pager.page(number)
             place = place_from(page.cells, low)
