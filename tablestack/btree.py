@@ -61,6 +61,10 @@ class Tree:
         """Set the value of a key; raise TreeFault for an empty key, or a cell that is too large."""
         if not self.fits(key, value):
             raise TreeFault("a key is empty, or a cell is too large")
+        self.pager.whole(self.put_cell, key, value)
+
+    def put_cell(self, key, value):
+        """Set the value of a key; what is done ahead of a fault stays."""
         path = self.path(key)
         page = self.pager.page(path[-1])
         place = place_from(page.cells, key)
@@ -71,6 +75,10 @@ class Tree:
 
     def remove(self, key):
         """Drop a key; return whether it was there."""
+        return self.pager.whole(self.remove_cell, key)
+
+    def remove_cell(self, key):
+        """Drop a key; return whether it was there; what is done ahead of a fault stays."""
         path = self.path(key)
         page = self.pager.page(path[-1])
         cells = [cell for cell in page.cells if cell[0] != key]
@@ -186,6 +194,10 @@ class Tree:
 
     def clear(self):
         """Drop all keys and free all pages but the root."""
+        self.pager.whole(self.clear_pages)
+
+    def clear_pages(self):
+        """Drop all keys and free all pages but the root; what is done ahead of a fault stays."""
         for number in self.page_numbers()[1:]:
             self.pager.free(number)
         self.pager.put(self.root, Page(LEAF, 0, ()))

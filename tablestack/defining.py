@@ -2,6 +2,7 @@
 
 from tablestack.errors import ConstraintFault, NameFault
 from tablestack.naming import referring_tables, view_names
+from tablestack.printer import query_text
 from tablestack.schema import CONSTRAINT_SIGN, Index, referring_table
 from tablestack.scope import table_scope
 from tablestack.translate import bind_truth, translate
@@ -34,13 +35,13 @@ def index_creation(catalog, statement):
 
 
 def view_creation(catalog, statement):
-    """Return the function that creates a view; raise the faults of its query."""
+    """Return the function that creates a view, which is held as a text; raise the faults of its query."""
     _, name, query = statement
     translate(catalog, query)
 
     def carry_out(store):
         """Create the view."""
-        store.create_view(name, query)
+        store.create_view(name, query_text(query))
 
     return carry_out
 

@@ -2,8 +2,7 @@
 
 from tablestack.disk import Disk
 from tablestack.errors import DiskFault, StateFault, TableError
-from tablestack.naming import view_names
-from tablestack.parser import parse
+from tablestack.naming import names_checked, view_names, view_query
 from tablestack.printer import declaration_text, index_text, rule_text, statement_text
 from tablestack.rewrite import literal
 from tablestack.schema import CONSTRAINT_SIGN
@@ -64,15 +63,21 @@ def insert_texts(name, rows, many=ROWS_AT_ONCE):
     return [f"insert into {name} values {', '.join(group)}" for group in groups]
 
 
+def view_declaration(catalog, name):
+    """Return the statement that creates a view."""
+    return statement_text(("create_view", name, view_query(catalog.views[name])))
+
+
 def dump(engine):
     """Return the statements that make a database: tables, each after those it refers to, indexes and views by name.
 
-    A table that refers to itself is filled by one statement. Views come after what they read.
+    A table that refers to itself is filled by one statement. Views come after what they read, and ahead of the tables
+    whose checks read them.
     """
     catalog = engine.store.catalog
     transaction = engine.begin()
     try:
-        texts = tables_texts(catalog, transaction)
+        texts, made = tables_texts(catalog, transaction)
     except TableError:
         engine.rollback(transaction)
         raise
@@ -80,47 +85,58 @@ def dump(engine):
     for name in sorted(catalog.indexes):
         if CONSTRAINT_SIGN not in name:
             texts.append(index_declaration(catalog, catalog.indexes[name]))
-    for name in view_order(catalog):
-        texts.append(statement_text(("create_view", name, parse(catalog.views[name]))))
+    texts.extend([view_declaration(catalog, name) for name in view_order(catalog) if name not in made])
     return texts
 
 
 def tables_texts(catalog, transaction):
-    """Return the statements that make and fill all tables, as a transaction sees their rows."""
+    """Return (statements that make and fill all tables, names of the views that they make since checks read these)."""
     texts = []
+    made = []
+    views = view_order(catalog)
     for name in table_order(catalog):
         table = catalog.tables[name]
+        read = names_checked(catalog, table)
+        needed = [view for view in views if view in read and view not in made]
+        made.extend(needed)
+        texts.extend([view_declaration(catalog, view) for view in needed])
         rows = transaction.table_rows(name)
         refers = any(reference[1] == name for reference in table.references)
         texts.append(table_declaration(catalog, table))
         texts.extend(insert_texts(name, rows, max(1, len(rows)) if refers else ROWS_AT_ONCE))
-    return texts
+    return (texts, made)
 
 
 def table_order(catalog):
-    """Return the names of tables, each after those it refers to, otherwise in ascending order."""
+    """Return the names of tables, each after those it refers to, otherwise in ascending order.
+
+    A table comes after those that its checks read, too, since they are needed to create and to fill it.
+    """
     needs = {}
     for name in catalog.tables:
-        needs[name] = [reference[1] for reference in catalog.tables[name].references if reference[1] != name]
+        table = catalog.tables[name]
+        others = [reference[1] for reference in table.references] + names_checked(catalog, table)
+        needs[name] = [other for other in others if other != name]
     return needed_order(needs)
 
 
 def view_order(catalog):
     """Return the names of views, each after those it reads, otherwise in ascending order."""
-    needs = {}
-    for name in catalog.views:
-        needs[name] = [one for one in view_names(catalog, name) if one in catalog.views]
-    return needed_order(needs)
+    return needed_order({name: view_names(catalog, name) for name in catalog.views})
 
 
 def needed_order(needs):
-    """Return names, each after those that it needs, otherwise in ascending order."""
+    """Return names, each after those among them that it needs, otherwise in ascending order.
+
+    If none can come next, since names need one another, the first one does.
+    """
     found = []
     left = sorted(needs)
     while left != []:
         ready = [name for name in left if not any(one in left for one in needs[name])]
-        found.append(ready[0])
-        left.remove(ready[0])
+        chosen = ready[0] if ready != [] else left[0]
+        found.append(chosen)
+        left.remove(chosen)
     return found
 
 

@@ -265,17 +265,21 @@ class Engine:
         if self.conflicts(transaction) != []:
             raise ConflictFault("another transaction changed what this one read")
         try:
-            growth = self.write_rows(transaction.own, self.stamp + 1)
-            self.pager.commit(self.stamp + 1)
+            growth = self.pager.whole(self.carry_group, self.write_rows, transaction.own, self.stamp + 1)
         except TableError:
             self.active.append(transaction)
-            self.pager.cancel()
             raise
         self.stamp += 1
         for name in growth:
             self.move_count(name, growth[name])
             self.changed[name] = self.stamp
         return self.stamp
+
+    def carry_group(self, change, *arguments):
+        """Return what a change of pages returns, and end the group with the next stamp."""
+        found = change(*arguments)
+        self.pager.commit(self.stamp + 1)
+        return found
 
     def move_count(self, name, growth):
         """Bring the number of rows of a table up to date, if it is known, with a change at the last stamp."""
@@ -307,13 +311,7 @@ class Engine:
         """
         if self.active != []:
             raise StateFault("a transaction is open")
-        try:
-            change(self.store)
-            self.pager.commit(self.stamp + 1)
-        except TableError:
-            self.pager.cancel()
-            self.store = Store(self.pager)
-            raise
+        self.store.change_whole(self.carry_group, change, self.store)
         self.stamp += 1
         self.counts = {}
         tables = self.store.catalog.tables
@@ -325,15 +323,13 @@ class Engine:
 
     def vacuum(self):
         """Drop versions that nobody can see, in a group of its own; return how many versions."""
-        oldest = self.oldest()
-        try:
-            many = sum([self.store.stores[name].vacuum(oldest) for name in sorted(self.store.stores)])
-            self.pager.commit(self.stamp + 1)
-        except TableError:
-            self.pager.cancel()
-            raise
+        many = self.pager.whole(self.carry_group, self.vacuum_tables, self.oldest())
         self.stamp += 1
         return many
+
+    def vacuum_tables(self, oldest):
+        """Drop the versions of all tables that no snapshot from a stamp on sees; return how many."""
+        return sum([self.store.stores[name].vacuum(oldest) for name in sorted(self.store.stores)])
 
     def checkpoint(self):
         """Write all pages and clear the log."""

@@ -4,7 +4,7 @@ An entry's key is the text of a letter and a name; each piece of its text has a 
 """
 
 from tablestack.codec import fixed, key_of, sign_at, sign_number, upper_key, values_from_key
-from tablestack.errors import ConstraintFault
+from tablestack.errors import ConstraintFault, RecordFault, TextError
 from tablestack.statement_codec import pieces, tree_from_text, tree_text
 
 TABLE_LETTER = "t"
@@ -29,10 +29,20 @@ def piece_size(tree, letter, name):
     return size
 
 
+def entry_text(shown):
+    """Return the text of an entry, which is a nested tuple or a text; raise TextError if it could not be read again."""
+    text = tree_text(shown)
+    try:
+        tree_from_text(text)
+    except RecordFault:
+        raise TextError("the catalog cannot hold this") from None
+    return text
+
+
 def put_entry(tree, letter, name, shown):
-    """Keep an entry, which is a nested tuple or a text."""
+    """Keep an entry."""
     key = entry_key(letter, name)
-    for number, piece in enumerate(pieces(tree_text(shown), piece_size(tree, letter, name))):
+    for number, piece in enumerate(pieces(entry_text(shown), piece_size(tree, letter, name))):
         tree.put((*key, *fixed(number, NUMBER_BYTES)), tuple([sign_number(sign) for sign in piece]))
 
 

@@ -22,9 +22,14 @@ def source_names(tree):
     return list(found)
 
 
+def view_query(view):
+    """Return the query of a view, which a catalog holds as a tuple or as a text."""
+    return parse(view) if isinstance(view, str) else view
+
+
 def view_names(catalog, name):
     """Return the names of the tables and views that a view's query reads."""
-    return source_names(parse(catalog.views[name]))
+    return source_names(view_query(catalog.views[name]))
 
 
 def referring_tables(catalog, name):
@@ -53,14 +58,25 @@ def statement_names(catalog, statement):
     return found
 
 
-def tables_read(catalog, statement):
-    """Return the tables that a statement reads, views' tables included, each once, in ascending order."""
+def names_behind(catalog, names):
+    """Return some names, and those that the views among them read, each once."""
     found = {}
-    waiting = statement_names(catalog, statement)
+    waiting = list(names)
     while waiting != []:
         name = waiting.pop()
         if name not in found:
             found[name] = True
             if name in catalog.views:
                 waiting.extend(view_names(catalog, name))
-    return sorted([name for name in found if name in catalog.tables])
+    return list(found)
+
+
+def tables_read(catalog, statement):
+    """Return the tables that a statement reads, views' tables included, each once, in ascending order."""
+    names = names_behind(catalog, statement_names(catalog, statement))
+    return sorted([name for name in names if name in catalog.tables])
+
+
+def names_checked(catalog, table):
+    """Return the names of the tables and views that a table's checks read, what the views read included, each once."""
+    return names_behind(catalog, source_names(table.checks))

@@ -5,7 +5,7 @@ used, and the stamp of the last commit, so that each group tells them, too.
 """
 
 from tablestack.codec import fixed, number_from
-from tablestack.errors import PageFault
+from tablestack.errors import PageFault, TableError
 from tablestack.journal import group_bytes, read_groups
 from tablestack.pages import FREE, LEAF, META, Page, page_bytes
 from tablestack.pool import Pool
@@ -88,15 +88,33 @@ class Pager:
 
     def commit(self, stamp):
         """End the open group: append its images to the log and sync it; from then on it survives a crash."""
+        self.whole(self.log_group, stamp)
+        self.groups += 1
+        self.pool.close_group()
+
+    def log_group(self, stamp):
+        """Append the images of the open group to the log and sync it."""
         self.put_meta(self.page(META_NUMBER).link, self.page_count(), stamp)
         self.disk.append_log(group_bytes(stamp, self.pool.group_images()))
         self.disk.sync_log()
-        self.groups += 1
-        self.pool.close_group()
 
     def cancel(self):
         """Undo all changes of the open group."""
         self.pool.drop_group()
+
+    def whole(self, change, *arguments):
+        """Return what a change of pages returns; if it raises a fault, the pages are as they were before it.
+
+        The change may end the open group.
+        """
+        self.pool.begin_part()
+        try:
+            found = change(*arguments)
+        except TableError:
+            self.pool.drop_part()
+            raise
+        self.pool.keep_part()
+        return found
 
     def checkpoint(self):
         """Write and sync all changed pages, and clear the log."""

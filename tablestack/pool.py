@@ -8,7 +8,8 @@ class Pool:
     """Pages by number, how recently each was used, and which were changed since they were written.
 
     The pages stand in the order of their last use. Of each page of the open group is kept what it was before: the page
-    (None if it was not in memory), and whether it was changed.
+    (None if it was not in memory), and whether it was changed. Parts of the open group that can be undone by themselves
+    stand within one another; of each page of a part is kept what it was before (None if it was not in the group).
     """
 
     def __init__(self, disk, capacity):
@@ -19,6 +20,7 @@ class Pool:
         self.pages = {}
         self.changed = {}
         self.open_group = {}
+        self.parts = []
         self.reads = 0
         self.writes = 0
 
@@ -42,6 +44,8 @@ class Pool:
             self.make_room(self.capacity - 1)
         else:
             before = self.pages.pop(number)
+        if self.parts != [] and number not in self.parts[-1]:
+            self.parts[-1][number] = before if number in self.open_group else None
         if number not in self.open_group:
             self.open_group[number] = (before, number in self.changed)
         self.pages[number] = page
@@ -54,19 +58,50 @@ class Pool:
     def close_group(self):
         """End the open group: its pages may be written now."""
         self.open_group = {}
+        self.parts = []
         self.make_room(self.capacity)
 
     def drop_group(self):
         """Bring back the pages of the open group as they were before it."""
         for number in sorted(self.open_group):
-            before, was_changed = self.open_group[number]
-            if before is None:
-                del self.pages[number]
+            self.leave_group(number)
+        self.parts = []
+        self.make_room(self.capacity)
+
+    def leave_group(self, number):
+        """Bring back a page of the open group as it was before the group, which it leaves."""
+        before, was_changed = self.open_group.pop(number)
+        if before is None:
+            del self.pages[number]
+        else:
+            self.pages[number] = before
+        if not was_changed:
+            del self.changed[number]
+
+    def begin_part(self):
+        """Begin a part of the open group."""
+        self.parts.append({})
+
+    def keep_part(self):
+        """End the last part, whose pages count as those of the one around it; none is left if the group has ended."""
+        if self.parts == []:
+            return
+        part = self.parts.pop()
+        if self.parts != []:
+            around = self.parts[-1]
+            for number in part:
+                around.setdefault(number, part[number])
+
+    def drop_part(self):
+        """Bring back the pages of the last part as they were before it, if the group has not ended."""
+        if self.parts == []:
+            return
+        part = self.parts.pop()
+        for number in sorted(part):
+            if part[number] is None:
+                self.leave_group(number)
             else:
-                self.pages[number] = before
-            if not was_changed:
-                del self.changed[number]
-        self.open_group = {}
+                self.pages[number] = part[number]
         self.make_room(self.capacity)
 
     def flush(self):

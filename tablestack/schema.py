@@ -78,7 +78,7 @@ class Table:
 
 
 class Catalog:
-    """Tables, indexes and views by their names; a view is the text of its query."""
+    """Tables, indexes and views by their names; a view is its query, as a text or as a tuple."""
 
     def __init__(self):
         self.tables = {}

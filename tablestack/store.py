@@ -9,10 +9,9 @@ from tablestack.codec import fixed, key_of, number_from, record_of, row_from, up
 from tablestack.entries import (
     INDEX_LETTER, TABLE_LETTER, VIEW_LETTER, drop_entry, piece_size, put_entry, read_entries,
 )
-from tablestack.errors import ConstraintFault, NameFault, TreeFault
+from tablestack.errors import ConstraintFault, NameFault, TableError, TreeFault
 from tablestack.pager import META_NUMBER, ROOT_NUMBER
 from tablestack.pages import LEAF, Page
-from tablestack.printer import query_text
 from tablestack.schema import Catalog, Index, table_from, table_shown
 
 LAST_STAMP = 2 ** 62
@@ -114,7 +113,11 @@ class TableStore:
         return all(tree.fits((*self.index_key(index, row), *row_key), ()) for index, tree in self.index_pairs())
 
     def write(self, row_key, row, stamp):
-        """Add a version of a row, None for a row that goes."""
+        """Add a version of a row, None for a row that goes; neither it nor its index keys are there after a fault."""
+        self.tree.pager.whole(self.put_version, row_key, row, stamp)
+
+    def put_version(self, row_key, row, stamp):
+        """Add a version of a row; what is done ahead of a fault stays."""
         if row is None:
             self.tree.put(version_key(row_key, stamp), GONE)
             return
@@ -124,6 +127,10 @@ class TableStore:
 
     def vacuum(self, oldest):
         """Drop versions that no snapshot from a stamp on sees, and index keys without a version; return how many."""
+        return self.tree.pager.whole(self.drop_versions, oldest)
+
+    def drop_versions(self, oldest):
+        """Drop versions that no snapshot from a stamp on sees; what is done ahead of a fault stays."""
         versions = {}
         for key, value in self.tree.scan():
             row_key, stamp = split_version(key)
@@ -194,8 +201,8 @@ class Store:
             self.add_table(table_from(shown), Tree(pager, root))
         for name, (shown, root) in entries[INDEX_LETTER]:
             self.add_index(Index(*shown), Tree(pager, root))
-        for name, text in entries[VIEW_LETTER]:
-            self.catalog.views[name] = text
+        for name, query in entries[VIEW_LETTER]:
+            self.catalog.views[name] = query
 
     def add_table(self, table, tree):
         """Take in a table whose versions stand in a tree."""
@@ -211,8 +218,36 @@ class Store:
         """Return a new tree."""
         return Tree(self.pager, self.pager.fresh(Page(LEAF, 0, ())))
 
+    def saved(self):
+        """Return what is known of the catalog and the stores, so that it can be brought back."""
+        indexes = {name: dict(self.stores[name].indexes) for name in self.stores}
+        return (self.catalog.copied(), dict(self.stores), indexes)
+
+    def bring_back(self, saved):
+        """Know of the catalog and the stores what was saved; their tables stay the same ones, which others may hold."""
+        before, stores, indexes = saved
+        refill(self.catalog.tables, before.tables)
+        refill(self.catalog.indexes, before.indexes)
+        refill(self.catalog.views, before.views)
+        refill(self.stores, stores)
+        for name in indexes:
+            refill(stores[name].indexes, indexes[name])
+
+    def change_whole(self, change, *arguments):
+        """Carry out a change of the catalog; if it raises a fault, the catalog and all pages are as they were."""
+        saved = self.saved()
+        try:
+            self.pager.whole(change, *arguments)
+        except TableError:
+            self.bring_back(saved)
+            raise
+
     def create_table(self, table, indexes):
         """Add a table and its constraints' indexes."""
+        self.change_whole(self.put_table, table, indexes)
+
+    def put_table(self, table, indexes):
+        """Add a table and its constraints' indexes; what is done ahead of a fault stays."""
         piece_size(self.catalog_tree, TABLE_LETTER, table.name)
         for index in indexes:
             piece_size(self.catalog_tree, INDEX_LETTER, index.name)
@@ -220,11 +255,16 @@ class Store:
         self.add_table(table, tree)
         put_entry(self.catalog_tree, TABLE_LETTER, table.name, (table_shown(table), tree.root))
         for index in indexes:
-            self.create_index(index)
+            self.put_index(index)
 
     def create_index(self, index):
         """Add an index over the rows that are there; raise ConstraintFault if it cannot hold them."""
+        self.change_whole(self.put_index, index)
+
+    def put_index(self, index):
+        """Add an index over the rows that are there; what is done ahead of a fault stays."""
         piece_size(self.catalog_tree, INDEX_LETTER, index.name)
+        self.catalog.table_named(index.table)
         tree = self.fresh_tree()
         self.add_index(index, tree)
         put_entry(self.catalog_tree, INDEX_LETTER, index.name, (index.shown(), tree.root))
@@ -250,13 +290,16 @@ class Store:
             tree.put(key, ())
 
     def create_view(self, name, query):
-        """Add a view; its query is kept as a text."""
+        """Add a view; its query, a tuple or a text, is kept as it is told."""
+        self.change_whole(self.put_view, name, query)
+
+    def put_view(self, name, query):
+        """Add a view; what is done ahead of a fault stays."""
         piece_size(self.catalog_tree, VIEW_LETTER, name)
         if name in self.catalog.tables or name in self.catalog.views:
             raise NameFault(f"{name} is declared already")
-        text = query if isinstance(query, str) else query_text(query)
-        self.catalog.views[name] = text
-        put_entry(self.catalog_tree, VIEW_LETTER, name, text)
+        self.catalog.views[name] = query
+        put_entry(self.catalog_tree, VIEW_LETTER, name, query)
 
     def drop_table(self, name):
         """Drop a table with its rows and indexes."""
@@ -307,6 +350,12 @@ class Store:
         return len(used) - len(free)
 
 
+def refill(found, wanted):
+    """Let a table of names hold what another one holds."""
+    found.clear()
+    found.update(wanted)
+
+
 def shares_values(index, rows):
     """Return True if rows share values of an index, rows with NULL among these left out."""
     values = [tuple([row[place] for place in index.places]) for row in rows]
@@ -320,7 +369,8 @@ def index_keys(store, index):
     for key, value in store.versions():
         if value != GONE:
             row_key, _ = split_version(key)
-            found[(*store.index_key(index, row_from(value)), *row_key)] = True
+            index_key = (*store.index_key(index, row_from(value)), *row_key)
+            found[index_key] = True
     return sorted(found)
 
 

@@ -3,7 +3,7 @@
 from tablestack.binder import Binder, fitting
 from tablestack.errors import KindFault, NameFault, PlanFault
 from tablestack.grouping import GroupBinder, is_grouped
-from tablestack.parser import parse
+from tablestack.naming import view_query
 from tablestack.plans import check_plan, width
 from tablestack.scope import Scope, joined_scope, table_scope
 
@@ -129,7 +129,7 @@ class Translator:
         """Return (plan, ((name, kind), ..)) of a view, which sees no columns of the query that reads it."""
         if self.views == MOST_VIEWS:
             raise PlanFault("views are nested too deep")
-        query = parse(view) if isinstance(view, str) else view
+        query = view_query(view)
         self.views += 1
         try:
             return self.query_plan(query, ())

@@ -1,8 +1,27 @@
-"""Databases for tests: sessions over new disks, and what they hold."""
+"""Databases for tests: stores and sessions over new disks, and what they hold."""
 
 from tablestack.disk import Disk
 from tablestack.errors import TableError
+from tablestack.pager import format_disk, recover
+from tablestack.parser import parse
+from tablestack.schema import declared_table
 from tablestack.server import Session, connect
+from tablestack.store import Store
+
+
+def store_with(*texts, size=400, capacity=16):
+    """Return a store with tables that statements create."""
+    store = Store(format_disk(Disk(size), capacity))
+    for text in texts:
+        table, indexes = declared_table(parse(text))
+        store.create_table(table, indexes)
+    return store
+
+
+def made_anew(store):
+    """Return the store of a disk on which all changes were kept."""
+    store.pager.commit(store.pager.last_stamp() + 1)
+    return Store(recover(store.pager.disk.restarted((), 0)))
 
 
 def session_with(*texts, size=400, capacity=16, options=None):

@@ -6,9 +6,10 @@ import unittest
 from tablestack.btree import Tree, child_for, children_of, halves
 from tablestack.codec import fixed
 from tablestack.disk import Disk
-from tablestack.errors import PageFault, TreeFault
+from tablestack.errors import DiskFault, PageFault, TreeFault
 from tablestack.pager import format_disk, recover
 from tablestack.pages import INNER, LEAF, Page, cell_room
+from tests.faults import check_each_fault, pages_held
 
 SIZES = (96, 97, 120, 200, 400)
 
@@ -225,6 +226,56 @@ class TreeTest(unittest.TestCase):
         tree.pager.cancel()
         self.assertEqual((tree.scan(), tree.page_numbers(), tree.pager.free_pages()), before)
         self.assertEqual(tree.check(), 100)
+
+
+class FaultTest(unittest.TestCase):
+    """A change of a tree that faults at any of its steps changes nothing (point 1)."""
+
+    def check_fault(self, tree, change):
+        """Check a change that faults at each step, and return how many pages the tree has more behind it."""
+        many = len(tree.page_numbers())
+        check_each_fault(self, tree.pager.pool, lambda: pages_held(tree.pager), change)
+        tree.check()
+        return len(tree.page_numbers()) - many
+
+    def test_puts_and_removals(self):
+        for capacity in (1, 16):
+            grown, shrunk = set(), set()
+            tree = empty_tree(96, capacity)
+            tree.pager.commit(1)
+            for number in range(40):
+                grown.add(self.check_fault(tree, lambda: tree.put(fixed(number * 7 % 40, 2), (1,) * 10)))
+            tree.pager.commit(2)
+            for number in range(40):
+                shrunk.add(self.check_fault(tree, lambda: tree.remove(fixed(number * 3 % 40, 2))))
+            self.assertEqual((tree.scan(), tree.page_numbers()), ([], [tree.root]))
+            self.assertTrue({0, 1, 2} <= grown and {0, -1, -2} <= shrunk, (grown, shrunk))
+
+    def test_clearing(self):
+        tree = filled_tree([fixed(number, 2) for number in range(60)])
+        tree.pager.commit(1)
+        self.assertLess(self.check_fault(tree, tree.clear), -5)
+
+    def test_crashes(self):
+        # With a pool of few pages a change writes pages of earlier groups, and may crash at each of these writes.
+        crashed = 0
+        for fuse in range(8):
+            keys = [fixed(number, 2) for number in range(40)]
+            tree = filled_tree(keys, 96, 4)
+            tree.pager.commit(1)
+            before = pairs(keys)
+            tree.pager.disk.arm(fuse)
+            try:
+                tree.clear()
+                self.assertEqual(tree.scan(), [])
+            except DiskFault:
+                crashed += 1
+                shown = {number: tree.pager.pool.pages[number].shown() for number in tree.pager.pool.pages}
+                disk = tree.pager.disk.restarted((), 0)
+                found = Tree(recover(disk), tree.root)
+                self.assertEqual((found.scan(), tree.pager.pool.open_group), (before, {}))
+                self.assertEqual(shown, {number: found.pager.page(number).shown() for number in shown})
+        self.assertGreater(crashed, 2)
 
 
 class PartsTest(unittest.TestCase):

@@ -160,6 +160,90 @@ class DumpTest(unittest.TestCase):
         self.assertEqual(len(session.engine.active), 1)
 
 
+class CheckedTest(unittest.TestCase):
+    """Dumps of tables whose checks read other tables and views."""
+
+    def check_made_again(self, *texts):
+        """Check that a dump makes the same database, and return the words of its statements."""
+        session = session_with(*texts)
+        told = dump(session.engine)
+        again = restore(told, Disk(300))
+        self.assertEqual(values(held(again.engine)), values(held(session.engine)))
+        self.assertEqual(dump(again.engine), told)
+        again.engine.check()
+        return [" ".join(text.split()[:3]) for text in told]
+
+    def test_a_table_that_a_check_reads(self):
+        words = self.check_made_again("create table z (a int)", "create table b (x int, check (x in (select a from z)))",
+            "insert into z values (1), (2)", "insert into b values (1)", "create table c (y int)", "create table a (y int)")
+        self.assertEqual(words, ["create table a", "create table c", "create table z", "insert into z", "create table b",
+            "insert into b"])
+
+    def test_checks_that_read_in_any_place(self):
+        for test in ("exists (select * from z where z.a = x)", "x = (select max(a) from z)",
+            "x > 0 and not x not in (select q.a from z q union select 0)", "case when x in (select a from z) then 1 else 0 end = 1",
+            "x in (select s.m from (select a as m from z) s left join z on s.m = z.a)",
+            "x in (select a from z group by a having count(*) = (select count(*) from z where a = x))"):
+            words = self.check_made_again("create table z (a int)", f"create table b (x int, check ({test}))",
+                "insert into z values (1), (2)", "insert into b values (2)")
+            self.assertEqual(words, ["create table z", "insert into z", "create table b", "insert into b"], test)
+
+    def test_several_checks_and_references(self):
+        words = self.check_made_again(
+            "create table y (k int, primary key (k))", "create table x (a int, foreign key (a) references y (k))",
+            "create table w (b int)", "create table d (e int, check (e > 0))",
+            "create table c (d int, check (d in (select a from x)), check (d <> 0), check (exists (select * from w where b = d)))",
+            "create table b (d int, primary key (d), foreign key (d) references b (d), check (d in (select d from c)))",
+            "insert into y values (1), (2)", "insert into x values (2), (1)", "insert into w values (1)",
+            "insert into d values (3)", "insert into c values (1)", "insert into b values (1)")
+        self.assertEqual([word for word in words if word.startswith("create")],
+            [f"create table {name}" for name in "dwyxcb"])
+        self.assertEqual([word[-1] for word in words if word.startswith("insert")], list("dwyxcb"))
+
+    def test_views_that_checks_read(self):
+        words = self.check_made_again(
+            "create table z (a int)", "create view v as select a from z where a > 0", "create view u as select a + 1 as m from v",
+            "create table b (x int, check (x in (select m from u)))", "create table c (x int, check (x in (select a from v)))",
+            "create view t as select x from b", "create view a as select 1", "create index i on z (a)",
+            "insert into z values (1), (2), (-1)", "insert into b values (2), (3)", "insert into c values (1)")
+        self.assertEqual(words, ["create table z", "insert into z", "create view v", "create view u", "create table b",
+            "insert into b", "create table c", "insert into c", "create index i", "create view a", "create view t"])
+
+    def test_orders(self):
+        session = session_with("create table z (a int)", "create view v as select a from z",
+            "create table b (x int, check (x in (select a from v)))", "create table a (x int, check (x in (select x from b)))",
+            "create table c (x int, check (x > 1))")
+        catalog = session.engine.store.catalog
+        self.assertEqual((table_order(catalog), view_order(catalog)), (["c", "z", "b", "a"], ["v"]))
+        catalog.views["v"] = parse("select x as a from c")
+        self.assertEqual(table_order(catalog), ["c", "b", "a", "z"])
+        catalog.views["v"] = "selec"
+        self.assertRaises(TextError, table_order, catalog)
+
+    def test_tables_whose_checks_read_one_another(self):
+        # Only tables that were dropped in between can be so; no statements make them, but all of them are told.
+        session = session_with("create table z (a int)", "create table b (x int, check (x in (select a from z)))",
+            "drop table z")
+        self.assertEqual(table_order(session.engine.store.catalog), ["b"])
+        session.run("create table z (a int, check (a in (select x from b)))")
+        session.run("create table a (y int, check (y in (select a from z)))")
+        self.assertEqual(table_order(session.engine.store.catalog), ["a", "b", "z"])
+        self.assertEqual(len(dump(session.engine)), 3)
+
+    def test_a_view_of_a_tuple(self):
+        session = session_with("create table t (a int)", "insert into t values (5)")
+        query = parse("select a + 1 as b from t where a > 0")
+        session.engine.define(lambda store: store.create_view("v", query))
+        session.run("create view w as select b from v")
+        self.assertEqual((session.run("select * from w").rows, session.run("select * from v").names), (((6,),), ("b",)))
+        self.assertRaises(ConstraintFault, session.run, "drop table t")
+        self.assertRaises(ConstraintFault, session.run, "drop view v")
+        texts = dump(session.engine)
+        self.assertEqual(texts[-2:], ["create view v as select a + 1 as b from t where a > 0",
+            "create view w as select b from v"])
+        self.assertEqual(dump(restore(texts, Disk(400)).engine), texts)
+
+
 class StandbyTest(unittest.TestCase):
     def setUp(self):
         self.session = session_with("create table t (a int, primary key (a))", size=200)

@@ -8,8 +8,12 @@ from tablestack.disk import Disk
 from tablestack.engine import Engine, Transaction, open_engine
 from tablestack.errors import ConflictFault, ConstraintFault, DiskFault, NameFault, PageFault, StateFault
 from tablestack.pager import format_disk
+from tablestack.parser import parse
+from tablestack.schema import declared_table
 from tablestack.store import Store, split_version
-from tests.test_store import TEXT, store_with
+from tests.databases import store_with
+from tests.faults import check_each_fault, store_state
+from tests.test_store import TEXT
 
 TABLES = ("create table t (a int, b text, primary key (a), unique (b))", "create table u (d int, e int)")
 
@@ -400,6 +404,66 @@ class CatalogTest(unittest.TestCase):
             (1, shown, used, log))
         committed(engine, "u", (), [(1, (1, 1))])
         engine.check()
+
+    def test_views_of_any_tuples(self):
+        engine = open_engine(Disk(256))
+        for many, query in enumerate((("query",), (), ("a", (None, True, (-5, "x"))), parse("select 1"), "select 1"), 1):
+            engine.define(lambda store: store.create_view(f"w{many}", query))
+            self.assertEqual((engine.stamp, engine.store.catalog.views[f"w{many}"]), (many, query))
+            engine.check()
+        again = open_engine(engine.pager.disk.restarted((), 0))
+        self.assertEqual((again.store.catalog.shown(), again.stamp), (engine.store.catalog.shown(), 5))
+        engine.define(lambda store: store.drop_view("w1"))
+        one = engine.begin()
+        self.assertRaises(StateFault, engine.define, lambda store: store.create_view("w1", ("query",)))
+        self.assertNotIn("w1", engine.store.catalog.views)
+        engine.rollback(one)
+        again.check()
+
+    def test_faults_at_each_step(self):
+        engine = engine_with(*TABLES, size=200, capacity=4)
+        committed(engine, "t", (), [(0, (number, f"x{number}")) for number in range(30)])
+        committed(engine, "t", [key(number) for number in range(0, 30, 3)], ())
+        one = engine.begin()
+        one.change("t", [key(1)], [(0, (number, f"y{number}")) for number in range(40, 45)])
+
+        def change(store):
+            """Change the catalog in several ways."""
+            store.create_view("w", ("query",))
+            store.drop_table("u")
+            table, indexes = declared_table(parse("create table n (a int, unique (a))"))
+            store.create_table(table, indexes)
+
+        def state():
+            """Return all that the engine has."""
+            return (engine.stamp, list(engine.active), engine.pager.disk.log, store_state(engine.store))
+
+        for carry_out in (lambda: engine.commit(one), engine.vacuum, lambda: engine.define(change)):
+            stamp = engine.stamp
+            self.assertGreater(check_each_fault(self, engine.pager.pool, state, carry_out), 5)
+            self.assertEqual((engine.stamp, engine.active), (stamp + 1, []))
+            engine.check()
+        again = open_engine(engine.pager.disk.restarted((), 0))
+        self.assertEqual((again.store.catalog.shown(), again.begin().table_rows("t")),
+            (engine.store.catalog.shown(), engine.begin().table_rows("t")))
+        self.assertEqual((sorted(again.store.stores), len(again.begin().table_rows("t"))), (["n", "t"], 24))
+
+    def test_what_fails_leaves_the_open_group(self):
+        engine = engine_with(*TABLES)
+        store = engine.store
+        store.create_view("w", ("query",))
+        before = store_state(store)
+        self.assertRaises(NameFault, engine.define, lambda one: [one.drop_table("u"), one.create_view("w", ())])
+        self.assertEqual((engine.store, store_state(store)), (store, before))
+        engine.check()
+
+    def test_a_change_that_crashes(self):
+        for fuse in (0, 1):
+            engine = engine_with(*TABLES)
+            before = store_state(engine.store)
+            engine.pager.disk.arm(fuse)
+            self.assertRaises(DiskFault, engine.define, lambda store: store.drop_table("u"))
+            self.assertEqual((engine.stamp, store_state(engine.store)), (1, before))
 
     def test_crashes(self):
         engine = engine_with(*TABLES)

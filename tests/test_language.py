@@ -158,6 +158,13 @@ class LanguageTest(unittest.TestCase):
                 if isinstance(node, ast.ExceptHandler):
                     self.assertIsNotNone(node.type, place)
 
+    def test_no_star_stands_in_brackets_of_an_index(self):
+        for name, tree in trees():
+            for node in ast.walk(tree):
+                if isinstance(node, ast.Subscript):
+                    stars = [one for one in ast.walk(node.slice) if isinstance(one, ast.Starred)]
+                    self.assertEqual(stars, [], (name, node.lineno))
+
     def test_names(self):
         functions = own_names(ast.FunctionDef)
         for name, tree in trees():

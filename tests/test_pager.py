@@ -115,6 +115,43 @@ class PagerTest(unittest.TestCase):
         pager.commit(2)
         self.assertEqual(contents(recover(pager.disk.restarted((), 0)))[:2], (2, (number,)))
 
+    def test_a_change_is_whole(self):
+        for capacity in (1, 2, 16):
+            pager = format_disk(Disk(SIZE), capacity)
+            pager.fresh(leaf(5))
+            pager.commit(1)
+            kept = pager.fresh(leaf(6))
+
+            def change(*numbers):
+                """Change pages and free one, unless it cannot be freed."""
+                pager.put(kept, leaf(7))
+                pager.fresh(leaf(8))
+                for number in numbers:
+                    pager.free(number)
+                return "done"
+
+            before = contents(pager)
+            self.assertRaises(PageFault, pager.whole, change, 2, 0)
+            self.assertEqual((contents(pager), pager.whole(change, 2)), (before, "done"))
+            self.assertEqual((pager.free_pages(), pager.page(kept).shown()), ((2,), leaf(7).shown()))
+            pager.cancel()
+            self.assertEqual((pager.page_count(), pager.page(2).shown()), (3, leaf(5).shown()))
+
+    def test_a_change_may_end_its_group(self):
+        pager = format_disk(Disk(SIZE))
+        pager.whole(lambda: [pager.put(1, leaf(4)), pager.commit(3), pager.put(1, leaf(5))])
+        pager.cancel()
+        self.assertEqual((pager.last_stamp(), pager.page(1).shown()), (3, leaf(4).shown()))
+
+    def test_commits_that_crash(self):
+        for fuse in (0, 1):
+            pager = format_disk(Disk(SIZE))
+            pager.put(1, leaf(4))
+            before = (contents(pager), pager.groups)
+            pager.disk.arm(fuse)
+            self.assertRaises(DiskFault, pager.commit, 3)
+            self.assertEqual((contents(pager), pager.groups), before)
+
     def test_checkpoints(self):
         disk = Disk(SIZE)
         pager = format_disk(disk)

@@ -172,6 +172,69 @@ class PoolTest(unittest.TestCase):
                 self.assertEqual(pool.disk.blocks[0], page_bytes(leaf(90), SIZE))
                 self.assertEqual(pool.disk.blocks[9], page_bytes(leaf(99), SIZE))
 
+    def test_parts_that_are_dropped(self):
+        for capacity in (1, 2, 6):
+            pool = filled(capacity)
+            pool.put(0, leaf(60))
+            pool.put(9, leaf(69))
+            pool.begin_part()
+            for number in (0, 1, 9, 8, 1):
+                pool.put(number, leaf(70 + number))
+                pool.page(4)
+            pool.drop_part()
+            self.assertEqual([number for number, data in pool.group_images()], [0, 9])
+            self.assertLessEqual(len(pool.pages), max(capacity, 2))
+            self.assertEqual([shown(pool, number) for number in (0, 1, 9)],
+                [leaf(number).shown() for number in (60, 1, 69)])
+            self.assertRaises(DiskFault, pool.page, 8)
+            self.assertEqual((sorted(pool.changed), pool.disk.steps), ([0, 9], 0))
+            pool.drop_group()
+            self.assertEqual((shown(pool, 0), pool.changed, pool.group_images()), (leaf(0).shown(), {}, []))
+
+    def test_parts_within_one_another(self):
+        for ends in ("kk", "kd", "dk", "dd"):
+            pool = filled(2)
+            pool.put(0, leaf(60))
+            pool.begin_part()
+            pool.put(1, leaf(61))
+            pool.begin_part()
+            for number in (0, 1, 2):
+                pool.put(number, leaf(70 + number))
+            inside = (70, 71, 72) if ends[0] == "k" else (60, 61, 2)
+            (pool.keep_part if ends[0] == "k" else pool.drop_part)()
+            self.assertEqual([shown(pool, number) for number in range(3)], [leaf(one).shown() for one in inside])
+            (pool.keep_part if ends[1] == "k" else pool.drop_part)()
+            wanted = inside if ends[1] == "k" else (60, 1, 2)
+            self.assertEqual([shown(pool, number) for number in range(3)], [leaf(one).shown() for one in wanted], ends)
+            self.assertEqual([number for number, data in pool.group_images()],
+                [number for number in range(3) if wanted[number] > 5])
+            pool.drop_group()
+            self.assertEqual([shown(pool, number) for number in range(3)], [leaf(n).shown() for n in range(3)])
+
+    def test_parts_end_with_their_group(self):
+        for end in (Pool.close_group, Pool.drop_group):
+            pool = filled(6)
+            for _ in range(2):
+                pool.begin_part()
+                pool.put(0, leaf(60))
+            end(pool)
+            before = shown(pool, 0)
+            pool.drop_part()
+            pool.keep_part()
+            self.assertEqual((shown(pool, 0), pool.group_images()), (before, []))
+
+    def test_pages_of_earlier_groups_are_brought_back_changed(self):
+        pool = filled(1)
+        pool.put(0, leaf(60))
+        pool.close_group()
+        pool.begin_part()
+        pool.put(0, leaf(70))
+        pool.page(1)
+        pool.drop_part()
+        self.assertEqual(shown(pool, 0), leaf(60).shown())
+        pool.flush()
+        self.assertEqual(pool.disk.blocks[0], page_bytes(leaf(60), SIZE))
+
     def test_flush(self):
         pool = filled(6)
         for number in (2, 0):

@@ -6,29 +6,15 @@ import unittest
 from tablestack.codec import fixed, key_of, record_of, upper_key
 from tablestack.disk import Disk
 from tablestack.errors import ConstraintFault, NameFault, TreeFault
-from tablestack.pager import format_disk, recover
+from tablestack.pager import format_disk
 from tablestack.pages import LEAF, Page
 from tablestack.parser import parse
 from tablestack.schema import Index, declared_table
 from tablestack.store import Store, TableStore, check_indexes, split_version, version_key
+from tests.databases import made_anew, store_with
 
 TEXT = "create table t (a int, b text, c int{})"
 KEYS = {"": (), ", primary key (a)": (0,), ", primary key (c, a)": (2, 0), ", primary key (b)": (1,)}
-
-
-def store_with(*texts, size=400, capacity=16):
-    """Return a store with tables that statements create."""
-    store = Store(format_disk(Disk(size), capacity))
-    for text in texts:
-        table, indexes = declared_table(parse(text))
-        store.create_table(table, indexes)
-    return store
-
-
-def made_anew(store):
-    """Return the store of a disk on which all changes were kept."""
-    store.pager.commit(store.pager.last_stamp() + 1)
-    return Store(recover(store.pager.disk.restarted((), 0)))
 
 
 class VersionTest(unittest.TestCase):
@@ -236,7 +222,9 @@ class CatalogTest(unittest.TestCase):
             "create table t (a int not null, b text default 'it''s\n', c int default -5, primary key (c, a), unique (b), unique (a, b), "
             "check (a > 0 or b like '*x'), foreign key (a, c) references t (c, a))", "create table u (d text)",
             size=150)
-        store.create_view("v", parse("select a, 'x' as b from t where b is not null order by 1 desc limit 3"))
+        query = parse("select a, 'x' as b from t where b is not null order by 1 desc limit 3")
+        store.create_view("v", query)
+        store.create_view("w", "select d from u")
         store.create_index(Index("i", "u", False, (0,)))
         for again in (Store(store.pager), made_anew(store)):
             self.assertEqual(again.catalog.shown(), store.catalog.shown())
@@ -245,7 +233,7 @@ class CatalogTest(unittest.TestCase):
             self.assertEqual({name: one.tree.root for name, one in again.stores.items()},
                 {name: one.tree.root for name, one in store.stores.items()})
             self.assertEqual(again.catalog.tables["t"].references, (((0, 2), "t", (2, 0)),))
-        self.assertEqual(parse(store.catalog.views["v"])[0], "query")
+        self.assertEqual(store.catalog.views, {"v": query, "w": "select d from u"})
 
     def test_names_that_are_there(self):
         store = store_with("create table t (a int)")
